@@ -1,0 +1,1 @@
+"""Crestjoin: what joins can come to, and plans led from papers."""

@@ -1,0 +1,1 @@
+"""Lots, letters, bounds and the checks that all other files share."""

@@ -1,0 +1,1 @@
+"""Covers and packings of lots."""

@@ -1,0 +1,1 @@
+"""Linear programs, by integers alone."""

@@ -1,0 +1,1 @@
+"""Answers that are searched letter by letter."""

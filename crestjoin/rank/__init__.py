@@ -1,0 +1,1 @@
+"""Ranks on lots."""

@@ -1,0 +1,1 @@
+"""Tables, joins and questions."""
