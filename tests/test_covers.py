@@ -274,9 +274,10 @@ class WrongArgumentsTest(unittest.TestCase):
         for call in (cover_answer, least_whole):
             check_wrongs(self, call, right, pairs)
         check_wrongs(self, cover_corners, (THREE,), ((self.LOTS,),))
-        check_wrongs(self, is_cover, (THREE, (1, (1, 1, 1))), ((self.LOTS,), ()))
-        check_wrongs(self, is_packing, right + ((1, {0: 1, 1: 1, 2: 1}),), pairs + ((),))
-        check_wrongs(self, is_cover_answer, right + (cover_answer(*right),), pairs + ((),))
+        for value in (None, (1, (1, 1, 1)), (1, {0: 1, 1: 1, 2: 1}), cover_answer(*right)):
+            check_wrongs(self, is_cover, (THREE, value), ((self.LOTS,), ()))
+            check_wrongs(self, is_packing, right + (value,), pairs + ((),))
+            check_wrongs(self, is_cover_answer, right + (value,), pairs + ((),))
         self.assertEqual(cover_answer((SIX,) * 12, (20,) * 12)[1], (20, 1))
         refused(self, InvalidOperation, cover_answer, ((), (0,)))
 

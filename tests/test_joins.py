@@ -293,7 +293,8 @@ class AnswerTest(unittest.TestCase):
         question = (InvalidQuestion, WRONG_QUESTIONS)
         check_wrongs(self, answer, (SOME_QUESTION,), ((question,),))
         check_wrongs(self, board, (SOME_QUESTION, 1), ((question,), ((InvalidNumber, wrong_numbers(0, 2)),)))
-        check_wrongs(self, is_answer_row, (SOME_QUESTION, (0, 1)), ((question,), ()))
+        for value in ((0, 1), None, (0,)):
+            check_wrongs(self, is_answer_row, (SOME_QUESTION, value), ((question,), ()))
 
 
 class NotTrueTest(unittest.TestCase):

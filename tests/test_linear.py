@@ -161,6 +161,12 @@ class AnswerTest(unittest.TestCase):
                 value = linear_answer(*program)
                 self.assertTrue(value[0] == "least" and is_told(*program, value))
 
+    def test_ways_along_which_just_one_row_is_left(self):
+        for program in ((((-2, 2), (-1, 0)), (0, -2), (-2, -2)), (((-2, 1), (-2, 1), (-1, 0)), (2, 0, -2), (-1, -2)),
+                        (((-2, 1, 1), (1, -1, 1), (-2, 0, 1)), (1, 1, 1), (-2, -1, 2))):
+            value = linear_answer(*program)
+            self.assertTrue(value[0] == "endless" and is_told(*program, value))
+
     def test_edges(self):
         self.assertEqual(linear_answer((), (), ())[0], "least")
         self.assertEqual(linear_answer((), (), (0, 1))[0], "least")
@@ -242,12 +248,12 @@ class JudgeTest(unittest.TestCase):
                  ("most",) + least[1:], (0,) + least[1:], ("least", (4, (2, 2)), least[2]), ("least", least[1], (2, (1, 1))),
                  ("least", least[1], (1, 1, 1)), ("least", least[1], (2, (1, 1, "1"))), ("least", None, None),
                  ("least", (0, (2, 2, 2)), least[2]), ("least", least[1], (0, (0, 0, 0))), ("none", None), ("endless",),
-                 ("least", (2, (1, 1, 2)), least[2]), ("least", least[1], (2, (1, 1, 0))), ("none", ()), ("least",),
+                 ("least", least[1], (2, (1, 1, 1, 0))), ("least", (2, (1, 1, 2)), least[2]), ("least", least[1], (2, (1, 1, 0))), ("none", ()), ("least",),
                  (("least",),) + least[1:], ("least", (4, (2, 2, 2, 0)), least[2]), ("Least",) + least[1:]]
         check_judge(self, lambda value: is_linear(*program, value), [least, ("least", (2, (1, 1, 1)), (6, (3, 3, 3)))], wrong)
         check_judge(self, lambda value: is_linear(((1,), (-1,)), (3, -2), (0,), value), [("none", (1, 1)), ("none", (7, 7))],
                     [("none", (1, 2)), ("none", (-1, -1)), ("none", (0, 0)), ("none", (1,)), ("none", (1, 1, 0)),
-                     ("none", (1, 1), 0), ("none", [1, 1]), ("none", (1, "1"))])
+                     ("none", (1, 1), 0), ("none", [1, 1]), ("none", (1, "1")), ("least", (1, 1)), ("some", (1, 1))])
         check_judge(self, lambda value: is_linear(((1, -1),), (0,), (-1, 0), value),
                     [("endless", (1, (0, 0)), (1, 1)), ("endless", (9, (5, 2)), (HUGE, 3))],
                     [("endless", (1, (0, 0)), (0, 0)), ("endless", (1, (0, 1)), (1, 1)), ("endless", (1, (0, 0)), (1, 2)),
@@ -350,14 +356,16 @@ class WrongArgumentsTest(unittest.TestCase):
     def test_programs(self):
         check_wrongs(self, linear_answer, self.RIGHT + ((1, 1),), ((self.ROWS,), (self.SIDES,), (self.COSTS,)))
         judged = self.RIGHT + ((1, 1), ("none", (1,)))
-        check_wrongs(self, is_linear, judged, ((self.ROWS,), (self.SIDES,), (self.COSTS,), ()))
+        for value in (judged[3], None, ("least", (1, (1, 0)), (1, (1,)))):
+            check_wrongs(self, is_linear, judged[:3] + (value,), ((self.ROWS,), (self.SIDES,), (self.COSTS,), ()))
         refused(self, InvalidOperation, linear_answer, ((), (), (0,) * 13))
         refused(self, InvalidOperation, linear_answer, (((0,) * 13,), (0,), (0,) * 13))
         self.assertEqual(linear_answer(((1,),) * 24, (1,) * 24, (1,))[0], "least")
         refused(self, InvalidOperation, linear_answer, (((1,),) * 25, (1,) * 25, (1,)))
 
     def test_many_is_looked_at_first(self):
-        for call, more in ((does_fit, ((1, (1, 1)),)), (is_corner, ((1, (1, 1)),)), (corners, ())):
+        judges = [(call, (value,)) for call in (does_fit, is_corner) for value in ((1, (1, 1)), None, (1, (0, 1)))]
+        for call, more in judges + [(corners, ())]:
             def told(many, rows, sides, *value):
                 return call(rows, sides, many, *value)
             wrongs = ((self.MANY,), (self.ROWS,), (self.SIDES,)) + ((),) * len(more)

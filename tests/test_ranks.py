@@ -242,8 +242,9 @@ class WrongArgumentsTest(unittest.TestCase):
         {**RIGHT, (): False}, tuple(RIGHT.items())))
 
     def test_lots(self):
-        check_wrongs(self, is_rank, ((0, 1), self.RIGHT), ((self.LOT,), ()))
-        check_wrongs(self, rank_fault, ((0, 1), self.RIGHT), ((self.LOT,), ()))
+        for value in (self.RIGHT, None, {}, 0):
+            check_wrongs(self, is_rank, ((0, 1), value), ((self.LOT,), ()))
+            check_wrongs(self, rank_fault, ((0, 1), value), ((self.LOT,), ()))
         check_wrongs(self, basic_sums, ((0, 1),), ((self.LOT,),))
         for call in (step_rank, parity_rank):
             check_wrongs(self, call, ((0, 1), (1,)), ((self.LOT,), (self.SOME_LOT, (InvalidOperation, ((),)))))

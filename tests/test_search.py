@@ -192,6 +192,8 @@ class ProductTest(unittest.TestCase):
         looks = (InvalidOperation, ((0,) * 7, 0, [0], (-1,), (LONG,), (True,), (None,), {}, None, SOME_TABLE, ("1",)))
         check_wrongs(self, are_looks_within, ((2,), (3, 3), (1, (1, 1))), ((looks,), (sizes,), (covers,)))
         refused(self, InvalidOperation, product_of, ((3, 3), (1, (1,))))
+        refused(self, InvalidOperation, product_of, ((), (1, ())))
+        refused(self, InvalidOperation, product_of, ((3,) * 13, (1, (1,) * 13)))
         self.assertEqual(product_of((3,) * 12, (1, (1,) * 12)), 3 ** 12)
 
 

@@ -105,7 +105,8 @@ class TableTest(unittest.TestCase):
             wrong = [(0,) * (len(lot) + 1), "0" * len(lot), {letter: 0 for letter in lot}, None]
             wrong += [(0,) * (len(lot) - 1) + (n,) for n in (LONG, -LONG, LONGEST, HUGE, None, "1", (1,)) if lot]
             check_judge(self, lambda value, lot=lot: is_row(lot, value), rows, wrong)
-        check_wrongs(self, is_row, ((0,), (1,)), (((InvalidLot, WRONG_LOTS),), ()))
+        for value in ((1,), None, ()):
+            check_wrongs(self, is_row, ((0,), value), (((InvalidLot, WRONG_LOTS),), ()))
 
 
 class PartsTest(unittest.TestCase):

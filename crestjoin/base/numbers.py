@@ -36,7 +36,6 @@ def is_below(number, bound):
 
 def most_within(bound):
     """The greatest integer that is within the bound."""
-    check_bound(bound)
     p, D = least_terms(bound)
     if D == 1:
         return 1 << p

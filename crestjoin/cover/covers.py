@@ -92,7 +92,7 @@ def is_cover_answer(lots, exponents, value):
     _, bound, cover, packing = value
     if not is_cover(lots, cover) or not is_packing(lots, exponents, packing):
         return False
-    if not is_pair(bound) or not are_from_nought(bound):
+    if not are_from_nought(bound):
         return False
     return bound == cover_bound(lots, exponents, cover) and bound == packing_bound(lots, exponents, packing)
 

@@ -16,12 +16,12 @@ def check_rank_lot(value):
 
 def check_lesser_lot(lot, value):
     """Refuses all but the lots within the lot."""
-    if not is_lot(value) or not is_within(value, lot):
+    if not is_within(value, lot):
         raise InvalidLot("the lesser lot is a lot within the lot")
 
 
 def check_rank(lot, value):
-    """Refuses all but the ranks on the lot."""
+    """Refuses all but the ranks on the lot, and ahead of them all but the lots of ranks."""
     if rank_fault(lot, value) is not None:
         raise InvalidRank("the rank is a rank on the lot")
 
@@ -93,7 +93,6 @@ def _shared_rank(lot, some, most):
 
 def sum_rank(lot, one, other):
     """The sum of two ranks."""
-    check_rank_lot(lot)
     check_rank(lot, one)
     check_rank(lot, other)
     return {lesser: one[lesser] + other[lesser] for lesser in lots_within(lot)}
@@ -101,7 +100,6 @@ def sum_rank(lot, one, other):
 
 def scaled_rank(lot, rank, number):
     """The rank so many times."""
-    check_rank_lot(lot)
     check_rank(lot, rank)
     check_number(number, 0)
     return {lesser: rank[lesser] * number for lesser in lots_within(lot)}
@@ -109,7 +107,6 @@ def scaled_rank(lot, rank, number):
 
 def restricted_rank(lot, rank, some):
     """What the rank tells of the lots within `some`."""
-    check_rank_lot(lot)
     check_rank(lot, rank)
     check_lesser_lot(lot, some)
     return {lesser: rank[lesser] for lesser in lots_within(some)}
@@ -117,7 +114,6 @@ def restricted_rank(lot, rank, some):
 
 def contracted_rank(lot, rank, some):
     """What the rank has, on the letters that are none of `some`, above what it has at `some`."""
-    check_rank_lot(lot)
     check_rank(lot, rank)
     check_lesser_lot(lot, some)
     return {lesser: rank[joined_lot(lesser, some)] - rank[some] for lesser in lots_within(rest_lot(lot, some))}
@@ -131,7 +127,6 @@ def basic_sums(lot):
 
 def rank_parts(lot, rank):
     """The sum of steps, and of the parity of all three letters, that the rank is."""
-    check_rank_lot(lot)
     check_rank(lot, rank)
     if len(lot) > MOST_WITH_PARTS:
         raise InvalidOperation("ranks on up to three letters are told as such sums")
