@@ -3,7 +3,7 @@
 import random
 from itertools import combinations, product
 
-from crestjoin.errors import InvalidNumber, TooMany
+from crestjoin.errors import InvalidNumber, Refused, TooMany
 from crestjoin.table.joins import Question
 from crestjoin.table.tables import Table
 
@@ -59,7 +59,7 @@ def shown(value):
     return repr(value)
 
 
-KEEPING = {InvalidNumber: "given", TooMany: "most"}
+KEEPING = {InvalidNumber: "given", TooMany: "most", Refused: "reason"}
 
 
 def refused(test, error, call, args, kept=None):
@@ -183,3 +183,148 @@ def random_question(chance, letters, numbers, most):
     return Question(tuple(letters), tuple(parts))
 
 
+def union(one, other):
+    """The letters of both lots."""
+    return tuple(sorted(set(one) | set(other)))
+
+
+def common(one, other):
+    """The letters that both lots have."""
+    return tuple(sorted(set(one) & set(other)))
+
+
+def less(one, other):
+    """The letters of the first lot that the other one lacks."""
+    return tuple(sorted(set(one) - set(other)))
+
+
+def ranks_plainly(lot, h):
+    """Whether h is a rank by all pairs of lots."""
+    lots = all_lots(lot)
+    return h[()] == 0 and all(h[x] <= h[y] for x in lots for y in lots if set(x) <= set(y)) and all(
+        h[x] + h[y] >= h[common(x, y)] + h[union(x, y)] for x in lots for y in lots)
+
+
+def some_ranks(lot, seed, times):
+    """Ranks from a chance that is the same in each run: sums of steps and of least ones of how many letters."""
+    chance = random.Random(seed)
+    lots = all_lots(lot)
+    for _ in range(times):
+        h = dict.fromkeys(lots, 0)
+        for _ in range(chance.randint(0, 5)):
+            some, most, by = chance.choice(lots), chance.randint(0, 3), chance.choice((1, 2, HUGE))
+            h = {x: h[x] + by * min(most, len(common(x, some))) for x in lots}
+        yield h
+
+
+def added(pairs):
+    """The sum of pairs (lot, number) as a dict, noughts and () left out."""
+    total = {}
+    for some, n in pairs:
+        total[some] = total.get(some, 0) + n
+    return {some: total[some] for some in sorted(total) if some != () and total[some] != 0}
+
+
+def made_plainly(crossings, drops):
+    """The sum that crossings and drops make, from the words of the document."""
+    pairs = []
+    for one, other, n in crossings:
+        pairs += [(one, n), (other, n), (common(one, other), -n), (union(one, other), -n)]
+    for low, high, n in drops:
+        pairs += [(high, n), (low, -n)]
+    return added(pairs)
+
+
+def inflows(flow):
+    """What flows in at each lot but (), from the words of the document."""
+    _, terms, crossings, drops = flow
+    total = {}
+    for low, high, n in terms:
+        total[high] = total.get(high, 0) + n
+        total[low] = total.get(low, 0) - n
+    for some, n in made_plainly(crossings, drops).items():
+        total[some] = total.get(some, 0) - n
+    return {some: n for some, n in total.items() if some != ()}
+
+
+def is_triple_plainly(lot, triple):
+    """Whether it is two lots within the lot and a whole count from 1 on."""
+    return len(triple) == 3 and all(some in all_lots(lot) for some in triple[:2]) and triple[2] >= 1
+
+
+def flows_plainly(lot, flow):
+    """Whether tuples of the right form, without booleans, are a flow."""
+    goals, terms, crossings, drops = flow
+    if not all(some in all_lots(lot)[1:] and n >= 1 for some, n in goals):
+        return False
+    if not all(is_triple_plainly(lot, triple) for triple in terms + crossings + drops):
+        return False
+    if not all(set(low) < set(high) for low, high, _ in terms + drops):
+        return False
+    if not all(one < other and set(one) - set(other) and set(other) - set(one) for one, other, _ in crossings):
+        return False
+    for things in flow:
+        names = [thing[:-1] for thing in things]
+        if list(things) != sorted(things) or len(set(names)) != len(names):
+            return False
+    told, wanted = inflows(flow), dict(goals)
+    return all(told.get(some, 0) >= wanted.get(some, 0) for some in all_lots(lot)[1:])
+
+
+def drawn_flow(chance, lot, things, most, wanted=None):
+    """A flow of some things on the lot; with a wanted lot as its one goal, if anything comes there."""
+    lots = all_lots(lot)[1:]
+    counts = [{}, {}, {}, {}]
+
+    def put(kind, pair, n):
+        counts[kind][pair] = counts[kind].get(pair, 0) + n
+
+    def flow():
+        goals = tuple((pair[0], n) for pair, n in sorted(counts[0].items()))
+        return (goals,) + tuple(tuple(pair + (n,) for pair, n in sorted(kind.items())) for kind in counts[1:])
+
+    for _ in range(things):
+        one, other = sorted((chance.choice(lots), chance.choice(lots)))
+        if set(one) - set(other) and set(other) - set(one):
+            put(2, (one, other), chance.randint(1, most))
+        elif one != other:
+            low, high = (one, other) if set(one) < set(other) else (other, one)
+            put(chance.choice((1, 3)), (low, high), chance.randint(1, most))
+    for some, n in inflows(flow()).items():
+        if n < 0:
+            put(1, ((), some), -n)
+        elif wanted is not None and n > 0 and set(some) < set(wanted) and chance.random() < 0.7:
+            put(1, (some, wanted), n)
+    for some, n in inflows(flow()).items():
+        if n > 0 and (some == wanted or (wanted is None and chance.random() < 0.6)):
+            put(0, (some,), chance.randint(1, n))
+    return flow()
+
+
+def wrong_told(lot):
+    """Values that are no told degrees on a lot, or on one within it."""
+    one = ((), lot, 1)
+    return ODD + OBJECTS + BOOLS + LONG_NUMBERS + (
+        0, (0,), ((),), one, (one[:2],), (one + (1,),), (((), lot, 21),), (((), lot, -1),), (((), lot, True),),
+        (((), lot, None),), (((), lot, "1"),), (((), lot, LONG),), ((lot, lot, 1),), ((lot, (), 1),), (((), (5,), 1),),
+        (((5,), lot, 1),), ((None, lot, 1),), ((0, lot, 1),), (((), list(lot), 1),), ([(), lot, 1],), [one],
+        (one,) * 21, (((), lot[::-1] + (0,), 1),), {((), lot): 1}, (((), (), 1),), (((), lot, 1), None),
+    )
+
+
+def wrong_flows(lot):
+    """Values that are no flows on a lot of two letters or more, or have counts of more than nine digits."""
+    a, b = lot[:1], lot[1:2]
+    term, goal = ((), lot, 1), (lot, 1)
+    return ODD + OBJECTS + BOOLS + LONG_NUMBERS + (
+        0, (), ((),) * 3, ((),) * 5, [(), (), (), ()], ((), (), (), []), ((), [], (), ()), ((goal,), (), (), ()),
+        (((lot, 2),), (term,), (), ()), (((lot, 0),), (term,), (), ()), (((lot, True),), (term,), (), ()),
+        ((((), 1),), (term,), (), ()), (((lot, LONG),), (((), lot, LONG),), (), ()), ((), (((), lot, LONG),), (), ()),
+        ((goal, goal), (((), lot, 2),), (), ()), ((), (term, term), (), ()), ((), ((lot, (), 1),), (), ()),
+        ((), ((lot, lot, 1),), (), ()), ((), (((), lot, 0),), (), ()), ((), (((), lot, -1),), (), ()),
+        ((), (((), lot),), (), ()), ((), (((), lot, None),), (), ()), ((), (((), lot, "1"),), (), ()),
+        ((), (((), (5,), 1),), (), ()), ((), (), ((a, b, 1),), ()), ((), (), ((b, a, 1),), ()), ((), (), ((a, lot, 1),), ()),
+        ((), (), (((), a, 1),), ()), ((), (term,), (), ((a, lot, 2),)), ((), (term,), (), ((lot, a, 1),)),
+        ((), (), (), ((a, lot, 1),)), ((), (((), b, 1), ((), a, 1)), (), ()), (None, (), (), ()), (((lot,),), (), (), ()),
+        (((None, 1),), (), (), ()), ((), (term,), (), ((a, list(lot), 1),)), {0: ()}, ((), (term + (1,),), (), ()),
+    )

@@ -8,11 +8,14 @@ from crestjoin.base import checks, lots, numbers
 from crestjoin.cover import covers
 from crestjoin.errors import InvalidNumber
 from crestjoin.exact import linear
-from crestjoin.letter import search
-from crestjoin.rank import ranks
+from crestjoin.flow import flows, parts, plans, rules
+from crestjoin.letter import orders, search
+from crestjoin.rank import degrees, papers, ranks
+from crestjoin.reach import made
 from crestjoin.table import joins, tables
 from crestjoin.table.joins import Question
 from crestjoin.table.tables import Table
+from crestjoin.tree import webs
 from tests.support import GREATEST, HUGE, LONG, ODD, SOME_QUESTION, SOME_TABLE, refused, shown
 
 INTERFACE = {
@@ -37,6 +40,37 @@ INTERFACE = {
     "rank.ranks": "is_rank(lot,value) rank_fault(lot,value) step_rank(lot,some) parity_rank(lot,some) "
                   "sum_rank(lot,one,other) scaled_rank(lot,rank,number) restricted_rank(lot,rank,some) "
                   "contracted_rank(lot,rank,some) basic_sums(lot) rank_parts(lot,rank)",
+    "rank.papers": "made_sum(lot,crossings,drops) value_at(lot,total,rank) inequality_answer(lot,total) "
+                   "is_inequality_answer(lot,total,value) cover_total(lot,lots,weights,k) "
+                   "greater_total(lot,total,some) lesser_total(lot,total,some)",
+    "rank.degrees": "is_told(lot,value) keeps(question,told) exact_told(question,pairs) does_keep(lot,told,s,rank) "
+                    "reached_letters(lot,told) bound_answer(lot,told,p,D) is_bound_answer(lot,told,p,D,value) "
+                    "least_bound(lot,told) is_least_bound(lot,told,value)",
+    "flow.flows": "is_flow(lot,value) inflow(lot,flow,some) weight_of(lot,flow) steps_of(lot,flow) "
+                  "are_steps(lot,flow,value) without(lot,flow,some) is_without(lot,flow,some,value) "
+                  "scaled_flow(lot,flow,number) flow_sum(lot,one,other)",
+    "flow.parts": "level_of(number) groups_of(table,low) parted(table,low,k) is_parted(table,low,k,value) most_parts(k) "
+                  "put_together(pieces)",
+    "flow.plans": "plan_bound(question,told,flow) run(question,told,flow) is_log(question,told,flow,value) "
+                  "log_answer(question,told,flow,log) log_sizes(question,told,flow,log) "
+                  "log_counts(question,told,flow,log)",
+    "flow.rules": "rule_answer(lot,goals,told,p,D) is_rule_answer(lot,goals,told,p,D,value) rule_bound(lot,goals,told) "
+                  "is_rule_bound(lot,goals,told,value) rule_run(question,told,flow) "
+                  "is_rule_run(question,told,flow,value) does_hold(question,tables) are_even(question,goals) "
+                  "share(question,tables)",
+    "reach.made": "are_vectors(lot,value) vector_rank(lot,vectors) made_table(lot,vectors) step_vectors(lot,counts) "
+                  "beside(lot,one,other) step_counts(lot,rank) reaching(lot,lots,vectors) "
+                  "is_reached(lot,told,vectors,p,D)",
+    "letter.orders": "do_go_along(lot,told,order) letter_bound(lot,told,order) is_letter_bound(lot,told,order,value) "
+                     "are_weights(lot,told,value) are_numbers(lot,told,value) searched_by(question,told,order) "
+                     "full_question(lot,lots,numbers)",
+    "tree.webs": "is_tree(lots,value) is_stuck(lots,value) fold_answer(lots) is_fold(lots,value) sequence_of(lots,tree) "
+                 "reduced(question,tree) tree_answer(question,tree)",
+}
+CONSTANTS = {
+    "table.tables": {"MOST_ROWS": 1000, "MAX_DIGITS": 9}, "table.joins": {"MOST_PARTS": 12, "MOST_JOINED": 100000},
+    "exact.linear": {"MOST_COLUMNS": 12, "MOST_ROWS": 24, "MOST_CHOICES": 5000}, "flow.flows": {"MOST_COUNTS": 200},
+    "reach.made": {"MOST_SOURCES": 12, "MOST_VECTORS": 12}, "tree.webs": {"MOST_PARTS": 12},
 }
 METHODS = {
     Table: ("__init__", "lot", "rows", "__len__", "__contains__", "__eq__", "__str__"),
@@ -46,6 +80,10 @@ METHODS = {
 THREE = ((0, 1), (0, 2), (1, 2))
 RING = ((1, 1, 0), (0, 1, 1), (1, 0, 1))
 STEP = {(): 0, (0,): 0, (0, 1): 1, (1,): 1}
+ABC, SIDES = (0, 1, 2), (((), (0, 1), 4), ((), (0, 2), 4), ((), (1, 2), 4))
+WEB = (((ABC, 2),), (((), (0, 1), 1), ((), (0, 2), 1), ((), (1, 2), 1)), (((0,), (1, 2), 1), ((0, 1), (0, 2), 1)), ())
+ASK = Question(ABC, tuple(Table(lot, ((0, 0), (0, 1), (1, 0))) for lot in THREE))
+PAIR = Question(ABC, ASK.parts[::2])
 CALLS = (
     (lots.lots_within, ((0, 1, 3),)), (lots.lots_on, (THREE,)), (numbers.most_within, ((7, 2),)),
     (Table, ((0,), ((2,), (1,)))), (tables.project, (SOME_TABLE, (1,))), (tables.above, (SOME_TABLE, (1,), (0, 1))),
@@ -63,6 +101,25 @@ CALLS = (
     (ranks.sum_rank, ((0, 1), STEP, STEP)), (ranks.scaled_rank, ((0, 1), STEP, 3)),
     (ranks.restricted_rank, ((0, 1), STEP, (1,))), (ranks.contracted_rank, ((0, 1), STEP, (1,))),
     (ranks.basic_sums, ((0, 1, 2),)), (ranks.rank_parts, ((0, 1), STEP)), (ranks.rank_fault, ((0, 1), STEP)),
+    (papers.made_sum, (ABC, (((0,), (1, 2), 2),), (((), (0,), 1),))), (papers.inequality_answer, (ABC, {(1,): 1, (0,): 1})),
+    (papers.inequality_answer, ((0, 1), {(1,): 1, (0,): -1})), (papers.value_at, ((0, 1), {(1,): 2}, STEP)),
+    (papers.cover_total, (ABC, THREE, (1, 1, 1), 2)), (papers.greater_total, (ABC, {(1,): 1, (0,): 1}, (2,))),
+    (papers.lesser_total, (ABC, {(1,): 1, (0, 1): 1}, (1,))), (degrees.exact_told, (SOME_QUESTION, (((), (0, 1)),))),
+    (degrees.least_bound, (ABC, SIDES)), (degrees.least_bound, (ABC, SIDES[:1])), (degrees.bound_answer, (ABC, SIDES, 11, 2)),
+    (degrees.bound_answer, (ABC, SIDES, 6, 1)), (degrees.keeps, (SOME_QUESTION, (((), (0, 1), 1),))),
+    (flows.steps_of, (ABC, WEB)), (flows.without, (ABC, WEB, (0, 1))), (flows.scaled_flow, (ABC, WEB, 3)),
+    (flows.flow_sum, (ABC, WEB, WEB)), (flows.inflow, (ABC, WEB, ABC)), (parts.groups_of, (SOME_TABLE, (1,))),
+    (parts.parted, (SOME_TABLE, (0,), 2)), (parts.put_together, (((0, SOME_TABLE), (1, SOME_TABLE)),)),
+    (plans.run, (ASK, SIDES, WEB)), (plans.plan_bound, (ASK, SIDES, WEB)), (rules.rule_run, (ASK, SIDES, WEB)),
+    (rules.rule_bound, (ABC, ((0, 1), ABC), SIDES)), (rules.rule_answer, (ABC, (ABC,), SIDES, 5, 1)),
+    (rules.share, (SOME_QUESTION, {(1,): Table((1,), ((0,),))})), (made.vector_rank, ((0, 1), ((1,), (3,)))),
+    (made.made_table, ((0, 1), ((1,), (3,)))), (made.step_vectors, ((0, 1), {(0, 1): 2, (0,): 1})),
+    (made.beside, ((0, 1), ((1,), (3,)), ((1,), (3,)))), (made.step_counts, ((0, 1), STEP)),
+    (made.reaching, ((0, 1), ((0,), (0, 1)), ((1,), (3,)))), (orders.letter_bound, (ABC, SIDES, (2, 0, 1))),
+    (orders.letter_bound, (ABC, SIDES[:1], (2, 0, 1))), (orders.searched_by, (ASK, SIDES, (2, 0, 1))),
+    (orders.full_question, ((0, 1), ((0,), (0, 1)), {1: 2, 0: 1})), (webs.fold_answer, (THREE,)),
+    (webs.fold_answer, (((0, 1), (1, 2)),)), (webs.sequence_of, (((0, 1), (1, 2)), (1, None))),
+    (webs.reduced, (PAIR, (1, None))), (webs.tree_answer, (PAIR, (1, None))),
 )
 
 
@@ -81,6 +138,11 @@ class InterfaceTest(unittest.TestCase):
                 made = getattr(module, called)
                 self.assertEqual(made.__module__, "crestjoin." + name)
                 self.assertEqual(list(inspect.signature(made).parameters), arguments.split(","))
+
+    def test_constants(self):
+        for name, constants in CONSTANTS.items():
+            for constant, value in constants.items():
+                self.assertEqual(getattr(import_module("crestjoin." + name), constant), value)
 
     def test_methods_stand_in_their_classes(self):
         for kind, methods in METHODS.items():
@@ -132,7 +194,7 @@ class ConventionsTest(unittest.TestCase):
                 inner = list(value) if isinstance(value, tuple) else []
             return {type(value)}.union(*[kinds(one) for one in inner])
         for call, args in CALLS:
-            self.assertLessEqual(kinds(call(*args)), {tuple, dict, int, str, Table, Question, type(None)})
+            self.assertLessEqual(kinds(call(*args)), {tuple, dict, int, str, bool, Table, Question, type(None)})
 
     def test_booleans_are_no_integers(self):
         """[0.1]"""

@@ -4,9 +4,10 @@ import unittest
 from importlib import import_module
 
 MODULES = ("errors", "base.lots", "base.numbers", "table.tables", "table.joins", "letter.search", "exact.linear",
-           "cover.covers", "rank.ranks")
+           "cover.covers", "rank.ranks", "rank.papers", "rank.degrees", "flow.flows", "flow.parts", "flow.plans",
+           "flow.rules", "reach.made", "letter.orders", "tree.webs")
 
-LINES = 27
+LINES = 59
 BLOCKS = (
     ("Examples", """
 >>> THREE, RING = (0, 1, 2), ((0, 1), (0, 2), (1, 2))
@@ -84,6 +85,106 @@ raises InvalidOperation
 >>> [basic_sums((0, 3)), rank_parts((0, 1, 2), ODD), rank_parts((0, 1), {(): 0, (0,): 2, (0, 1): 3, (1,): 2})]
 [({(0, 3): 1, (3,): -1}, {(0,): -1, (0, 3): 1}, {(0,): 1, (0, 3): -1, (3,): 1}), {('parity', (0, 1, 2)): 1}, {('step', (0,)): 1, ('step', (0, 1)): 1, ('step', (1,)): 1}]
 >>> step_rank((0, 1), ())
+raises InvalidOperation
+"""),
+    ("Stage 8: inequalities between ranks", """
+>>> TRIANGLE = cover_total((0, 1, 2), ((0, 1), (0, 2), (1, 2)), (1, 1, 1), 2)
+>>> [TRIANGLE, made_sum((0, 1, 2), (((0,), (1, 2), 1), ((0, 1), (0, 2), 1)), ()), inequality_answer((0, 1, 2), TRIANGLE)[0]]
+[{(0, 1): 1, (0, 1, 2): -2, (0, 2): 1, (1, 2): 1}, {(0, 1): 1, (0, 1, 2): -2, (0, 2): 1, (1, 2): 1}, 'holds']
+>>> [is_inequality_answer((0, 1, 2), TRIANGLE, ("holds", (1, (((0,), (1, 2), 1), ((0, 1), (0, 2), 1)), ()))), value_at((0, 1, 2), TRIANGLE, parity_rank((0, 1, 2), (0, 1, 2)))]
+[True, 2]
+>>> LESS = cover_total((0, 1, 2), ((0, 1), (1, 2)), (1, 1), 2)
+>>> [inequality_answer((0, 1, 2), LESS)[0], is_inequality_answer((0, 1, 2), LESS, ("fails", step_rank((0, 1, 2), (0,)))), is_inequality_answer((0, 1, 2), LESS, ("fails", step_rank((0, 1, 2), (1,))))]
+['fails', True, False]
+>>> [greater_total((0, 1, 2), {(0,): 1, (0, 1): -1, (1,): 1}, (2,)), lesser_total((0, 1, 2), {(0, 1): 2, (2,): 1, (0, 2): -1}, (0,))]
+[{(0, 1, 2): -1, (0, 2): 1, (1, 2): 1, (2,): -1}, {(0,): 1}]
+>>> value_at((0, 1), {(0,): 1}, {(): 0, (0,): 1})
+raises InvalidRank
+"""),
+    ("Stage 9: bounds by told degrees", """
+>>> ABC, SIDES = (0, 1, 2), (((), (0, 1), 4), ((), (0, 2), 4), ((), (1, 2), 4))
+>>> [least_bound(ABC, SIDES)[:2], least_bound(ABC, SIDES[:2])[1], least_bound(ABC, SIDES[:1])[0], reached_letters(ABC, SIDES[:1])]
+[('least', (6, 1)), (8, 1), 'endless', (0, 1)]
+>>> [bound_answer(ABC, SIDES, 6, 1)[0], bound_answer(ABC, SIDES, 11, 2)[0], least_bound(ABC, SIDES[:2] + (((0,), (0, 1), 0),))[1]]
+['paper', 'rank', (4, 1)]
+>>> exact_told(Question((0, 1), (Table((0, 1), ((1, 1), (1, 2), (1, 3))),)), (((), (0, 1)), ((0,), (0, 1)), ((1,), (0, 1))))
+(((), (0, 1), 2), ((0,), (0, 1), 2), ((1,), (0, 1), 0))
+"""),
+    ("Stage 10: flows", """
+>>> WEB = ((((0, 1, 2), 2),), (((), (0, 1), 1), ((), (0, 2), 1), ((), (1, 2), 1)), (((0,), (1, 2), 1), ((0, 1), (0, 2), 1)), ())
+>>> [is_flow((0, 1, 2), WEB), inflow((0, 1, 2), WEB, (0,)), inflow((0, 1, 2), WEB, (0, 1, 2)), weight_of((0, 1, 2), WEB)]
+[True, 0, 2, 2]
+>>> STEPS = (("cut", (1, 2), (0,)), ("cut", (0, 2), (0, 1)), ("join", (0, 1), (0, 1, 2)), ("goal", (0, 1, 2)), ("join", (0,), (0, 1, 2)), ("goal", (0, 1, 2)))
+>>> [are_steps((0, 1, 2), WEB, STEPS), are_steps((0, 1, 2), WEB, STEPS[:4]), is_flow((0, 1, 2), WEB[:3] + ((((0,), (0, 1), 1),),))]
+[True, False, False]
+>>> is_without((0, 1, 2), WEB, (0, 1), ((((0, 1, 2), 1),), (((), (0, 2), 1), ((), (1, 2), 1)), (((0, 2), (1, 2), 1),), ()))
+True
+>>> inflow((0, 1, 2), WEB, ())
+raises InvalidLot
+"""),
+    ("Stage 11: cut in pieces", """
+>>> T = Table((0, 1), ((1, 1), (1, 2), (1, 3), (2, 1), (3, 1), (4, 5), (4, 6)))
+>>> [groups_of(T, (0,)), parted(T, (0,), 3)[0][1].rows, parted(T, (0,), 3)[1][1].rows, len(parted(T, (0,), 3)), parted(T, (0,), 3)[2][0]]
+[{(1,): 3, (2,): 1, (3,): 1, (4,): 2}, ((2, 1), (3, 1)), ((4, 5), (4, 6)), 3, 2]
+>>> W = Table((0, 1), ((1, 1), (1, 2), (1, 3), (2, 1), (2, 2), (2, 3), (3, 1), (3, 2), (3, 3), (4, 1), (4, 2), (4, 3), (5, 1), (5, 2), (5, 3)))
+>>> [parted(W, (0,), 4)[0][0], len(parted(W, (0,), 4)[0][1]), parted(W, (0,), 4)[1][0], parted(W, (0,), 4)[1][1].rows]
+[2, 12, 2, ((5, 1), (5, 2), (5, 3))]
+>>> [level_of(1), level_of(5), most_parts(3), is_parted(T, (0,), 3, ((3, T),)), is_parted(T, (0,), 3, ((2, T),)), put_together(parted(W, (0,), 4)) == W]
+[0, 3, 7, False, False, True]
+>>> parted(T, (2,), 3)
+raises InvalidOperation
+"""),
+    ("Stage 12: papers are plans", """
+>>> TWO = Table((0, 1), ((0, 0), (0, 1), (1, 0)))
+>>> ASK = Question((0, 1, 2), (TWO, Table((0, 2), TWO.rows), Table((1, 2), TWO.rows)))
+>>> TOLD = (((), (0, 1), 2), ((), (0, 2), 2), ((), (1, 2), 2))
+>>> LOG = (("cut", (1, 2), (0,)), ("cut", (0, 2), (0, 1), ((("join", (0, 1), (0, 1, 2)), ("goal", (0, 1, 2))), (("join", (0, 1), (0, 1, 2)), ("goal", (0, 1, 2))))))
+>>> [plan_bound(ASK, TOLD, WEB), is_log(ASK, TOLD, WEB, LOG), log_answer(ASK, TOLD, WEB, LOG).rows, log_sizes(ASK, TOLD, WEB, LOG), log_counts(ASK, TOLD, WEB, LOG)]
+[(6, 2), True, ((0, 0, 0), (0, 0, 1), (0, 1, 0), (1, 0, 0)), (1, 1, 2, 1, 1, 4), (2, 0)]
+>>> plan_bound(ASK, TOLD + (((0,), (0, 1), 0),), WEB)
+raises Refused(('degree', 3))
+"""),
+    ("Stage 13: rules with several goals", """
+>>> FOUR, EDGES = (0, 1, 2, 3), tuple([((), lot, 2) for lot in ((0, 1), (0, 3), (1, 2), (2, 3))])
+>>> [rule_bound(FOUR, ((0, 1, 2), (0, 2, 3)), EDGES)[1], rule_bound(FOUR, ((0, 1, 2),), EDGES)[1], rule_bound(FOUR, ((0, 1, 2), (1, 2, 3)), EDGES)[1]]
+[(4, 1), (4, 1), (3, 1)]
+>>> [rule_answer(FOUR, ((0, 1, 2), (1, 2, 3)), EDGES, 3, 1)[0], rule_answer(FOUR, ((0, 1, 2), (1, 2, 3)), EDGES, 5, 2)[0]]
+['paper', 'rank']
+"""),
+    ("Stage 14: tables made of bits, and bounds that are reached", """
+>>> PARITY, THREE = ((1,), (2,), (3,)), (0, 1, 2)
+>>> made_table(THREE, PARITY).rows
+((0, 0, 0), (0, 1, 1), (1, 0, 1), (1, 1, 0))
+>>> R = vector_rank(THREE, PARITY)
+>>> [R[(0,)], R[(0, 1)], R[THREE], step_counts(THREE, R)[(0, 1)], step_counts(THREE, R)[THREE]]
+[1, 2, 2, 1, -1]
+>>> step_vectors(THREE, {(0, 1): 1, (2,): 2})
+((1,), (1,), (2, 4))
+>>> beside(THREE, PARITY, ((1,), (1,), ()))
+((1, 4), (2, 4), (3,))
+>>> [len(answer(reaching(THREE, ((0, 1), (1, 2), (0, 2)), PARITY))), is_reached(THREE, (((), (0, 1), 2), ((0, 1), THREE, 0)), PARITY, 4, 2)]
+[8, True]
+"""),
+    ("Stage 15: degrees along an order", """
+>>> TOLD = (((), (0,), 2), ((0,), (0, 1), 1), ((), (1, 2), 3), ((1,), (1, 2), 1))
+>>> [do_go_along((0, 1, 2), TOLD, (0, 1, 2)), do_go_along((0, 1, 2), TOLD, (1, 0, 2)), letter_bound((0, 1, 2), TOLD, (0, 1, 2))[:2], letter_bound((0, 1, 2), TOLD[:2], (0, 1, 2))]
+[True, False, ('least', (4, 1)), ('open', 2)]
+>>> [are_weights((0, 1, 2), TOLD, (1, (1, 1, 0, 1))), are_numbers((0, 1, 2), TOLD, (1, {0: 2, 1: 1, 2: 1})), len(full_question((0, 1, 2), ((0, 1), (1, 2)), {0: 2, 1: 1, 2: 1}).parts[0])]
+[True, True, 8]
+>>> letter_bound((0, 1, 2), TOLD, (1, 0, 2))
+raises InvalidOperation
+"""),
+    ("Stage 16: webs that fold", """
+>>> TWIG, SHUT, WHEEL = ((0, 1), (2, 3), (1, 2)), ((0, 1), (0, 2), (1, 2)), ((0, 1), (1, 2), (2, 3), (0, 3))
+>>> [is_tree(TWIG, (None, 2, 0)), is_tree(TWIG, (None, 0, 0)), is_tree(((0,), (1,)), (1, None)), is_tree(TWIG, (2, 0, 1)), sequence_of(TWIG, (2, 2, None))]
+[True, False, True, False, (2, 0, 1)]
+>>> [fold_answer(SHUT), fold_answer(WHEEL), fold_answer(SHUT + ((0, 1, 2),))[0], is_stuck(WHEEL, (0, 1, 2)), fold_answer(()), fold_answer(((),))]
+[('stuck', (0, 1, 2)), ('stuck', (0, 1, 2, 3)), 'folds', False, ('folds', ()), ('folds', (None,))]
+>>> LEFT, RIGHT = Table((0, 1), ((1, 2), (1, 3), (4, 5))), Table((1, 2), ((2, 7), (3, 7), (9, 9)))
+>>> PAIR = Question((0, 1, 2), (LEFT, RIGHT))
+>>> [reduced(PAIR, (None, 0))[1].rows, tree_answer(PAIR, (1, None))[0].rows, tree_answer(PAIR, (1, None))[1]]
+[((2, 7), (3, 7)), ((1, 2, 7), (1, 3, 7)), (2, 2)]
+>>> reduced(PAIR, (0, None))
 raises InvalidOperation
 """),
 )

@@ -130,6 +130,30 @@ class LanguageTest(unittest.TestCase):
             if isinstance(node.func, ast.Attribute):
                 self.assertIn(node.func.attr, METHODS | own, place)
 
+    def test_attributes_methods_and_properties(self):
+        """Each attribute that is read is assigned somewhere, and means one thing in all classes."""
+        stored = {node.attr for _, node in self.each(ast.Attribute) if isinstance(node.ctx, ast.Store)}
+        methods, properties = set(), set()
+        for _, node in self.each(ast.ClassDef):
+            for inner in node.body:
+                if isinstance(inner, ast.FunctionDef):
+                    (properties if inner.decorator_list else methods).add(inner.name)
+        self.assertEqual((stored & methods, stored & properties, methods & properties), (set(), set(), set()))
+        for place, node in self.each(ast.Attribute):
+            if isinstance(node.ctx, ast.Load) and not (isinstance(node.above, ast.Call) and node.above.func is node):
+                self.assertIn(node.attr, stored | properties, place)
+
+    def test_what_a_loop_goes_over_is_not_changed_in_it(self):
+        changing = {"append", "extend", "insert", "pop", "remove", "clear", "update", "setdefault", "reverse"}
+        for place, node in self.each(ast.For):
+            over = {ast.unparse(inner) for inner in ast.walk(node.iter) if isinstance(inner, (ast.Name, ast.Attribute))}
+            for inner in [found for row in node.body for found in ast.walk(row)]:
+                if isinstance(inner, ast.Call) and isinstance(inner.func, ast.Attribute) and inner.func.attr in changing:
+                    self.assertNotIn(ast.unparse(inner.func.value), over, place)
+                if isinstance(inner, ast.Subscript) and not isinstance(inner.ctx, ast.Load):
+                    copied = called(node.iter) in ("list", "sorted")
+                    self.assertTrue(copied or ast.unparse(inner.value) not in over, place)
+
     def test_forms_that_are_barred(self):
         barred = (ast.Global, ast.AsyncFunctionDef, ast.Await, ast.Div, ast.MatMult)
         for path in files():

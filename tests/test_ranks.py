@@ -11,42 +11,11 @@ from crestjoin.rank.ranks import (
 )
 from crestjoin.table.tables import Table, project
 from tests.support import (
-    BOOLS, GREATEST, HUGE, LONG_NUMBERS, OBJECTS, ODD, WRONG_LOTS, all_lots, check_judge, check_wrongs, refused,
-    with_bools, wrong_numbers,
+    BOOLS, GREATEST, HUGE, LONG_NUMBERS, OBJECTS, ODD, WRONG_LOTS, added, all_lots, check_judge, check_wrongs, common, less,
+    ranks_plainly, refused, some_ranks, union, with_bools, wrong_numbers,
 )
 
 LOTS = ((), (3,), (0, 1), (1, 4), (0, 2, 5), (0, 1, 2), (1, 2, 3, 4), (0, 1, 2, 3, 5))
-
-
-def union(one, other):
-    return tuple(sorted(set(one) | set(other)))
-
-
-def common(one, other):
-    return tuple(sorted(set(one) & set(other)))
-
-
-def less(one, other):
-    return tuple(sorted(set(one) - set(other)))
-
-
-def ranks_plainly(lot, h):
-    """Whether h is a rank by all pairs of lots."""
-    lots = all_lots(lot)
-    return h[()] == 0 and all(h[x] <= h[y] for x in lots for y in lots if set(x) <= set(y)) and all(
-        h[x] + h[y] >= h[common(x, y)] + h[union(x, y)] for x in lots for y in lots)
-
-
-def some_ranks(lot, seed, times):
-    """Ranks from a chance that is the same in each run: sums of steps and of least ones of how many letters."""
-    chance = random.Random(seed)
-    lots = all_lots(lot)
-    for _ in range(times):
-        h = dict.fromkeys(lots, 0)
-        for _ in range(chance.randint(0, 5)):
-            some, most, by = chance.choice(lots), chance.randint(0, 3), chance.choice((1, 2, HUGE))
-            h = {x: h[x] + by * min(most, len(common(x, some))) for x in lots}
-        yield h
 
 
 def all_small(lot, numbers):
@@ -168,8 +137,8 @@ class MadeTest(unittest.TestCase):
         """[7.2]: their sequence, and that a rank is what keeps them all."""
         for lot in LOTS:
             sums = basic_sums(lot)
-            plain = [made([(lot, 1), (less(lot, (i,)), -1)]) for i in lot]
-            plain += [made([(union(K, (i,)), 1), (union(K, (j,)), 1), (K, -1), (union(K, (i, j)), -1)])
+            plain = [added([(lot, 1), (less(lot, (i,)), -1)]) for i in lot]
+            plain += [added([(union(K, (i,)), 1), (union(K, (j,)), 1), (K, -1), (union(K, (i, j)), -1)])
                       for i in lot for j in lot if i < j for K in all_lots(less(lot, (i, j)))]
             self.assertEqual(sums, tuple(plain))
             self.assertTrue(all(list(total) == sorted(total) for total in sums))
@@ -212,14 +181,6 @@ class MadeTest(unittest.TestCase):
         self.assertEqual(rank_parts((0, 1, 2), step_rank((0, 1, 2), (0, 1, 2))), {("step", (0, 1, 2)): 1})
         both = sum_rank((0, 1, 2), step_rank((0, 1, 2), (0, 1, 2)), parity_rank((0, 1, 2), (0, 1, 2)))
         self.assertEqual(rank_parts((0, 1, 2), both), {("step", (0, 1)): 1, ("step", (0, 2)): 1, ("step", (1, 2)): 1})
-
-
-def made(terms):
-    """The sum of pairs (lot, number), noughts and () left out."""
-    total = {}
-    for some, n in terms:
-        total[some] = total.get(some, 0) + n
-    return {some: total[some] for some in sorted(total) if some != () and total[some] != 0}
 
 
 def put(lot, parts):

@@ -13,9 +13,15 @@ def is_letter(value):
 
 def is_lot(value):
     """Whether the value is a lot."""
-    if not isinstance(value, tuple) or not all([is_letter(letter) for letter in value]):
+    if not isinstance(value, tuple):
         return False
-    return all([lesser < greater for lesser, greater in zip(value, value[1:])])
+    # This is asked far more often than all else: one round, without a call for each letter.
+    last = -1
+    for letter in value:
+        if not isinstance(letter, int) or isinstance(letter, bool) or not last < letter <= LAST_LETTER:
+            return False
+        last = letter
+    return True
 
 
 def are_lots(value):

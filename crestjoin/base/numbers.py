@@ -5,6 +5,7 @@ from crestjoin.errors import InvalidOperation
 
 MOST_P = 10000
 MOST_D = 1000
+MOST_K = 20
 
 
 def is_bound(value):

@@ -3,10 +3,10 @@
 from itertools import combinations
 from math import comb
 
-from crestjoin.base.checks import GREATEST, are_between, are_from_nought, are_integers, check_number, common_divisor
-from crestjoin.base.checks import is_integer, is_pair, lowest_point, lowest_terms, sum_of_products
+from crestjoin.base.checks import GREATEST, are_between, are_from_nought, are_integers, check_number, is_integer
+from crestjoin.base.checks import is_pair, lowest_point, lowest_terms, sum_of_products
 from crestjoin.errors import InvalidOperation, TooMany
-from crestjoin.exact.pivots import eliminated, ended_form
+from crestjoin.exact.pivots import eliminated, ended_form, point_of, prices_of, reason_of, way_of
 
 MOST_COLUMNS = 12
 MOST_ROWS = 24
@@ -64,49 +64,14 @@ def linear_answer(rows, sides, costs):
     check_program(rows, sides, len(costs))
     form = ended_form(rows, sides, costs)
     if form.end[0] == "endless":
-        way = _way_of(form, len(costs))
+        way = way_of(form, len(costs))
         # The costs would fall along the way from each fitting point, but there may be none.
         form = ended_form(rows, sides, [0] * len(costs))
         if form.end[0] == "least":
-            return ("endless", _point_of(form, len(costs)), way)
+            return ("endless", point_of(form, len(costs)), way)
     if form.end[0] == "none":
-        return ("none", _reason_of(form, len(rows), len(costs)))
-    return ("least", _point_of(form, len(costs)), _prices_of(form, len(rows), len(costs)))
-
-
-def _numbers_at(names, cells, first, many):
-    # The cell of each of `many` variables from `first` on, 0 for those that are not among the names.
-    found = dict(zip(names, cells))
-    return [found.get(first + place, 0) for place in range(many)]
-
-
-def _shortened(numbers):
-    divisor = common_divisor(numbers)
-    return tuple([number // divisor for number in numbers])
-
-
-def _point_of(form, columns):
-    return lowest_point(form.under, _numbers_at(form.basic, [row[-1] for row in form.cells], 0, columns))
-
-
-def _prices_of(form, rows, columns):
-    return lowest_point(form.under, _numbers_at(form.free, form.cells[-1], columns, rows))
-
-
-def _reason_of(form, rows, columns):
-    place = form.end[1]
-    reason = [-cell for cell in _numbers_at(form.free, form.cells[place], columns, rows)]
-    if form.basic[place] >= columns:
-        reason[form.basic[place] - columns] = form.under
-    return _shortened(reason)
-
-
-def _way_of(form, columns):
-    place = form.end[1]
-    way = _numbers_at(form.basic, [row[place] for row in form.cells], 0, columns)
-    if form.free[place] < columns:
-        way[form.free[place]] = form.under
-    return _shortened(way)
+        return ("none", reason_of(form, len(rows), len(costs)))
+    return ("least", point_of(form, len(costs)), prices_of(form, len(rows), len(costs)))
 
 
 def is_linear(rows, sides, costs, value):

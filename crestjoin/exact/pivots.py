@@ -1,13 +1,16 @@
 """Linear programs led to their end by exchanges, and plain elimination, all in integers."""
 
+from crestjoin.base.checks import common_divisor, lowest_point
+
 
 class Form:
     """A program at the end of all exchanges.
 
-    Each basic variable, and at last the costs, is a sum of free variables and of a constant, which stands last;
-    all cells stand over one number `under`, from 1 on. The variables are the columns of the program, and behind
-    them what its rows have over their sides. The end is ("least",), ("none", row) for a row that can't be mended,
-    ("endless", column) for a column along which the costs fall.
+    Each basic variable, and behind them the costs, is a sum of free variables and of a constant, which stands last;
+    all cells stand over one number `under`, from 1 on. Of several rows of costs the last one comes first. The
+    variables are the columns of the program, and behind them what its rows have over their sides. The end is
+    ("least",), ("none", row) for a row that can't be mended, ("endless", column) for a column along which the costs
+    fall.
     """
 
     def __init__(self, end, basic, free, cells, under):
@@ -33,7 +36,7 @@ def ended_form(rows, sides, costs):
         if end != ():
             return Form(end, basic, free, cells, under)
         following = abs(cells[row][column])
-        cells = _exchanged(cells, row, column, under)
+        cells = exchanged(cells, row, column, under)
         under = following
         basic[row], free[column] = free[column], basic[row]
 
@@ -51,11 +54,12 @@ def _next_exchange(basic, free, cells):
     return ((), min(mending)[1], place) if mending else (("endless", place), None, None)
 
 
-def _exchanged(cells, row, column, under):
+def exchanged(cells, row, column, under):
+    """The cells, which stand over `under`, behind the exchange of a row's variable for a column's."""
     # Cells are minors of the first form, so each division by the number under the last form is whole.
     pivot = cells[row][column]
     sign = 1 if pivot > 0 else -1
-    exchanged = []
+    found = []
     for place, old in enumerate(cells):
         if place == row:
             new = [-sign * cell for cell in old]
@@ -64,8 +68,47 @@ def _exchanged(cells, row, column, under):
             lead = old[column]
             new = [sign * (cell * pivot - lead * other) // under for cell, other in zip(old, cells[row])]
             new[column] = sign * lead
-        exchanged.append(new)
-    return exchanged
+        found.append(new)
+    return found
+
+
+def _numbers_at(names, cells, first, many):
+    # The cell of each of `many` variables from `first` on, 0 for those that are not among the names.
+    found = dict(zip(names, cells))
+    return [found.get(first + place, 0) for place in range(many)]
+
+
+def _shortened(numbers):
+    divisor = common_divisor(numbers)
+    return tuple([number // divisor for number in numbers])
+
+
+def point_of(form, columns):
+    """The point, in least terms, at which a form with a least one ends."""
+    return lowest_point(form.under, _numbers_at(form.basic, [row[-1] for row in form.cells], 0, columns))
+
+
+def prices_of(form, rows, columns):
+    """The prices of the rows, a point in least terms, with which a form with a least point ends."""
+    return lowest_point(form.under, _numbers_at(form.free, form.cells[-1], columns, rows))
+
+
+def reason_of(form, rows, columns):
+    """How often each row is taken to show that none fits, of a form that ends at a row that can't be mended."""
+    place = form.end[1]
+    reason = [-cell for cell in _numbers_at(form.free, form.cells[place], columns, rows)]
+    if form.basic[place] >= columns:
+        reason[form.basic[place] - columns] = form.under
+    return _shortened(reason)
+
+
+def way_of(form, columns):
+    """The way along which the costs of a form fall that ends at a column."""
+    place = form.end[1]
+    way = _numbers_at(form.basic, [row[place] for row in form.cells], 0, columns)
+    if form.free[place] < columns:
+        way[form.free[place]] = form.under
+    return _shortened(way)
 
 
 def eliminated(rows, many):

@@ -23,21 +23,22 @@ def searched(question, order):
     rows = first_rows(question.parts)
     looks = []
     for leads in leads_of(question.parts, order):
-        rows, many = _longer_rows(rows, leads)
+        rows, many = longer_rows(rows, leads, leads)
         looks.append(many)
     return (table_of(question.lot, parts_at(rows, order, question.lot)), tuple(looks))
 
 
-def _longer_rows(rows, leads):
+def longer_rows(rows, asking, leads):
+    """The pair of the begun rows with one letter more, as all leads tell, and of the looks at what is asked."""
     looks = 0
     longer = []
     for row in rows:
-        told = asked_lead(leads, row)[1]
+        told = asked_lead(asking, row)[1]
         looks = looks + len(told)
         if looks > MOST_JOINED:
             raise TooMany(MOST_JOINED)
         longer.extend([row + (number,) for number in kept_numbers(leads, row, told)])
-    return longer, looks
+    return (longer, looks)
 
 
 def begun_rows(question, order, many):
@@ -47,7 +48,7 @@ def begun_rows(question, order, many):
     check_number(many, 0, len(order))
     rows = first_rows(question.parts)
     for leads in leads_of(question.parts, order[:many]):
-        rows = _longer_rows(rows, leads)[0]
+        rows = longer_rows(rows, leads, leads)[0]
     return tuple(sorted(rows))
 
 

@@ -130,7 +130,7 @@ def rank_parts(lot, rank):
     check_rank(lot, rank)
     if len(lot) > MOST_WITH_PARTS:
         raise InvalidOperation("ranks on up to three letters are told as such sums")
-    steps = {some: _times(lot, rank, some) for some in lots_within(lot) if some != ()}
+    steps = {some: step_times(lot, rank, some) for some in lots_within(lot) if some != ()}
     # Only with three letters can the step of all come less than never: each parity stands for one step of
     # each two letters and takes one of all away.
     parities = max(0, -steps.get(lot, 0))
@@ -146,8 +146,9 @@ def _change(missing, parities):
     return parities if missing == 0 else -parities
 
 
-def _times(lot, rank, some):
-    # How often the step of `some` comes: what its letters add last, less what lots within it take of that.
+def step_times(lot, rank, some):
+    """How often the step of `some` comes in the one sum of steps that the rank is, also below 0."""
+    # It is what its letters add last, less what lots within it take of that.
     total = 0
     for lesser in lots_within(some):
         added = rank[lot] - rank[rest_lot(lot, lesser)]

@@ -12,15 +12,18 @@ MOST_JOINED = 100000
 
 def join(one, other):
     """The join of two tables."""
-    if join_size(one, other) > MOST_JOINED:
-        raise TooMany(MOST_JOINED)
+    check_table(one)
+    check_table(other)
     shared = common_lot(one.lot, other.lot)
     rest = rest_lot(other.lot, one.lot)
     ends = {}
     for row in parts_at(other.rows, other.lot, shared + rest):
         ends.setdefault(row[:len(shared)], []).append(row[len(shared):])
+    parts = parts_at(one.rows, one.lot, shared)
+    if sum([len(ends.get(part, ())) for part in parts]) > MOST_JOINED:
+        raise TooMany(MOST_JOINED)
     joined = []
-    for row, part in zip(one.rows, parts_at(one.rows, one.lot, shared)):
+    for row, part in zip(one.rows, parts):
         joined.extend([row + end for end in ends.get(part, ())])
     lot = joined_lot(one.lot, other.lot)
     return table_of(lot, parts_at(joined, one.lot + rest, lot))

@@ -97,6 +97,8 @@ def part_at(row, places):
 def parts_at(rows, letters, wanted):
     """The parts of the rows, whose numbers stand as `letters` do, with their numbers as `wanted` stand."""
     places = [letters.index(letter) for letter in wanted]
+    if places == list(range(len(letters))):
+        return list(rows)
     return [part_at(row, places) for row in rows]
 
 

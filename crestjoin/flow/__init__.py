@@ -1,0 +1,1 @@
+"""Flows, plans led from them, and pieces of tables."""

@@ -1,0 +1,1 @@
+"""Webs of lots, and trees over them."""
