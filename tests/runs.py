@@ -177,7 +177,8 @@ def skewed_table(chance, lot, many, numbers):
 WEBS = (
     ((0, 1), (0, 2), (1, 2)), ((0, 1), (1, 2), (2, 3), (0, 3)), ((0, 1), (0, 2), (0, 3), (1, 2), (1, 3), (2, 3)),
     ((0, 1, 2), (0, 1, 3), (0, 2, 3), (1, 2, 3)), ((0, 1), (1, 2), (2, 3), (3, 4), (0, 4)), ((1, 2, 4), (2, 5), (1, 5)),
-    ((0, 1, 2, 3), (0, 1, 2, 4), (0, 1, 3, 4), (0, 2, 3, 4), (1, 2, 3, 4)), ((0,), (0, 3)), ((2,),), ((0, 1), (0, 1), (1,)),
+    ((0, 1, 2, 3), (0, 1, 2, 4), (0, 1, 3, 4), (0, 2, 3, 4), (1, 2, 3, 4)), ((0,), (0, 3)), ((2,),),
+    ((0, 1), (0, 1), (1,)),
 )
 
 
@@ -260,7 +261,8 @@ class Leader:
         add(terms, ((), Z), -1)
         if over > 0:
             return ("spare", Z), told_flow(left)
-        ways = [("drop", Z, low) for low, high in drops if high == Z] + [("join", Z, high) for low, high in terms if low == Z]
+        ways = [("drop", Z, low) for low, high in drops if high == Z] + [("join", Z, high) for low,
+                                                                         high in terms if low == Z]
         ways += [("cut", Z, other) for one, other in crossings if one == Z]
         ways += [("cut", Z, one) for one, other in crossings if other == Z]
         entry = self.chance.choice(sorted(ways))

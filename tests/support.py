@@ -179,7 +179,8 @@ def random_question(chance, letters, numbers, most):
         if set(letter for lot in lots for letter in lot) == set(letters):
             break
     size = len(numbers)
-    parts = [random_table(chance, lot, numbers, chance.randint(size ** len(lot) // 2, size ** len(lot))) for lot in lots]
+    parts = [random_table(chance, lot, numbers, chance.randint(size ** len(lot) // 2, size ** len(lot)))
+             for lot in lots]
     return Question(tuple(letters), tuple(parts))
 
 
@@ -323,8 +324,9 @@ def wrong_flows(lot):
         ((goal, goal), (((), lot, 2),), (), ()), ((), (term, term), (), ()), ((), ((lot, (), 1),), (), ()),
         ((), ((lot, lot, 1),), (), ()), ((), (((), lot, 0),), (), ()), ((), (((), lot, -1),), (), ()),
         ((), (((), lot),), (), ()), ((), (((), lot, None),), (), ()), ((), (((), lot, "1"),), (), ()),
-        ((), (((), (5,), 1),), (), ()), ((), (), ((a, b, 1),), ()), ((), (), ((b, a, 1),), ()), ((), (), ((a, lot, 1),), ()),
-        ((), (), (((), a, 1),), ()), ((), (term,), (), ((a, lot, 2),)), ((), (term,), (), ((lot, a, 1),)),
-        ((), (), (), ((a, lot, 1),)), ((), (((), b, 1), ((), a, 1)), (), ()), (None, (), (), ()), (((lot,),), (), (), ()),
-        (((None, 1),), (), (), ()), ((), (term,), (), ((a, list(lot), 1),)), {0: ()}, ((), (term + (1,),), (), ()),
+        ((), (((), (5,), 1),), (), ()), ((), (), ((a, b, 1),), ()), ((), (), ((b, a, 1),), ()),
+        ((), (), ((a, lot, 1),), ()), ((), (), (((), a, 1),), ()), ((), (term,), (), ((a, lot, 2),)),
+        ((), (term,), (), ((lot, a, 1),)), ((), (), (), ((a, lot, 1),)), ((), (((), b, 1), ((), a, 1)), (), ()),
+        (None, (), (), ()), (((lot,),), (), (), ()), (((None, 1),), (), (), ()),
+        ((), (term,), (), ((a, list(lot), 1),)), {0: ()}, ((), (term + (1,),), (), ()),
     )

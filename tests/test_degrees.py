@@ -107,8 +107,8 @@ def bound_of(lot, told):
 class ToldTest(unittest.TestCase):
     def test_is_told(self):
         one = ((), (0, 1), 4)
-        right = [(), (one,), SIDES, (one,) * 20, (((), (0,), 0),), (((), (0,), 20),), ((ABC[:1], ABC, 20), one), SIDES[::-1],
-                 tuple((low, ABC, 1) for low in all_lots(ABC) if low != ABC)]
+        right = [(), (one,), SIDES, (one,) * 20, (((), (0,), 0),), (((), (0,), 20),), ((ABC[:1], ABC, 20), one),
+                 SIDES[::-1], tuple((low, ABC, 1) for low in all_lots(ABC) if low != ABC)]
         wrong = [value for value in wrong_told((0, 1)) if shown(value) != shown((((5,), (0, 1), 1),))]
         check_judge(self, lambda value: is_told(ABC, value), right, wrong + [(((5,), (0, 1), 1),), (((), (0, 3), 1),)])
         check_judge(self, lambda value: is_told((), value), [()], [(((), (), 0),), (((), (0,), 1),)])
@@ -236,7 +236,8 @@ class BoundTest(unittest.TestCase):
             tried = [(0, 1), (GREATEST, 1), (0, GREATEST), (1, GREATEST), (GREATEST, GREATEST)]
             if least is not None:
                 p, D = least.numerator, least.denominator
-                tried += [(p, D), (7 * p, 7 * D), (7 * p - 1, 7 * D), (7 * p + 1, 7 * D), (max(p - 1, 0), D), (p + 1, D)]
+                tried += [(p, D), (7 * p, 7 * D), (7 * p - 1, 7 * D), (7 * p + 1, 7 * D), (max(p - 1, 0), D),
+                          (p + 1, D)]
             for p, D in tried:
                 if p < 0:
                     continue
@@ -279,7 +280,8 @@ class BoundTest(unittest.TestCase):
             low, high, k = told[at]
             lesser = told[:at] + ((low, high, chance.randint(0, k)),) + told[at + 1:]
             self.assertLessEqual(bound_of(lot, lesser), least)
-            self.assertLessEqual(bound_of(lot, (told + drawn_told(chance, lot, 1))[-20:]), least if len(told) < 20 else HUGE)
+            self.assertLessEqual(bound_of(lot, (told + drawn_told(chance, lot, 1))[-20:]),
+                                 least if len(told) < 20 else HUGE)
             c = 20 // max([k for _, _, k in told] + [1])
             self.assertEqual(bound_of(lot, tuple((low, high, c * k) for low, high, k in told)), c * least)
             for some in all_lots(lot)[1:]:
@@ -327,21 +329,23 @@ class JudgeTest(unittest.TestCase):
         huge = tuple(tuple(thing[:-1] + (thing[-1] * HUGE,) for thing in things) for things in FLOW)
         basic = (((ABC, 2),), FLOW[1], (((0,), (1,), 1), ((0, 1), (0, 2), 1), ((0, 1), (1, 2), 1)), ())
         right = [("paper", flow) for flow in (FLOW, huge, basic)]
-        wrong = [("paper", ((),) + FLOW[1:]), ("paper", ((((0, 1), 1),),) + FLOW[1:]), ("paper", (((ABC, 1),),) + FLOW[1:]),
-                 ("paper", (((ABC, 2),), (((), ABC, 2),), (), ())), ("paper", FLOW, 0), ("paper",), ("rank", FLOW),
-                 ("paper", FLOW[:3]), ("paper", None), ("papers", FLOW), (None, FLOW), ("paper", ((((0, 1), 1), (ABC, 1)),) + FLOW[1:]),
-                 ("rank", 1, parity_rank(ABC, ABC)), ("paper", (((ABC, 2 * HUGE + 1),),) + huge[1:])]
+        wrong = [("paper", ((),) + FLOW[1:]), ("paper", ((((0, 1), 1),),) + FLOW[1:]),
+                 ("paper", (((ABC, 1),),) + FLOW[1:]), ("paper", (((ABC, 2),), (((), ABC, 2),), (), ())),
+                 ("paper", FLOW, 0), ("paper",), ("rank", FLOW), ("paper", FLOW[:3]), ("paper", None), ("papers", FLOW),
+                 (None, FLOW), ("paper", ((((0, 1), 1), (ABC, 1)),) + FLOW[1:]), ("rank", 1, parity_rank(ABC, ABC)),
+                 ("paper", (((ABC, 2 * HUGE + 1),),) + huge[1:])]
         check_judge(self, lambda value: is_bound_answer(ABC, SIDES, 6, 1, value), right, wrong)
         check_judge(self, lambda value: is_bound_answer(ABC, SIDES, 600, 100, value), right, wrong)
         for value in right:
             self.assertIs(is_bound_answer(ABC, SIDES, 599, 100, value), False)
         h = {some: 2 * len(some) for some in all_lots(ABC)}
-        right = [("rank", 1, h), ("rank", HUGE, {some: HUGE * n for some, n in h.items()}), ("rank", 1, dict(reversed(h.items()))),
-                 ("rank", 3, {some: 6 * len(some) for some in all_lots(ABC)}),
+        right = [("rank", 1, h), ("rank", HUGE, {some: HUGE * n for some, n in h.items()}),
+                 ("rank", 1, dict(reversed(h.items()))), ("rank", 3, {some: 6 * len(some) for some in all_lots(ABC)}),
                  ("rank", HUGE + 1, {some: HUGE * n for some, n in h.items()})]
-        wrong = [("rank", 0, h), ("rank", -1, h), ("rank", 2, h), ("rank", 1, {**h, ABC: 5}), ("rank", 1, {**h, ABC: 7}),
-                 ("rank", 1, {some: 3 * len(some) for some in h}), ("rank", h), ("rank", 1, h, 0), ("rank", 1, None), ("rank", h, 1),
-                 ("rank", "1", h), ("paper", 1, h), ("rank", 1, {**h, (3,): 0}), ("rank", 1, {}), ("rank", 1, tuple(h.items())),
+        wrong = [("rank", 0, h), ("rank", -1, h), ("rank", 2, h), ("rank", 1, {**h, ABC: 5}),
+                 ("rank", 1, {**h, ABC: 7}), ("rank", 1, {some: 3 * len(some) for some in h}), ("rank", h),
+                 ("rank", 1, h, 0), ("rank", 1, None), ("rank", h, 1), ("rank", "1", h), ("paper", 1, h),
+                 ("rank", 1, {**h, (3,): 0}), ("rank", 1, {}), ("rank", 1, tuple(h.items())),
                  ("rank", 2 * HUGE, {some: HUGE * n for some, n in h.items()}), ("paper", FLOW)]
         check_judge(self, lambda value: is_bound_answer(ABC, SIDES, 11, 2, value), right, wrong)
         self.assertIs(is_bound_answer(ABC, SIDES, 6, 1, ("rank", 1, h)), False)
@@ -357,13 +361,15 @@ class JudgeTest(unittest.TestCase):
         s, many = HUGE, {some: HUGE * n for some, n in h.items()}
         huge = tuple(tuple(thing[:-1] + (thing[-1] * HUGE,) for thing in things) for things in FLOW)
         right = [("least", (6, 1), FLOW, 1, h), ("least", (6, 1), huge, s, many), ("least", (6, 1), FLOW, s, many)]
-        wrong = [("least", (12, 2), FLOW, 1, h), ("least", (6, 1), FLOW, 2, h), ("least", (7, 1), FLOW, 1, h), ("endless", h),
-                 ("least", (6, 1), FLOW, 1), ("least", (6, 1), FLOW, 1, h, 0), ("least", (6, 1), ((),) + FLOW[1:], 1, h),
-                 ("least", (6, 1), FLOW, 1, {**h, ABC: 5}), ("least", (6,), FLOW, 1, h), ("least", 6, FLOW, 1, h),
-                 ("least", (6, 0), FLOW, 1, h), ("least", (-6, -1), FLOW, 1, h), ("least", (5, 1), FLOW, 1, h),
-                 ("least", ("6", 1), FLOW, 1, h), ("least", (6, 1), h, 1, FLOW), ("least", (6, 1), FLOW, 0, h),
-                 ("least", (6, 1), FLOW, 1, {some: 0 for some in h}), ("most", (6, 1), FLOW, 1, h), ("least", None, FLOW, 1, h),
-                 ("least", (6 * HUGE, HUGE), FLOW, 1, h), ("least", (6, 1), FLOW, s + 1, many), ("least", (6, 1), None, 1, h)]
+        wrong = [("least", (12, 2), FLOW, 1, h), ("least", (6, 1), FLOW, 2, h), ("least", (7, 1), FLOW, 1, h),
+                 ("endless", h), ("least", (6, 1), FLOW, 1), ("least", (6, 1), FLOW, 1, h, 0),
+                 ("least", (6, 1), ((),) + FLOW[1:], 1, h), ("least", (6, 1), FLOW, 1, {**h, ABC: 5}),
+                 ("least", (6,), FLOW, 1, h), ("least", 6, FLOW, 1, h), ("least", (6, 0), FLOW, 1, h),
+                 ("least", (-6, -1), FLOW, 1, h), ("least", (5, 1), FLOW, 1, h), ("least", ("6", 1), FLOW, 1, h),
+                 ("least", (6, 1), h, 1, FLOW), ("least", (6, 1), FLOW, 0, h),
+                 ("least", (6, 1), FLOW, 1, {some: 0 for some in h}), ("most", (6, 1), FLOW, 1, h),
+                 ("least", None, FLOW, 1, h), ("least", (6 * HUGE, HUGE), FLOW, 1, h),
+                 ("least", (6, 1), FLOW, s + 1, many), ("least", (6, 1), None, 1, h)]
         check_judge(self, lambda value: is_least_bound(ABC, SIDES, value), right, wrong)
         none = tuple((low, high, 0) for low, high, _ in SIDES)
         zero = dict.fromkeys(h, 0)
@@ -375,9 +381,9 @@ class JudgeTest(unittest.TestCase):
     def test_endless(self):
         h = step_rank(ABC, (2,))
         right = [("endless", h), ("endless", {some: HUGE * n for some, n in h.items()})]
-        wrong = [("endless", step_rank(ABC, ABC)), ("endless", {some: 0 for some in h}), ("endless", {**h, ABC: 2}), ("endless",),
-                 ("endless", h, 0), ("endless", 1, h), ("endless", None), ("least", h), ("rank", h), ("endless", {}),
-                 ("endless", {some: -n for some, n in h.items()})]
+        wrong = [("endless", step_rank(ABC, ABC)), ("endless", {some: 0 for some in h}), ("endless", {**h, ABC: 2}),
+                 ("endless",), ("endless", h, 0), ("endless", 1, h), ("endless", None), ("least", h), ("rank", h),
+                 ("endless", {}), ("endless", {some: -n for some, n in h.items()})]
         check_judge(self, lambda value: is_least_bound(ABC, SIDES[:1], value), right, wrong)
         for value in right:
             self.assertIs(is_least_bound(ABC, SIDES, value), False)
@@ -406,7 +412,8 @@ class WrongArgumentsTest(unittest.TestCase):
         s = (InvalidNumber, wrong_numbers(1))
         h = step_rank((0, 1), (0, 1))
         rank = (InvalidRank, ODD + OBJECTS + BOOLS + LONG_NUMBERS + (
-            0, (), {(): 0}, {**h, (): 1}, {**h, (0, 1): 0}, {**h, (0,): True}, {**h, (2,): 1}, tuple(h.items()), {**h, (0,): None},
+            0, (), {(): 0}, {**h, (): 1}, {**h, (0, 1): 0}, {**h, (0,): True}, {**h, (2,): 1}, tuple(h.items()),
+            {**h, (0,): None},
         ))
         check_wrongs(self, does_keep, ((0, 1), self.RIGHT, GREATEST, h), ((self.LOT,), (self.TOLD,), (s,), (rank,)))
 
@@ -415,9 +422,9 @@ class WrongArgumentsTest(unittest.TestCase):
         check_wrongs(self, keeps, (question, self.RIGHT), ((self.QUESTION,), (self.TOLD,)))
         pair = ((), (0, 1))
         pairs = (InvalidTold, ODD + OBJECTS + BOOLS + LONG_NUMBERS + (
-            0, ((),), (0,), pair, (pair + (1,),), (pair,) * 21, (((0, 1), (0, 1)),), (((0, 1), ()),), (((), (2,)),), [pair],
-            ([(), (0, 1)],), ((None, (0, 1)),), (((), [0, 1]),), (((), (True,)),), {(): (0, 1)}, (((), (1, 0)),), (pair, None),
-            ((0, 1),), (((), 1),),
+            0, ((),), (0,), pair, (pair + (1,),), (pair,) * 21, (((0, 1), (0, 1)),), (((0, 1), ()),), (((), (2,)),),
+            [pair], ([(), (0, 1)],), ((None, (0, 1)),), (((), [0, 1]),), (((), (True,)),), {(): (0, 1)},
+            (((), (1, 0)),), (pair, None), ((0, 1),), (((), 1),),
         ))
         check_wrongs(self, exact_told, (question, (pair,)), ((self.QUESTION,), (pairs,)))
 

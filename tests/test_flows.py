@@ -28,7 +28,8 @@ def drawn_flows(seed, times, most=3):
     yield (), NONE
     for at in range(times):
         lot = LOTS[at % len(LOTS)]
-        yield lot, drawn_flow(chance, lot, chance.choice((0, 1, 3, 6, 12)), chance.choice((1, most)), chance.choice((None, lot)))
+        yield lot, drawn_flow(chance, lot, chance.choice((0, 1, 3, 6, 12)), chance.choice((1, most)),
+                              chance.choice((None, lot)))
 
 
 FLOWS = list(drawn_flows(101, 120))
@@ -111,11 +112,13 @@ class FlowTest(unittest.TestCase):
         right = [WEB, huge, more, NONE, ((),) + WEB[1:],
                  change(more, (3,), (((), (0, 1), 2), ((0,), (0, 1), 3)))]
         wrong = [value for value in wrong_flows((0, 1)) if "1000000000" not in shown(value)]
-        wrong += [change(huge, (0, 0, 1), 2 * HUGE + 1), change(WEB, (2,), WEB[2][::-1]), change(WEB, (1,), WEB[1][::-1]),
-                  change(WEB, (2, 0), ((1, 2), (0,), 1)), WEB[:3], WEB + ((),), change(WEB, (0, 0), ((0, 1, 2, 3), 2)),
-                  change(WEB, (1, 0), ((), (0, 4), 1)), change(WEB, (2, 0), ((0,), (1, 4), 1)), change(WEB, (3,), None)]
+        wrong += [change(huge, (0, 0, 1), 2 * HUGE + 1), change(WEB, (2,), WEB[2][::-1]),
+                  change(WEB, (1,), WEB[1][::-1]), change(WEB, (2, 0), ((1, 2), (0,), 1)), WEB[:3], WEB + ((),),
+                  change(WEB, (0, 0), ((0, 1, 2, 3), 2)), change(WEB, (1, 0), ((), (0, 4), 1)),
+                  change(WEB, (2, 0), ((0,), (1, 4), 1)), change(WEB, (3,), None)]
         check_judge(self, lambda value: is_flow(ABC, value), right, wrong)
-        check_judge(self, lambda value: is_flow((), value), [NONE], [WEB, (((), 1),) + NONE[1:], ((((), 1),), (), (), ())])
+        check_judge(self, lambda value: is_flow((), value), [NONE], [WEB, (((), 1),) + NONE[1:],
+                                                                     ((((), 1),), (), (), ())])
         check_judge(self, lambda value: is_flow((3,), value), [NONE, ((((3,), 1),), (((), (3,), 1),), (), ())],
                     [((((3,), 2),), (((), (3,), 1),), (), ()), ((((3,), 1),), (), (), ())])
 
@@ -154,7 +157,8 @@ class FlowTest(unittest.TestCase):
         for (lot, flow), (_, other) in zip(FLOWS, FLOWS[len(LOTS):]):
             for number in (1, 2, GREATEST):
                 scaled = scaled_flow(lot, flow, number)
-                self.assertEqual(scaled, tuple(tuple(thing[:-1] + (thing[-1] * number,) for thing in things) for things in flow))
+                self.assertEqual(scaled, tuple(tuple(thing[:-1] + (thing[-1] * number,) for thing in things)
+                                               for things in flow))
                 self.assertIs(is_flow(lot, scaled), True)
             if is_flow(lot, other):
                 both = flow_sum(lot, flow, other)
@@ -205,28 +209,31 @@ class StepsTest(unittest.TestCase):
     def test_are_steps_as_a_judge(self):
         right = [STEPS, (("cut", (1, 2), (0, 1)), ("cut", (0, 2), (1,)), ("join", (0, 1), ABC), ("goal", ABC),
                          ("join", (1,), ABC), ("goal", ABC))]
-        wrong = [STEPS[:4], STEPS[::-1], STEPS + STEPS, STEPS + (("goal", ABC),), STEPS + (("spare", ABC),), STEPS + ((),),
-                 STEPS + (("spare",),), STEPS[:-1] + (("goal",),), STEPS[:-1] + (("goal", ABC, ABC),), STEPS[:-1],
-                 STEPS[:-1] + (("spare", ABC),), STEPS[:-1] + (("gaol", ABC),), STEPS[:-1] + ((None, ABC),), ("goal", ABC),
-                 (("cut", (1, 2), (0, 1, 2)),) + STEPS[1:], (("cut", (1, 2), (5,)),) + STEPS[1:],
+        wrong = [STEPS[:4], STEPS[::-1], STEPS + STEPS, STEPS + (("goal", ABC),), STEPS + (("spare", ABC),),
+                 STEPS + ((),), STEPS + (("spare",),), STEPS[:-1] + (("goal",),), STEPS[:-1] + (("goal", ABC, ABC),),
+                 STEPS[:-1], STEPS[:-1] + (("spare", ABC),), STEPS[:-1] + (("gaol", ABC),), STEPS[:-1] + ((None, ABC),),
+                 ("goal", ABC), (("cut", (1, 2), (0, 1, 2)),) + STEPS[1:], (("cut", (1, 2), (5,)),) + STEPS[1:],
                  (("cut", (1, 2), (0,), ()),) + STEPS[1:], (("drop", (1, 2), (1, 2)),) + STEPS[1:],
-                 (("drop", (1, 2), (0,)),) + STEPS[1:], (("join", (1, 2), ABC),) + STEPS[1:], ((),) + STEPS, (None,) + STEPS,
-                 (("cut", (1, 2), None),) + STEPS[1:], (("cut", [1, 2], (0,)),) + STEPS[1:]]
+                 (("drop", (1, 2), (0,)),) + STEPS[1:], (("join", (1, 2), ABC),) + STEPS[1:], ((),) + STEPS,
+                 (None,) + STEPS, (("cut", (1, 2), None),) + STEPS[1:], (("cut", [1, 2], (0,)),) + STEPS[1:]]
         check_judge(self, lambda value: are_steps(ABC, WEB, value), right, wrong)
 
     def test_flows_without_goals(self):
         free = ((), (((), (0,), 2), ((0,), (0, 1), 1)), (), ())
         self.assertEqual(steps_of((0, 1), free), ())
-        right = [(), (("spare", (0,)),), (("spare", (0,)), ("spare", (0,))), (("join", (0,), (0, 1)),), (("drop", (0,), ()),),
-                 (("cut", (0,), (1,)),), (("join", (0,), (0, 1)), ("drop", (0, 1), (1,)), ("spare", (1,)), ("spare", (0,)))]
-        wrong = [(("spare", (0,)),) * 3, (("goal", (0,)),), (("spare", (1,)),), (("cut", (0,), (0, 1)),), (("spare", ()),)]
+        right = [(), (("spare", (0,)),), (("spare", (0,)), ("spare", (0,))), (("join", (0,), (0, 1)),),
+                 (("drop", (0,), ()),), (("cut", (0,), (1,)),), (("join", (0,), (0, 1)), ("drop", (0, 1), (1,)),
+                                                                 ("spare", (1,)), ("spare", (0,)))]
+        wrong = [(("spare", (0,)),) * 3, (("goal", (0,)),), (("spare", (1,)),), (("cut", (0,), (0, 1)),),
+                 (("spare", ()),)]
         check_judge(self, lambda value: are_steps((0, 1), free, value), right, wrong)
         check_judge(self, lambda value: are_steps((), NONE, value), [()], [(("spare", ()),), (("goal", ()),)])
 
     def test_goals_of_several_lots(self):
         flow = ((((0,), 1), ((0, 1), 1)), (((), (0,), 1), ((), (0, 1), 1)), (), ())
         right = [(("goal", (0,)), ("goal", (0, 1))), (("goal", (0, 1)), ("goal", (0,)))]
-        wrong = [(("goal", (0,)),), (("goal", (0,)), ("goal", (0,))), (("drop", (0, 1), (0,)), ("goal", (0,)), ("goal", (0,)))]
+        wrong = [(("goal", (0,)),), (("goal", (0,)), ("goal", (0,))), (("drop", (0, 1), (0,)), ("goal", (0,)),
+                                                                       ("goal", (0,)))]
         check_judge(self, lambda value: are_steps((0, 1), flow, value), right, wrong)
 
     def test_two_hundred_counts_and_one_more(self):
@@ -285,7 +292,8 @@ class WithoutTest(unittest.TestCase):
 
     def test_is_without_as_a_judge(self):
         other = ((((0, 1, 2), 1),), (((), (0, 2), 1), ((), (1, 2), 1)), (((0, 2), (1, 2), 1),), ())
-        right = [other, ((((0, 1, 2), 1),), (((), (0, 2), 1), ((), (1, 2), 1)), (((0,), (1, 2), 1),), (((0,), (0, 2), 1),))]
+        right = [other, ((((0, 1, 2), 1),), (((), (0, 2), 1), ((), (1, 2), 1)), (((0,), (1, 2), 1),),
+                         (((0,), (0, 2), 1),))]
         wrong = [WEB, NONE, ((),) + other[1:], ((((0, 1, 2), 2),),) + other[1:], change(other, (1, 0, 2), 2),
                  change(other, (1,), (((), (0, 1), 1),) + other[1][1:]), change(other, (0, 0), ((0, 2), 1)),
                  change(other, (2,), ()), change(other, (0, 0, 1), HUGE), other[:3], change(other, (1, 0, 2), HUGE)]

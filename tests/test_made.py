@@ -44,7 +44,8 @@ def rows_plainly(lot, vectors, sources=8):
     """The rows of all values of the sources, from the words of the document."""
     found = set()
     for values in range(2 ** sources):
-        found.add(tuple(sum(2 ** i for i, vector in enumerate(some) if bin(vector & values).count("1") % 2) for some in vectors))
+        found.add(tuple(sum(2 ** i for i, vector in enumerate(some) if bin(vector & values).count("1") % 2)
+                        for some in vectors))
     return sorted(found)
 
 
@@ -64,15 +65,17 @@ def rank_plainly(lot, vectors):
 
 def counts_plainly(lot, h):
     """c(S), word for word."""
-    return {S: sum((-1) ** (len(S) - len(Z)) * (h[lot] - h[less(lot, Z)]) for Z in all_lots(S)) for S in all_lots(lot)[1:]}
+    return {S: sum((-1) ** (len(S) - len(Z)) * (h[lot] - h[less(lot, Z)]) for Z in all_lots(S))
+            for S in all_lots(lot)[1:]}
 
 
 class VectorTest(unittest.TestCase):
     def test_are_vectors(self):
         """[14.1]"""
         right = [PARITY, ((), (), ()), ((0,), (4095,), (7, 7, 0)), ((4095,) * 12,) * 3, (tuple(range(12)), (), (1,))]
-        wrong = [PARITY[:2], PARITY + ((1,),), ((4096,), (), ()), ((-1,), (), ()), ((1,) * 13, (), ()), (1, 2, 3), ((1,), (2,), None),
-                 ((1,), (2,), ("3",)), ((1,), (2,), ((3,),)), {0: (1,), 1: (2,), 2: (3,)}, ((HUGE,), (), ()), ((1,), (2,), {})]
+        wrong = [PARITY[:2], PARITY + ((1,),), ((4096,), (), ()), ((-1,), (), ()), ((1,) * 13, (), ()), (1, 2, 3),
+                 ((1,), (2,), None), ((1,), (2,), ("3",)), ((1,), (2,), ((3,),)), {0: (1,), 1: (2,), 2: (3,)},
+                 ((HUGE,), (), ()), ((1,), (2,), {})]
         check_judge(self, lambda value: are_vectors(ABC, value), right, wrong)
         check_judge(self, lambda value: are_vectors((), value), [()], [((),), (1,)])
         check_judge(self, lambda value: are_vectors((4,), value), [((),), ((0, 1),)], [(), (0,), ((0, 4096),)])
@@ -142,7 +145,8 @@ class StepTest(unittest.TestCase):
                     left -= counts[some]
                 owners = [some for some in sorted(counts) for _ in range(counts[some])]
                 vectors = step_vectors(lot, counts)
-                self.assertEqual(vectors, tuple(tuple(2 ** s for s, some in enumerate(owners) if letter in some) for letter in lot))
+                self.assertEqual(vectors, tuple(tuple(2 ** s for s, some in enumerate(owners) if letter in some)
+                                                for letter in lot))
                 self.assertIs(are_vectors(lot, vectors), True)
                 h = {x: sum(1 for some in owners if common(x, some)) for x in all_lots(lot)}
                 self.assertEqual(vector_rank(lot, vectors), h)
@@ -164,7 +168,8 @@ class StepTest(unittest.TestCase):
         for (lot, one), (_, other) in zip(cases, cases[1:]):
             if len(one) != len(other):
                 continue
-            m, n = [max([vector.bit_length() for some in vectors for vector in some], default=0) for vectors in (one, other)]
+            m, n = [max([vector.bit_length() for some in vectors for vector in some], default=0)
+                    for vectors in (one, other)]
             longest = max([len(a) + len(b) for a, b in zip(one, other)], default=0)
             seen.add((m + n > 12, longest > 12))
             if m + n > 12 or longest > 12:
@@ -204,7 +209,8 @@ class StepTest(unittest.TestCase):
         chance = random.Random(147)
         for lot in LOTS[1:]:
             for _ in range(10):
-                counts = {some: chance.randint(0, 2) for some in chance.sample(all_lots(lot)[1:], min(4, 2 ** len(lot) - 1))}
+                counts = {some: chance.randint(0, 2) for some in chance.sample(all_lots(lot)[1:],
+                                                                               min(4, 2 ** len(lot) - 1))}
                 h = {x: sum(n for S, n in counts.items() if common(x, S)) for x in all_lots(lot)}
                 self.assertEqual(vector_rank(lot, step_vectors(lot, step_counts(lot, h))), h)
         self.assertEqual(vector_rank(ABC, PARITY), parity_rank(ABC, ABC))
@@ -236,7 +242,8 @@ class ReachTest(unittest.TestCase):
     def test_bounds_that_are_reached(self):
         """[14.5]: where the rank of a least bound is one of vectors, the answer has just so many rows."""
         seen = 0
-        for lot, lots in ((ABC, tuple(combinations(ABC, 2))), (FOUR, ((0, 1), (1, 2), (2, 3))), (ABC, ((0, 1), (1, 2)))):
+        for lot, lots in ((ABC, tuple(combinations(ABC, 2))), (FOUR, ((0, 1), (1, 2), (2, 3))),
+                          (ABC, ((0, 1), (1, 2)))):
             for numbers in product((0, 1, 2), repeat=len(lot)):
                 vectors, at = [], 0
                 for n in numbers:
@@ -265,7 +272,8 @@ class ReachTest(unittest.TestCase):
             pairs = [(low, high) for high in all_lots(lot) for low in all_lots(high) if low != high]
             for _ in range(6):
                 chosen = chance.sample(pairs, min(len(pairs), 4))
-                told = tuple((low, high, max(0, h[high] - h[low] + chance.choice((0, 0, 0, 1, -1)))) for low, high in chosen)
+                told = tuple((low, high, max(0, h[high] - h[low] + chance.choice((0, 0, 0, 1, -1)))) for low,
+                             high in chosen)
                 D = chance.randint(1, 3)
                 p = D * h[lot] + chance.choice((0, 0, 1))
                 right = p == D * h[lot] and all(h[high] - h[low] <= k for low, high, k in told)
@@ -282,8 +290,9 @@ class ReachTest(unittest.TestCase):
 class WrongArgumentsTest(unittest.TestCase):
     LOT = (InvalidLot, WRONG_LOTS + ((0, 1, 2, 3, 4, 5),))
     VECTORS = (InvalidOperation, ODD + OBJECTS + BOOLS + LONG_NUMBERS + (
-        0, (), ((1,),), ((1,), (2,), (3,)), ((4096,), ()), ((-1,), ()), ((True,), ()), ((1,), (False,)), ((1,) * 13, ()), [(1,), (2,)],
-        ((1,), [2]), (1, 2), ((1,), None), ((1,), ("2",)), ((HUGE,), ()), {0: (1,), 1: (2,)},
+        0, (), ((1,),), ((1,), (2,), (3,)), ((4096,), ()), ((-1,), ()), ((True,), ()), ((1,), (False,)),
+        ((1,) * 13, ()), [(1,), (2,)], ((1,), [2]), (1, 2), ((1,), None), ((1,), ("2",)), ((HUGE,), ()),
+        {0: (1,), 1: (2,)},
     ))
     RIGHT = ((1,), (1, 3))
 
@@ -297,8 +306,9 @@ class WrongArgumentsTest(unittest.TestCase):
 
     def test_counts_and_ranks(self):
         counts = (InvalidOperation, ODD[:8] + ODD[9:] + OBJECTS + BOOLS + LONG_NUMBERS + (
-            0, (), {(): 1}, {(2,): 1}, {(0,): -1}, {(0,): True}, {(0,): None}, {(0,): "1"}, {(0,): 10 ** 9}, {(True,): 1}, {(1, 0): 1},
-            {None: 1}, {0: 1}, (((0,), 1),), {(0,): 1, (5,): 0}, {(0,): 13, (2,): 1}, {(0,): HUGE},
+            0, (), {(): 1}, {(2,): 1}, {(0,): -1}, {(0,): True}, {(0,): None}, {(0,): "1"}, {(0,): 10 ** 9},
+            {(True,): 1}, {(1, 0): 1}, {None: 1}, {0: 1}, (((0,), 1),), {(0,): 1, (5,): 0}, {(0,): 13, (2,): 1},
+            {(0,): HUGE},
         ))
         check_wrongs(self, step_vectors, ((0, 1), {(0,): 1}), ((self.LOT,), (counts,)))
         h = step_rank((0, 1), (0, 1))
@@ -308,7 +318,8 @@ class WrongArgumentsTest(unittest.TestCase):
 
     def test_reaching(self):
         lots = (InvalidLot, ODD + OBJECTS + BOOLS + LONG_NUMBERS + (
-            0, (), (0,), (0, 1), ((0, 1),) * 13, ((1, 0),), ((True,),), ((0,), None), [(0, 1)], ([0, 1],), ((6,),), ((0, 0),),
+            0, (), (0,), (0, 1), ((0, 1),) * 13, ((1, 0),), ((True,),), ((0,), None), [(0, 1)], ([0, 1],), ((6,),),
+            ((0, 0),),
         ))
         check_wrongs(self, reaching, ((0, 1), ((0,), (1,)), self.RIGHT), ((self.LOT,), (lots,), (self.VECTORS,)))
         for wrong in (((0,),), ((0, 1), (2,)), ((),), ((0, 1, 2),), ((5,),)):
@@ -322,7 +333,8 @@ class WrongArgumentsTest(unittest.TestCase):
     def test_is_reached(self):
         told = (InvalidTold, wrong_told((0, 1)))
         p, D = (InvalidNumber, wrong_numbers(0)), (InvalidNumber, wrong_numbers(1))
-        check_wrongs(self, is_reached, ((0, 1), (((), (0,), 1),), self.RIGHT, 2, 1), ((self.LOT,), (told,), (self.VECTORS,), (p,), (D,)))
+        check_wrongs(self, is_reached, ((0, 1), (((), (0,), 1),), self.RIGHT, 2, 1),
+                     ((self.LOT,), (told,), (self.VECTORS,), (p,), (D,)))
 
     def test_nothing_is_changed(self):
         before = shown(self.RIGHT)
@@ -335,7 +347,7 @@ class NotTrueTest(unittest.TestCase):
     """[14.6]"""
 
     def test_two_of_four_is_no_rank_of_vectors(self):
-        """On four letters each two of which are 2 together, each with one source, there would be four unlike vectors of two sources."""
+        """Four letters, each two of them 2 together, would need four unlike vectors but 0 that two make."""
         h = {some: min(len(some), 2) for some in all_lots(FOUR)}
         self.assertTrue(ranks_plainly(FOUR, h))
         for vectors in product(range(4), repeat=4):

@@ -48,7 +48,8 @@ def drawn_orders(seed, times):
 
 
 def goes_plainly(told, order):
-    return all(order.index(elder) < order.index(new) for low, high, _ in told for elder in low for new in set(high) - set(low))
+    return all(order.index(elder) < order.index(new) for low, high, _ in told for elder in low
+               for new in set(high) - set(low))
 
 
 def weighs_plainly(lot, told, weights):
@@ -74,7 +75,8 @@ def begins_plainly(question, order, many):
     found = []
     for row in product(numbers, repeat=many):
         told = dict(zip(letters, row))
-        if all(any(all(part_row[part.lot.index(x)] == n for x, n in told.items() if x in part.lot) for part_row in part.rows)
+        if all(any(all(part_row[part.lot.index(x)] == n for x, n in told.items() if x in part.lot)
+                   for part_row in part.rows)
                for part in question.parts):
             found.append(row)
     return found
@@ -191,10 +193,12 @@ class BoundTest(unittest.TestCase):
 
 class JudgeTest(unittest.TestCase):
     def test_are_weights(self):
-        right = [WEIGHTS, (1, (1, 0, 1, 0)), (2, (2, 1, 1, 1)), (1, (5, 5, 5, 5)), (HUGE, (HUGE, HUGE, 0, HUGE)), (1, (1, 0, 1, HUGE))]
-        wrong = [(1, (1, 1, 0, 0)), (2, (1, 1, 0, 1)), (0, (1, 1, 0, 1)), (-1, (1, 1, 0, 1)), (1, (1, 1, 0)), (1, (1, 1, 0, 1, 1)),
-                 (1, (1, 1, -1, 2)), (1, None), (1,), (1, (1, 1, 0, 1), 1), ("1", (1, 1, 0, 1)), (1, (1, 1, None, 1)), ((1, 1, 0, 1), 1),
-                 (HUGE + 1, (HUGE, HUGE, 0, HUGE)), (1, {0: 1, 1: 1, 2: 0, 3: 1})]
+        right = [WEIGHTS, (1, (1, 0, 1, 0)), (2, (2, 1, 1, 1)), (1, (5, 5, 5, 5)), (HUGE, (HUGE, HUGE, 0, HUGE)),
+                 (1, (1, 0, 1, HUGE))]
+        wrong = [(1, (1, 1, 0, 0)), (2, (1, 1, 0, 1)), (0, (1, 1, 0, 1)), (-1, (1, 1, 0, 1)), (1, (1, 1, 0)),
+                 (1, (1, 1, 0, 1, 1)), (1, (1, 1, -1, 2)), (1, None), (1,), (1, (1, 1, 0, 1), 1), ("1", (1, 1, 0, 1)),
+                 (1, (1, 1, None, 1)), ((1, 1, 0, 1), 1), (HUGE + 1, (HUGE, HUGE, 0, HUGE)),
+                 (1, {0: 1, 1: 1, 2: 0, 3: 1})]
         for value in right:
             self.assertTrue(weighs_plainly(ABC, TOLD, value))
         check_judge(self, lambda value: are_weights(ABC, TOLD, value), right, wrong)
@@ -202,10 +206,11 @@ class JudgeTest(unittest.TestCase):
 
     def test_are_numbers(self):
         right = [NUMBERS, (1, {0: 0, 1: 0, 2: 0}), (2, {2: 2, 1: 2, 0: 4}), (HUGE, {0: 2 * HUGE, 1: HUGE, 2: HUGE})]
-        wrong = [(1, {0: 3, 1: 1, 2: 1}), (1, {0: 2, 1: 2, 2: 1}), (1, {0: 2, 1: 1}), (1, {0: 2, 1: 1, 2: 1, 3: 0}), (0, {0: 0, 1: 0, 2: 0}),
-                 (1, {0: 2, 1: 1, 2: -1}), (1, {0: 2, 1: 1, 2: None}), (1, (2, 1, 1)), (1,), (1, NUMBERS[1], 1), ("1", NUMBERS[1]),
-                 (1, {0: 2, 1: 1, "2": 1}), (1, {0: 2, 1: 1, None: 1}), (1, {0: 2, 1: 1, (2,): 1}), (1, {}), (-1, NUMBERS[1]),
-                 (HUGE, {0: 2 * HUGE + 1, 1: HUGE, 2: HUGE}), (NUMBERS[1], 1)]
+        wrong = [(1, {0: 3, 1: 1, 2: 1}), (1, {0: 2, 1: 2, 2: 1}), (1, {0: 2, 1: 1}), (1, {0: 2, 1: 1, 2: 1, 3: 0}),
+                 (0, {0: 0, 1: 0, 2: 0}), (1, {0: 2, 1: 1, 2: -1}), (1, {0: 2, 1: 1, 2: None}), (1, (2, 1, 1)), (1,),
+                 (1, NUMBERS[1], 1), ("1", NUMBERS[1]), (1, {0: 2, 1: 1, "2": 1}), (1, {0: 2, 1: 1, None: 1}),
+                 (1, {0: 2, 1: 1, (2,): 1}), (1, {}), (-1, NUMBERS[1]), (HUGE, {0: 2 * HUGE + 1, 1: HUGE, 2: HUGE}),
+                 (NUMBERS[1], 1)]
         for value in right:
             self.assertTrue(numbers_plainly(ABC, TOLD, value))
         check_judge(self, lambda value: are_numbers(ABC, TOLD, value), right, wrong)
@@ -214,18 +219,23 @@ class JudgeTest(unittest.TestCase):
     def test_is_letter_bound(self):
         many = (HUGE, (HUGE, HUGE, 0, HUGE)), (HUGE, {0: 2 * HUGE, 1: HUGE, 2: HUGE})
         right = [("least", (4, 1), WEIGHTS, NUMBERS), ("least", (4, 1)) + many, ("least", (4, 1), WEIGHTS, many[1])]
-        wrong = [("least", (8, 2), WEIGHTS, NUMBERS), ("least", (5, 1), WEIGHTS, NUMBERS), ("least", (4, 1), (1, (1, 0, 1, 0)), NUMBERS),
-                 ("least", (4, 1), WEIGHTS, (1, {0: 2, 1: 1, 2: 0})), ("least", (4, 1), NUMBERS, WEIGHTS), ("least", (4, 1), WEIGHTS),
-                 ("open", 0), ("open", None), ("least", 4, WEIGHTS, NUMBERS), ("least", (4, 0), WEIGHTS, NUMBERS), ("least",),
-                 ("most", (4, 1), WEIGHTS, NUMBERS), ("least", (4, 1), WEIGHTS, NUMBERS, 0), ("least", (-4, -1), WEIGHTS, NUMBERS),
-                 ("least", (4 * HUGE, HUGE), WEIGHTS, NUMBERS), ("least", (4,), WEIGHTS, NUMBERS), ("least", ("4", 1), WEIGHTS, NUMBERS)]
+        wrong = [("least", (8, 2), WEIGHTS, NUMBERS), ("least", (5, 1), WEIGHTS, NUMBERS),
+                 ("least", (4, 1), (1, (1, 0, 1, 0)), NUMBERS), ("least", (4, 1), WEIGHTS, (1, {0: 2, 1: 1, 2: 0})),
+                 ("least", (4, 1), NUMBERS, WEIGHTS), ("least", (4, 1), WEIGHTS), ("open", 0), ("open", None),
+                 ("least", 4, WEIGHTS, NUMBERS), ("least", (4, 0), WEIGHTS, NUMBERS), ("least",),
+                 ("most", (4, 1), WEIGHTS, NUMBERS), ("least", (4, 1), WEIGHTS, NUMBERS, 0),
+                 ("least", (-4, -1), WEIGHTS, NUMBERS), ("least", (4 * HUGE, HUGE), WEIGHTS, NUMBERS),
+                 ("least", (4,), WEIGHTS, NUMBERS), ("least", ("4", 1), WEIGHTS, NUMBERS)]
         check_judge(self, lambda value: is_letter_bound(ABC, TOLD, ABC, value), right, wrong)
         opened = [("open", 1)]
-        wrong = [("open", 0), ("open", 2), ("open", "1"), ("open", (1,)), ("open",), ("open", 1, 1), ("least", 1), ("open", HUGE)]
+        wrong = [("open", 0), ("open", 2), ("open", "1"), ("open", (1,)), ("open",), ("open", 1, 1), ("least", 1),
+                 ("open", HUGE)]
         check_judge(self, lambda value: is_letter_bound(ABC, TOLD[:1], ABC, value), opened, wrong)
         none = (((), ABC, 0),)
-        right = [("least", (0, 1), (1, (1,)), (1, dict.fromkeys(ABC, 0))), ("least", (0, 1), (1, (HUGE,)), (HUGE, dict.fromkeys(ABC, 0)))]
-        wrong = [("least", (0, 2), (1, (1,)), (1, dict.fromkeys(ABC, 0))), ("least", (0, 0), (1, (1,)), (1, dict.fromkeys(ABC, 0)))]
+        right = [("least", (0, 1), (1, (1,)), (1, dict.fromkeys(ABC, 0))),
+                 ("least", (0, 1), (1, (HUGE,)), (HUGE, dict.fromkeys(ABC, 0)))]
+        wrong = [("least", (0, 2), (1, (1,)), (1, dict.fromkeys(ABC, 0))),
+                 ("least", (0, 0), (1, (1,)), (1, dict.fromkeys(ABC, 0)))]
         check_judge(self, lambda value: is_letter_bound(ABC, none, ABC, value), right, wrong)
 
 
@@ -356,7 +366,8 @@ class WrongArgumentsTest(unittest.TestCase):
     LOT = (InvalidLot, WRONG_LOTS)
     TOLD = (InvalidTold, wrong_told((0, 1)))
     ORDER = (InvalidLot, ODD + OBJECTS + BOOLS + LONG_NUMBERS + (
-        0, (), (0,), (0, 0), (0, 1, 1), (0, 2), [0, 1], (0, True), (False, 1), (0, None), (0, "1"), "01", {0: 0, 1: 1}, (0, (1,))))
+        0, (), (0,), (0, 0), (0, 1, 1), (0, 2), [0, 1], (0, True), (False, 1), (0, None), (0, "1"), "01", {0: 0, 1: 1},
+        (0, (1,))))
     RIGHT = (((), (0, 1), 2),)
 
     def test_bounds(self):
@@ -395,10 +406,11 @@ class WrongArgumentsTest(unittest.TestCase):
 
     def test_full_questions(self):
         lots = (InvalidLot, ODD + OBJECTS + BOOLS + LONG_NUMBERS + (
-            0, (), (0, 1), ((0,),), ((0,), ()), ((0, 1), (2,)), ((0, 1),) * 13, ((1, 0),), ((0, True),), ((0,), None), [(0, 1)], ([0, 1],)))
+            0, (), (0, 1), ((0,),), ((0,), ()), ((0, 1), (2,)), ((0, 1),) * 13, ((1, 0),), ((0, True),), ((0,), None),
+            [(0, 1)], ([0, 1],)))
         numbers = (InvalidOperation, ODD[:10] + ODD[11:] + OBJECTS + BOOLS + LONG_NUMBERS + (
-            0, (), {0: 1, 1: 10}, {0: 1, 1: -1}, {0: 1, 1: True}, {False: 1, 1: 1}, {0: 1}, {0: 1, 1: 1, 2: 1}, {0: 1, "1": 1}, {0: 1, 1: None},
-            {0: 1, None: 1}, (1, 1), {0: 1, 1: HUGE}, {0: 1, 1: "1"}))
+            0, (), {0: 1, 1: 10}, {0: 1, 1: -1}, {0: 1, 1: True}, {False: 1, 1: 1}, {0: 1}, {0: 1, 1: 1, 2: 1},
+            {0: 1, "1": 1}, {0: 1, 1: None}, {0: 1, None: 1}, (1, 1), {0: 1, 1: HUGE}, {0: 1, 1: "1"}))
         check_wrongs(self, full_question, ((0, 1), ((0,), (1,)), {1: 2, 0: 1}), ((self.LOT,), (lots,), (numbers,)))
         refused(self, InvalidOperation, full_question, ((0, 1), ((0, 1),), {0: 9, 1: 10}))
         refused(self, TooMany, full_question, ((0, 1), ((0, 1),), {0: 9, 1: 9}), 1000)
@@ -408,7 +420,8 @@ class NotTrueTest(unittest.TestCase):
     """[15.6]"""
 
     def test_some_orders_only(self):
-        self.assertEqual((do_go_along((0, 1), (((0,), (0, 1), 1),), (0, 1)), do_go_along((0, 1), (((0,), (0, 1), 1),), (1, 0))), (True, False))
+        self.assertEqual((do_go_along((0, 1), (((0,), (0, 1), 1),), (0, 1)),
+                          do_go_along((0, 1), (((0,), (0, 1), 1),), (1, 0))), (True, False))
 
     def test_the_letter_with_the_fewest_numbers_is_not_best_asked_first(self):
         side = Table((0, 1), tuple((n % 2, n) for n in range(6)))
@@ -417,7 +430,8 @@ class NotTrueTest(unittest.TestCase):
         told = tuple(((), (letter,), 3) for letter in ABC)
         looks = {order: searched_by(question, told, order)[1] for order in permutations(ABC)}
         fewest = min(many[0] for many in looks.values())
-        self.assertTrue(all(sum(many) > min(sum(some) for some in looks.values()) for many in looks.values() if many[0] == fewest))
+        self.assertTrue(all(sum(many) > min(sum(some) for some in looks.values()) for many in looks.values()
+                            if many[0] == fewest))
 
 
 if __name__ == "__main__":

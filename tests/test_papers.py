@@ -182,7 +182,8 @@ class EitherOrTest(unittest.TestCase):
         pairs = tuple(some for some in lots if len(some) == 2)
         even = cover_total(FIVE, pairs, (GREATEST // 4,) * 10, GREATEST)
         odd = cover_total(FIVE, pairs, (249999999,) * 9 + (250000002,), 999999999)
-        for total, told in ((even, "fails"), (odd, "fails"), (cover_total(FIVE, pairs, (250000000,) * 10, GREATEST), "holds")):
+        for total, told in ((even, "fails"), (odd, "fails"), (cover_total(FIVE, pairs, (250000000,) * 10, GREATEST),
+                                                              "holds")):
             self.assertEqual(inequality_answer(FIVE, total)[0], told)
             self.assertTrue(is_answer_plainly(FIVE, total, inequality_answer(FIVE, total)))
         self.assertEqual(cover_total(ABC, (), (), GREATEST), {ABC: -GREATEST})
@@ -220,11 +221,12 @@ class JudgeTest(unittest.TestCase):
         mixed = (2, (((0,), (1, 2), 1), ((0, 1), (0, 2), 1), ((0, 1), (1, 2), 1), ((0, 2), (1,), 1)), ())
         basic = (1, (((0,), (1,), 1), ((0, 1), (0, 2), 1), ((0, 1), (1, 2), 1)), ())
         right = [("holds", paper) for paper in (PAPER, other, long, huge, mixed, basic)]
-        wrong = [("holds", (2,) + PAPER[1:]), ("holds", (0, (), ())), ("holds", (-1,) + PAPER[1:]), ("holds", (1, (), ())),
-                 ("holds", PAPER[:2]), ("holds", PAPER + ((),)), ("fails", PAPER), ("holds",) + PAPER, ("holds", None),
-                 ("holds", (1, PAPER[1][::-1], ())), ("holds", (1, PAPER[1] + PAPER[1], ())), PAPER, ("holds",),
-                 ("holds", (1, PAPER[1][:1], ())), ("holds", (1, PAPER[1], (((0,), (0, 1), 1),))),
-                 ("holds", (HUGE + 1, huge[1], ())), ("holds", (1, (((1, 2), (0,), 1), ((0, 1), (0, 2), 1)), ())),
+        wrong = [("holds", (2,) + PAPER[1:]), ("holds", (0, (), ())), ("holds", (-1,) + PAPER[1:]),
+                 ("holds", (1, (), ())), ("holds", PAPER[:2]), ("holds", PAPER + ((),)), ("fails", PAPER),
+                 ("holds",) + PAPER, ("holds", None), ("holds", (1, PAPER[1][::-1], ())),
+                 ("holds", (1, PAPER[1] + PAPER[1], ())), PAPER, ("holds",), ("holds", (1, PAPER[1][:1], ())),
+                 ("holds", (1, PAPER[1], (((0,), (0, 1), 1),))), ("holds", (HUGE + 1, huge[1], ())),
+                 ("holds", (1, (((1, 2), (0,), 1), ((0, 1), (0, 2), 1)), ())),
                  ("holds", (1, (((0,), (1, 2), 1), ((0, 1), (0, 2), 2)), ())),
                  ("holds", (1, (((0,), (1, 2), 1), ((0, 1), (0, 2), 1)), (((0,), (0,), 1),))),
                  ("holds", (2, (((0,), (1, 2), 1), ((0,), (1, 2), 1), ((0, 1), (0, 2), 2)), ())),
@@ -245,8 +247,8 @@ class JudgeTest(unittest.TestCase):
         right = [("fails", h) for h in (step, step_rank(ABC, (2,)), {x: (0 in x) + (2 in x) for x in step},
                                         {x: HUGE * n for x, n in step.items()}, dict(reversed(step.items())))]
         wrong = [("fails", step_rank(ABC, (1,))), ("fails", dict.fromkeys(step, 0)), ("fails", {**step, ABC: 3}),
-                 ("fails", {**step, (): 1}), ("fails", {}), ("fails", {**step, (3,): 0}), ("fails", step, 0), ("fails",),
-                 ("holds", step), ("fails", tuple(step.items())), ("fails", None), ("holds", (1, (), ())),
+                 ("fails", {**step, (): 1}), ("fails", {}), ("fails", {**step, (3,): 0}), ("fails", step, 0),
+                 ("fails",), ("holds", step), ("fails", tuple(step.items())), ("fails", None), ("holds", (1, (), ())),
                  ("fails", {x: -n for x, n in step.items()}), ("fails", {x: n for x, n in step.items() if x != (1,)})]
         check_judge(self, lambda value: is_inequality_answer(ABC, total, value), right, wrong)
 
@@ -256,10 +258,13 @@ class JudgeTest(unittest.TestCase):
         wrong = [("holds", (1, (), (((0, 1), (0,), 1),))), ("holds", (1, (), (((), (0, 1), 1), ((), (0,), -1))))]
         check_judge(self, lambda value: is_inequality_answer((0, 1), total, value), right, wrong)
         right = [("holds", (1, (), ())), ("holds", (HUGE, (), ()))]
-        check_judge(self, lambda value: is_inequality_answer((), {}, value), right, [("holds", (0, (), ())), ("fails", {(): 0})])
+        check_judge(self, lambda value: is_inequality_answer((), {}, value), right,
+                    [("holds", (0, (), ())), ("fails", {(): 0})])
         plain = {(0,): 2}
-        right = [("holds", (1, (), (((), (0,), 2),))), ("holds", (1, (((0,), (1,), 1),), (((), (0,), 1), ((1,), (0, 1), 1))))]
-        check_judge(self, lambda value: is_inequality_answer((0, 1), plain, value), right, [("holds", (2, (), (((), (0,), 2),)))])
+        right = [("holds", (1, (), (((), (0,), 2),))), ("holds", (1, (((0,), (1,), 1),),
+                                                                  (((), (0,), 1), ((1,), (0, 1), 1))))]
+        check_judge(self, lambda value: is_inequality_answer((0, 1), plain, value), right,
+                    [("holds", (2, (), (((), (0,), 2),)))])
 
 
 class WrongArgumentsTest(unittest.TestCase):
@@ -305,10 +310,12 @@ class WrongArgumentsTest(unittest.TestCase):
         # Of the values that are no lots two are tuples of lots.
         lots = (InvalidOperation, tuple(value for value in lots if value not in (((),), ((0,), (1,)))))
         weights = (InvalidOperation, ODD + OBJECTS + BOOLS + LONG_NUMBERS + (
-            0, (), (1,), (1, 1, 1), (1, -1), (1, LONG), (1, True), (False, 1), [1, 1], (1, "1"), (1, None), {0: 1, 1: 1},
+            0, (), (1,), (1, 1, 1), (1, -1), (1, LONG), (1, True), (False, 1), [1, 1], (1, "1"), (1, None),
+            {0: 1, 1: 1},
         ))
         k = (InvalidNumber, wrong_numbers(1))
-        check_wrongs(self, cover_total, (ABC, ((0,), (1, 2)), (1, GREATEST), 1), ((self.LOT,), (lots,), (weights,), (k,)))
+        check_wrongs(self, cover_total, (ABC, ((0,), (1, 2)), (1, GREATEST), 1),
+                     ((self.LOT,), (lots,), (weights,), (k,)))
         self.assertEqual(cover_total(ABC, ((0,),) * 32, (1,) * 32, 5), {(0,): 32, ABC: -5})
         refused(self, InvalidOperation, cover_total, (ABC, ((0,),) * 33, (1,) * 33, 5))
         refused(self, InvalidOperation, cover_total, (ABC, ((),), (), 5))

@@ -8,8 +8,8 @@ from crestjoin.flow.parts import groups_of, is_parted, level_of, most_parts, par
 from crestjoin.table.joins import join
 from crestjoin.table.tables import Table
 from tests.support import (
-    BOOLS, GREATEST, HUGE, LONG, LONG_NUMBERS, OBJECTS, ODD, SOME_TABLE, WRONG_LOTS, WRONG_TABLES, all_lots, check_judge,
-    check_wrongs, part_of, refused, shown, wrong_numbers,
+    BOOLS, GREATEST, HUGE, LONG, LONG_NUMBERS, OBJECTS, ODD, SOME_TABLE, WRONG_LOTS, WRONG_TABLES, all_lots,
+    check_judge, check_wrongs, part_of, refused, shown, wrong_numbers,
 )
 
 T = Table((0, 1), ((1, 1), (1, 2), (1, 3), (2, 1), (3, 1), (4, 5), (4, 6)))
@@ -26,7 +26,8 @@ def some_tables(seed, times):
         lot = ((2,), (0, 3), (1, 2, 5))[at % 3]
         rows = []
         for n in range(chance.randint(0, 12)):
-            rows += [(n,) + tuple(chance.randint(0, 9) for _ in lot[1:]) for _ in range(chance.choice((1, 2, 3, 4, 5, 8, 9, 16)))]
+            rows += [(n,) + tuple(chance.randint(0, 9) for _ in lot[1:])
+                     for _ in range(chance.choice((1, 2, 3, 4, 5, 8, 9, 16)))]
         yield Table(lot, tuple(rows))
 
 
@@ -42,7 +43,8 @@ def pieces_plainly(table, low, k):
     groups = groups_plainly(table, low)
     found = []
     for level in range(k + 1):
-        of_level = [rows for rows in groups.values() if 2 ** level >= len(rows) and (level == 0 or 2 ** (level - 1) < len(rows))]
+        of_level = [rows for rows in groups.values() if 2 ** level >= len(rows)
+                    and (level == 0 or 2 ** (level - 1) < len(rows))]
         for some in (of_level[:2 ** (k - level)], of_level[2 ** (k - level):]):
             if some:
                 found.append((level, tuple(sorted(row for rows in some for row in rows))))
@@ -148,15 +150,18 @@ class JudgeTest(unittest.TestCase):
         rows = T.rows
         lone = tuple((0, piece(row)) for row in rows)
         right = [parted(T, (0,), 3), parted(T, (0,), 3)[::-1], lone[::-1], tuple((3, piece(row)) for row in rows),
-                 ((2, piece(*rows[:3], *rows[5:])), (2, piece(*rows[3:5]))), ((2, piece(*rows[:4])), (2, piece(*rows[4:]))),
-                 ((1, piece(*rows[1:3])), (1, piece(rows[0], *rows[3:5])), (3, piece(*rows[5:]))),
+                 ((2, piece(*rows[:3], *rows[5:])), (2, piece(*rows[3:5]))),
+                 ((2, piece(*rows[:4])), (2, piece(*rows[4:]))), ((1, piece(*rows[1:3])),
+                                                                  (1, piece(rows[0], *rows[3:5])),
+                                                                  (3, piece(*rows[5:]))),
                  ((3, piece(*rows[:3])), (3, piece(rows[3])), (3, piece(rows[4])), (1, piece(*rows[5:])))]
-        wrong = [((3, T),), ((2, T),), parted(T, (0,), 3)[:2], parted(T, (0,), 3) + parted(T, (0,), 3)[:1], lone[:-1], (),
-                 lone + ((0, piece()),), ((4, piece(rows[0])),) + lone[1:], ((-1, piece(rows[0])),) + lone[1:],
-                 ((HUGE, piece(rows[0])),) + lone[1:], ((0, Table((0, 2), (rows[0],))),) + lone[1:], ((0, rows[:1]),) + lone[1:],
-                 ((None, piece(rows[0])),) + lone[1:], ((0, None),) + lone[1:], ((0, piece(rows[0]), 0),) + lone[1:],
-                 ((0, piece(rows[0], (9, 9))),) + lone[1:], ((0, piece(*rows[:2])),) + lone[2:], (None,) + lone[1:],
-                 ("0",) + lone[1:], ((0,),) + lone[1:], (0, T), ((0, piece(rows[0])),) + lone, T, rows]
+        wrong = [((3, T),), ((2, T),), parted(T, (0,), 3)[:2], parted(T, (0,), 3) + parted(T, (0,), 3)[:1], lone[:-1],
+                 (), lone + ((0, piece()),), ((4, piece(rows[0])),) + lone[1:], ((-1, piece(rows[0])),) + lone[1:],
+                 ((HUGE, piece(rows[0])),) + lone[1:], ((0, Table((0, 2), (rows[0],))),) + lone[1:],
+                 ((0, rows[:1]),) + lone[1:], ((None, piece(rows[0])),) + lone[1:], ((0, None),) + lone[1:],
+                 ((0, piece(rows[0]), 0),) + lone[1:], ((0, piece(rows[0], (9, 9))),) + lone[1:],
+                 ((0, piece(*rows[:2])),) + lone[2:], (None,) + lone[1:], ("0",) + lone[1:], ((0,),) + lone[1:], (0, T),
+                 ((0, piece(rows[0])),) + lone, T, rows]
         for value in right:
             self.assertTrue(are_pieces_plainly(T, (0,), 3, value))
         self.assertEqual(len(lone), most_parts(3))
@@ -212,7 +217,8 @@ class WrongArgumentsTest(unittest.TestCase):
     def test_tables_lots_and_powers(self):
         table, low = (InvalidTable, WRONG_TABLES), (InvalidLot, WRONG_LOTS)
         k = (InvalidNumber, wrong_numbers(0, 20))
-        check_wrongs(self, groups_of, (SOME_TABLE, (0,)), ((table,), (low, (InvalidOperation, ((2,), (0, 2), (0, 1, 2))))))
+        check_wrongs(self, groups_of, (SOME_TABLE, (0,)), ((table,), (low,
+                                                                      (InvalidOperation, ((2,), (0, 2), (0, 1, 2))))))
         check_wrongs(self, parted, (SOME_TABLE, (0,), 2), ((table,), (low,), (k,)))
         for value in ((), None):
             check_wrongs(self, is_parted, (SOME_TABLE, (0,), 2, value), ((table,), (low,), (k,), ()))
@@ -229,9 +235,9 @@ class WrongArgumentsTest(unittest.TestCase):
 
     def test_pieces(self):
         pieces = (InvalidOperation, ODD + OBJECTS + BOOLS + LONG_NUMBERS + (
-            0, (), (0, T), ((0,),), ((0, T, 0),), [(0, T)], ([0, T],), ((0, None),), ((0, T.rows),), ((-1, T),), ((21, T),),
-            ((True, T),), ((None, T),), (("0", T),), ((LONG, T),), ((T, 0),), ((0, T), (0, Table((0,), ((1,),)))),
-            ((0, T), None), {0: T}, ((0, T), (0, Table((0, 2), ()))),
+            0, (), (0, T), ((0,),), ((0, T, 0),), [(0, T)], ([0, T],), ((0, None),), ((0, T.rows),), ((-1, T),),
+            ((21, T),), ((True, T),), ((None, T),), (("0", T),), ((LONG, T),), ((T, 0),),
+            ((0, T), (0, Table((0,), ((1,),)))), ((0, T), None), {0: T}, ((0, T), (0, Table((0, 2), ()))),
         ))
         check_wrongs(self, put_together, (((0, T),),), ((pieces,),))
         before = shown(T)
@@ -250,7 +256,8 @@ class NotTrueTest(unittest.TestCase):
     def test_fewer_levels_need_not_have_fewer_rows_in_each_piece(self):
         even = Table((0, 1), tuple((n, m) for n in range(2) for m in range(4)))
         mixed = Table((0, 1), ((0, 0), (1, 0), (1, 1), (2, 0), (2, 1), (2, 2)))
-        self.assertEqual(([len(piece) for _, piece in parted(even, (0,), 3)], [len(piece) for _, piece in parted(mixed, (0,), 3)]),
+        self.assertEqual(([len(piece) for _, piece in parted(even, (0,), 3)],
+                          [len(piece) for _, piece in parted(mixed, (0,), 3)]),
                          ([8], [1, 2, 3]))
 
     def test_half_of_the_rows_need_not_be_a_piece(self):

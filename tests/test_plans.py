@@ -7,7 +7,7 @@ from unittest.mock import patch
 
 from crestjoin.errors import InvalidFlow, InvalidOperation, InvalidQuestion, InvalidTold, Refused, TooMany
 from crestjoin.flow import logs
-from crestjoin.flow.flows import scaled_flow
+from crestjoin.flow.flows import is_flow, is_without, scaled_flow, weight_of
 from crestjoin.flow.plans import is_log, log_answer, log_counts, log_sizes, plan_bound, run
 from crestjoin.rank.degrees import exact_told, least_bound
 from crestjoin.table.joins import Question, answer
@@ -29,8 +29,9 @@ RING = ((0, 1), (0, 4), (1, 2), (2, 3), (3, 4))
 # A flow of the ring by crossings of lots alone that have each one letter more than what they share.
 CROSSED = ((((0, 1, 2, 3, 4), 2),), tuple(((), some, 1) for some in RING), (
     ((0, 1), (1, 4), 1), ((0, 1, 2, 4), (0, 1, 3, 4), 1), ((0, 1, 2, 4), (0, 2, 3, 4), 1), ((0, 1, 4), (0, 2, 4), 1),
-    ((0, 1, 4), (0, 3, 4), 1), ((0, 1, 4), (1, 2, 4), 1), ((0, 2, 4), (2, 3, 4), 1), ((0, 4), (1, 4), 1), ((0, 4), (2, 4), 1),
-    ((0, 4), (3, 4), 1), ((1,), (4,), 1), ((1, 2), (2, 4), 1), ((2,), (4,), 1), ((2, 3), (3, 4), 1), ((3,), (4,), 1)), ())
+    ((0, 1, 4), (0, 3, 4), 1), ((0, 1, 4), (1, 2, 4), 1), ((0, 2, 4), (2, 3, 4), 1), ((0, 4), (1, 4), 1),
+    ((0, 4), (2, 4), 1), ((0, 4), (3, 4), 1), ((1,), (4,), 1), ((1, 2), (2, 4), 1), ((2,), (4,), 1),
+    ((2, 3), (3, 4), 1), ((3,), (4,), 1)), ())
 RUNS = list(drawn_runs(121, 60)) + [case for case in drawn_flow_runs(122, 90) if len(case[2][0]) == 1]
 
 
@@ -40,7 +41,8 @@ def exchanged(value, old, new):
         return [new]
     if not isinstance(value, tuple):
         return []
-    return [value[:at] + (other,) + value[at + 1:] for at, inner in enumerate(value) for other in exchanged(inner, old, new)]
+    return [value[:at] + (other,) + value[at + 1:] for at, inner in enumerate(value)
+            for other in exchanged(inner, old, new)]
 
 
 def near_logs(chance, log):
@@ -149,7 +151,8 @@ class MainTest(unittest.TestCase):
         few, many = Table((0, 1), ((0, 0), (1, 1))), Table((0, 1), tuple((n % 3, n) for n in range(6)))
         flow = ((((0, 1), 1),), (((), (0, 1), 1),), (), ())
         for told, parts, rows in (((((), (0, 1), 3),), (many, few), 6), ((((), (0, 1), 3),), (few, many), 2),
-                                  ((((), (0, 1), 1),), (many, few), 2), ((((), (0, 1), 3), ((), (0, 1), 1)), (many, few), 2)):
+                                  ((((), (0, 1), 1),), (many, few), 2),
+                                  ((((), (0, 1), 3), ((), (0, 1), 1)), (many, few), 2)):
             question = Question((0, 1), parts)
             follower = self.check(question, told, flow, (("goal", (0, 1)),))
             self.assertEqual(len(follower.ends[0][1]), rows)
@@ -175,7 +178,8 @@ class MainTest(unittest.TestCase):
         more = ((((0, 1), 4),), (((), (0,), 3), ((), (0, 1), 1), ((0,), (0, 1), 3)), (), ())
         self.check(question, told, flow, (join, ("give up", (0, 1), more), ("goal", (0, 1))))
         for bad in (((((0, 1), 4),), (((), (0,), 3), ((), (0, 1), 2), ((0,), (0, 1), 3)), (), ()),
-                    ((((0, 1), 5),), (((), (0,), 4), ((), (0, 1), 1), ((0,), (0, 1), 4)), (), ()), ((), left[1], (), ())):
+                    ((((0, 1), 5),), (((), (0,), 4), ((), (0, 1), 1), ((0,), (0, 1), 4)), (), ()),
+                    ((), left[1], (), ())):
             self.assertIs(is_log(question, told, flow, (join, ("give up", (0, 1), bad), ("goal", (0, 1)))), False)
         # The goal's guard is the first one again, where the joined one was given up: none of the last ones is left.
         twice = (join, ("give up", (0, 1), more), join, ("give up", (0, 1), left), ("goal", (0, 1)))
@@ -211,13 +215,11 @@ class MainTest(unittest.TestCase):
         parts = (Table((0,), ((0,), (1,))), skewed_table(chance, (1, 2), 8, 4), skewed_table(chance, (0, 3), 8, 4))
         question = Question(lot, parts)
         told = (((), (0,), 20), ((), (1, 2), 20), ((), (0, 3), 20))
-        flow = (((lot, 1),), (((), (0,), 1), ((), (0, 3), 1), ((), (1, 2), 1)), (((0,), (1, 2), 1), ((0, 1, 2), (0, 3), 1)), ())
-        log = (("cut", (1, 2), (0,)), ("join", (0,), ABC), ("cut", ABC, (0, 3), tuple(
-            (("join", (0, 3), lot), ("goal", lot)) for _ in range(2))))
-        rows = len(set(row[0] for row in parts[0].rows))
-        self.assertEqual(rows, 2)
-        follower = followed_plainly(question, told, flow, log)
-        log = log if follower else log[:2] + (log[2][:3] + (log[2][3][:1],),)
+        flow = (((lot, 1),), (((), (0,), 1), ((), (0, 3), 1), ((), (1, 2), 1)),
+                (((0,), (1, 2), 1), ((0, 1, 2), (0, 3), 1)), ())
+        # Both rows on 0 have as many rows above them: one piece.
+        log = (("cut", (1, 2), (0,)), ("join", (0,), ABC),
+               ("cut", ABC, (0, 3), ((("join", (0, 3), lot), ("goal", lot)),)))
         self.check(question, told, flow, log)
         self.check(question, told, flow, run(question, told, flow))
 
@@ -248,15 +250,18 @@ class JudgeTest(unittest.TestCase):
                  (("drop", (0, 1), (0,)), ("drop", (0,), ()), by_two), (("spare", (0, 1)), by_two), run(ASK, TOLD, WEB)]
         for value in right:
             self.assertIsNotNone(followed_plainly(ASK, TOLD, WEB, value))
-        wrong = [(("cut", (1, 2), (0,)), ("drop", (0, 1), (0,)), ("join", (0,), ABC), ("goal", ABC)), LOG[:1], LOG[::-1], LOG + (("goal", ABC),), (("goal", ABC),), (("goal", (0, 1)),), ((),), ((), ()),
+        wrong = [(("cut", (1, 2), (0,)), ("drop", (0, 1), (0,)), ("join", (0,), ABC), ("goal", ABC)), LOG[:1],
+                 LOG[::-1], LOG + (("goal", ABC),), (("goal", ABC),), (("goal", (0, 1)),), ((),), ((), ()),
                  (("cut", (1, 2), (0,), ()),) + LOG[1:], (("cut", (1, 2), (0, 1)),) + LOG[1:], (("goal", ABC, ()),),
-                 LOG[:1] + (LOG[1][:3],), LOG[:1] + (LOG[1][:3] + ((END,),),), LOG[:1] + (LOG[1][:3] + ((END, END, END),),),
-                 LOG[:1] + (LOG[1][:3] + (None,),), LOG[:1] + (LOG[1][:3] + ((END, None),),), (("spare", (0, 1)),),
-                 (("give up", (0, 1), WEB),) + LOG, (("give up", (0, 1)),) + LOG, (("give up", None, WEB),) + LOG,
-                 (("cut", (1, 2), (5,)),) + LOG[1:], (("drop", (1, 2), (0,)),) + LOG[1:], (("cut", (1, 2), (0, 3)),) + LOG[1:],
-                 (("take", (1, 2), (0,)),) + LOG[1:], ((None, (1, 2), (0,)),) + LOG[1:], (("cut", None, (0,)),) + LOG[1:],
-                 (("cut", (1, 2), (0,), None),) + LOG[1:], ("goal", ABC), LOG[:1] + (LOG[1][:3] + ((END, END[:1]),),),
-                 LOG[:1] + (LOG[1][:3] + ((END, END + END),),), (None,) + LOG, (SOME_TABLE,), ((SOME_TABLE, ABC),)]
+                 LOG[:1] + (LOG[1][:3],), LOG[:1] + (LOG[1][:3] + ((END,),),),
+                 LOG[:1] + (LOG[1][:3] + ((END, END, END),),), LOG[:1] + (LOG[1][:3] + (None,),),
+                 LOG[:1] + (LOG[1][:3] + ((END, None),),), (("spare", (0, 1)),), (("give up", (0, 1), WEB),) + LOG,
+                 (("give up", (0, 1)),) + LOG, (("give up", None, WEB),) + LOG, (("cut", (1, 2), (5,)),) + LOG[1:],
+                 (("drop", (1, 2), (0,)),) + LOG[1:], (("cut", (1, 2), (0, 3)),) + LOG[1:],
+                 (("take", (1, 2), (0,)),) + LOG[1:], ((None, (1, 2), (0,)),) + LOG[1:],
+                 (("cut", None, (0,)),) + LOG[1:], (("cut", (1, 2), (0,), None),) + LOG[1:], ("goal", ABC),
+                 LOG[:1] + (LOG[1][:3] + ((END, END[:1]),),), LOG[:1] + (LOG[1][:3] + ((END, END + END),),),
+                 (None,) + LOG, (SOME_TABLE,), ((SOME_TABLE, ABC),)]
         check_judge(self, lambda value: is_log(ASK, TOLD, WEB, value), right, wrong)
 
     def test_terms_that_are_not_great_are_not_given_up(self):
@@ -277,10 +282,11 @@ class JudgeTest(unittest.TestCase):
         terms = (((), (0,), 1), ((0,), ABC, 1))
         right = [log((((ABC, 1),), terms, (), ())), log(((((0, 1), 1),), terms, (), (((0, 1), ABC, 1),))),
                  log(((((2,), 1),), terms, (), (((2,), ABC, 1),)))]
-        wrong = [log((((ABC, 2),), terms, (), ())), log(((), terms, (), ())), log(((), (), (), ())), log(None), log(terms),
-                 log((((ABC, 1),), terms + (((0, 1), ABC, 1),), (), ())), log((((ABC, HUGE),), terms, (), ())),
-                 log((((ABC, 1),), (((), (0,), 2), ((0,), ABC, 1)), (), ())), log((((ABC, 1),), terms, ())),
-                 log(((((0,), 1),), (((), (0,), 1),), (), ())), log((((ABC, HUGE),), (((), ABC, HUGE),), (), ()))]
+        wrong = [log((((ABC, 2),), terms, (), ())), log(((), terms, (), ())), log(((), (), (), ())), log(None),
+                 log(terms), log((((ABC, 1),), terms + (((0, 1), ABC, 1),), (), ())),
+                 log((((ABC, HUGE),), terms, (), ())), log((((ABC, 1),), (((), (0,), 2), ((0,), ABC, 1)), (), ())),
+                 log((((ABC, 1),), terms, ())), log(((((0,), 1),), (((), (0,), 1),), (), ())),
+                 log((((ABC, HUGE),), (((), ABC, HUGE),), (), ()))]
         for value in right:
             self.assertIsNotNone(followed_plainly(heavy, TOLD, WEB, value))
         check_judge(self, lambda value: is_log(heavy, TOLD, WEB, value), right, wrong)
@@ -357,12 +363,14 @@ class WrongArgumentsTest(unittest.TestCase):
             check_wrongs(self, call, (ASK, TOLD, WEB, LOG), start + ((wrong,),))
 
     def test_degrees_that_are_not_kept(self):
+        calls = ((plan_bound, ()), (run, ()), (is_log, (LOG,)), (log_answer, (LOG,)), (log_sizes, (LOG,)),
+                 (log_counts, (LOG,)))
+        other = (WEB[0], (((), ABC, 2),), (), ())
         for told, index in ((TOLD + (((0,), (0, 1), 0),), 3), ((((0,), (0, 1), 0), ((), (0, 1), 1)) + TOLD, 0),
-                            (TOLD[:1] + (((), ABC, 20),) + TOLD[1:], 1)):
-            for call, more in ((plan_bound, ()), (run, ()), (is_log, (LOG,)), (log_answer, (LOG,)), (log_sizes, (LOG,)),
-                               (log_counts, (LOG,))):
+                            (TOLD[:1] + (((0, 1), ABC, 20),) + TOLD[1:], 1)):
+            for call, more in calls:
                 refused(self, Refused, call, (ASK, told, WEB) + more, ("degree", index))
-                refused(self, InvalidOperation, call, (ASK, told, WEB[:1] + ((((), ABC, 2),), (), ())) + more) if index != 1 else None
+                refused(self, InvalidOperation, call, (ASK, told, other) + more)
                 refused(self, InvalidFlow, call, (ASK, told, WEB[:3]) + more)
         refused(self, Refused, run, (ASK, TOLD + (((0,), (0, 1), 0),), scaled_flow(ABC, WEB, 100)), ("degree", 3))
         refused(self, TooMany, run, (ASK, TOLD, scaled_flow(ABC, WEB, 100)), 200)
@@ -387,17 +395,19 @@ class NotTrueTest(unittest.TestCase):
         self.assertEqual((len(answer(none)), log_counts(none, TOLD, WEB, log)), (0, (2, 0)))
 
     def test_what_is_given_up_can_be_needed(self):
-        """The term that is great, if one takes it, has just the rows of the answer."""
+        """Without the term that is great no flow of what is left has two goals, as with it."""
         star = Table((0, 1), tuple((0, n) for n in range(4)))
-        even = Table((1, 2), tuple((n, m) for n in range(4) for m in range(4) if (n + m) % 4 == 0))
-        heavy = Question(ABC, (star, Table((0, 2), star.rows), even))
+        heavy = Question(ABC, (star, Table((0, 2), star.rows), Table((1, 2), star.rows)))
+        left = (((ABC, 1),), (((), (0,), 1), ((0,), ABC, 1)), (), ())
         log = (("cut", (1, 2), (0,)), ("cut", (0, 2), (0, 1), ((
-            ("join", (0, 1), ABC), ("give up", ABC, (((ABC, 1),), (((), (0,), 1), ((0,), ABC, 1)), (), ())),
-            ("join", (0,), ABC), ("goal", ABC)),)))
-        self.assertEqual(log_answer(heavy, TOLD, WEB, log), answer(heavy))
-        without = exchanged(log, ("give up", ABC, log[1][3][0][1][2]), ("give up", ABC, WEB))
-        self.assertIs(is_log(heavy, TOLD, WEB, without[0]), False)
-        self.assertEqual(len(answer(heavy)), 4)
+            ("join", (0, 1), ABC), ("give up", ABC, left), ("join", (0,), ABC), ("goal", ABC)),)))
+        self.assertEqual(log_counts(heavy, TOLD, WEB, log), (1, 1))
+        with_it = (((ABC, 2),), (((), (0,), 1), ((), ABC, 1), ((0,), ABC, 1)), (), ())
+        self.assertIs(is_flow(ABC, with_it), True)
+        self.assertIs(is_without(ABC, with_it, ABC, left), True)
+        # The weight is at most how many terms there are from no letters on [10.2].
+        self.assertEqual((weight_of(ABC, with_it), weight_of(ABC, left), sum(n for low, _, n in left[1] if low == ())),
+                         (2, 1, 1))
 
 
 if __name__ == "__main__":

@@ -37,7 +37,8 @@ def drawn_rules(seed, times):
     for at in range(times):
         lot = LOTS[at % len(LOTS)]
         pairs = [(low, high) for high in all_lots(lot) for low in all_lots(high) if low != high]
-        told = tuple(chance.choice(pairs) + (chance.randint(0, chance.choice((0, 4, 20))),) for _ in range(chance.choice((0, 2, 6, 15))))
+        told = tuple(chance.choice(pairs) + (chance.randint(0, chance.choice((0, 4, 20))),)
+                     for _ in range(chance.choice((0, 2, 6, 15))))
         if at % 3:
             told += (((), lot[:2], chance.randint(0, 20)), ((), lot[1:] or lot, chance.randint(0, 20)))
         goals = all_lots(lot)[1:]
@@ -158,7 +159,8 @@ class BoundTest(unittest.TestCase):
         five = (0, 1, 2, 3, 4)
         goals = tuple(sorted(list(combinations(five, 3)) + [(0, 1), five]))
         self.assertEqual(len(goals), 12)
-        told = tuple(((), some, 20) for some in combinations(five, 2)) + tuple((some[:1], some, 7) for some in combinations(five, 3))
+        told = tuple(((), some, 20) for some in combinations(five, 2)) + tuple((some[:1], some, 7)
+                                                                               for some in combinations(five, 3))
         value = rule_bound(five, goals, told)
         self.assertEqual(value[1], (20, 1))
         self.assertEqual(rule_bound(five, goals[1:], told)[0], "least")
@@ -178,35 +180,43 @@ class JudgeTest(unittest.TestCase):
         for flow in (self.FLOW, other):
             self.assertTrue(is_paper_plainly(FOUR, BOTH, EDGES, flow))
             self.assertEqual((cost_plainly(EDGES, flow), weight(flow)), (6, 2))
-        wrong = [("paper", ((),) + self.FLOW[1:]), ("paper", (((FOUR, 1),),) + self.FLOW[1:]), ("paper", None), ("paper",),
-                 ("paper", (((BOTH[0], 1),),) + self.FLOW[1:]), ("paper", self.FLOW, 0), ("rank", self.FLOW), (None, self.FLOW),
-                 ("paper", ((((0, 1), 1),), (((), (0, 1), 1),), (), ())), ("paper", (((BOTH[0], 2), (BOTH[1], 1)),) + self.FLOW[1:]),
-                 ("paper", ((((0, 1), 1), (BOTH[0], 1)), (((), (0, 1), 1), ((), (1, 2), 1), ((), (2, 3), 1)), self.FLOW[2], ()))]
+        wrong = [("paper", ((),) + self.FLOW[1:]), ("paper", (((FOUR, 1),),) + self.FLOW[1:]), ("paper", None),
+                 ("paper",), ("paper", (((BOTH[0], 1),),) + self.FLOW[1:]), ("paper", self.FLOW, 0),
+                 ("rank", self.FLOW), (None, self.FLOW), ("paper", ((((0, 1), 1),), (((), (0, 1), 1),), (), ())),
+                 ("paper", (((BOTH[0], 2), (BOTH[1], 1)),) + self.FLOW[1:]),
+                 ("paper", ((((0, 1), 1), (BOTH[0], 1)), (((), (0, 1), 1), ((), (1, 2), 1), ((), (2, 3), 1)),
+                            self.FLOW[2], ()))]
         check_judge(self, lambda value: is_rule_answer(FOUR, BOTH, EDGES, 3, 1, value), right, wrong)
         for value in right:
             self.assertIs(is_rule_answer(FOUR, BOTH, EDGES, 299, 100, value), False)
         h = {some: len(some) for some in all_lots(FOUR)}
         right = [("rank", 1, h), ("rank", HUGE, {some: HUGE * n for some, n in h.items()}),
-                 ("rank", 1, {some: min(3, n) for some, n in h.items()}), ("rank", 1, {some: n + (n > 0) * 0 for some, n in h.items()})]
-        wrong = [("rank", 0, h), ("rank", 2, h), ("rank", h), ("rank", 1, {some: 2 * n for some, n in h.items()}), ("paper", 1, h),
-                 ("rank", 1, {some: min(2, n) for some, n in h.items()}), ("rank", 1, {**h, (0, 1, 2): 2}), ("rank", 1, None),
-                 ("rank", 1, step_rank(FOUR, (0,))), ("rank", 1, h, h), ("rank", -1, h), ("rank", 1, {})]
+                 ("rank", 1, {some: min(3, n) for some, n in h.items()}),
+                 ("rank", 1, {some: n + (n > 0) * 0 for some, n in h.items()})]
+        wrong = [("rank", 0, h), ("rank", 2, h), ("rank", h), ("rank", 1, {some: 2 * n for some, n in h.items()}),
+                 ("paper", 1, h), ("rank", 1, {some: min(2, n) for some, n in h.items()}),
+                 ("rank", 1, {**h, (0, 1, 2): 2}), ("rank", 1, None), ("rank", 1, step_rank(FOUR, (0,))),
+                 ("rank", 1, h, h), ("rank", -1, h), ("rank", 1, {})]
         check_judge(self, lambda value: is_rule_answer(FOUR, BOTH, EDGES, 5, 2, value), right, wrong)
         self.assertIs(is_rule_answer(FOUR, BOTH, EDGES, 3, 1, ("rank", 1, h)), False)
 
     def test_is_rule_bound(self):
         h = {some: len(some) for some in all_lots(FOUR)}
-        right = [("least", (3, 1), self.FLOW, 1, h), ("least", (3, 1), self.FLOW, HUGE, {some: HUGE * n for some, n in h.items()}),
+        right = [("least", (3, 1), self.FLOW, 1, h), ("least", (3, 1), self.FLOW, HUGE,
+                                                      {some: HUGE * n for some, n in h.items()}),
                  ("least", (3, 1), self.FLOW, 1, {some: min(3, n) for some, n in h.items()})]
-        wrong = [("least", (6, 2), self.FLOW, 1, h), ("least", (3, 1), self.FLOW, 2, h), ("least", (4, 1), self.FLOW, 1, h),
-                 ("least", (3, 1), self.FLOW, 1), ("endless", h), ("least", (3, 1), ((),) + self.FLOW[1:], 1, h), ("least",),
-                 ("least", (3, 1), self.FLOW, 1, {some: min(2, n) for some, n in h.items()}), ("least", (2, 1), self.FLOW, 1, h),
-                 ("most", (3, 1), self.FLOW, 1, h), ("least", (3, 0), self.FLOW, 1, h), ("least", (3, 1), None, 1, h)]
+        wrong = [("least", (6, 2), self.FLOW, 1, h), ("least", (3, 1), self.FLOW, 2, h),
+                 ("least", (4, 1), self.FLOW, 1, h), ("least", (3, 1), self.FLOW, 1), ("endless", h),
+                 ("least", (3, 1), ((),) + self.FLOW[1:], 1, h), ("least",),
+                 ("least", (3, 1), self.FLOW, 1, {some: min(2, n) for some, n in h.items()}),
+                 ("least", (2, 1), self.FLOW, 1, h), ("most", (3, 1), self.FLOW, 1, h),
+                 ("least", (3, 0), self.FLOW, 1, h), ("least", (3, 1), None, 1, h)]
         check_judge(self, lambda value: is_rule_bound(FOUR, BOTH, EDGES, value), right, wrong)
         step = step_rank(FOUR, (0, 3))
-        right = [("endless", step), ("endless", {some: 7 * n for some, n in step.items()}), ("endless", step_rank(FOUR, (0, 3)))]
-        wrong = [("endless", step_rank(FOUR, (3,))), ("endless", dict.fromkeys(step, 0)), ("endless", step, 0), ("endless", None),
-                 ("endless", step_rank(FOUR, FOUR)), ("least", step)]
+        right = [("endless", step), ("endless", {some: 7 * n for some, n in step.items()}),
+                 ("endless", step_rank(FOUR, (0, 3)))]
+        wrong = [("endless", step_rank(FOUR, (3,))), ("endless", dict.fromkeys(step, 0)), ("endless", step, 0),
+                 ("endless", None), ("endless", step_rank(FOUR, FOUR)), ("least", step)]
         check_judge(self, lambda value: is_rule_bound(FOUR, BOTH, EDGES[2:3], value), right, wrong)
 
 
@@ -280,10 +290,11 @@ class RunTest(unittest.TestCase):
         self.assertGreater(len({shown(value) for value in right}), 3)
         log, tables = right[0]
         more = {**tables, BOTH[0]: Table(BOTH[0], tables[BOTH[0]].rows + ((9, 9, 9),))}
-        wrong = [(log, more), (log, {BOTH[0]: tables[BOTH[0]]}), (log, {**tables, FOUR: Table(FOUR, ())}), (log,), (log, tables, 0),
-                 (log, {goal: table.rows for goal, table in tables.items()}), (log, None), (None, tables), (log[:-1], tables),
-                 (log, tuple(tables.items())), (log, {}), (log, {goal: Table(FOUR, ()) for goal in tables}), (tables, log),
-                 ((("goal", BOTH[0]),), tables), (log, {None: tables[BOTH[0]]}), (log, {**tables, "0": tables[BOTH[0]]}),
+        wrong = [(log, more), (log, {BOTH[0]: tables[BOTH[0]]}), (log, {**tables, FOUR: Table(FOUR, ())}), (log,),
+                 (log, tables, 0), (log, {goal: table.rows for goal, table in tables.items()}), (log, None),
+                 (None, tables), (log[:-1], tables), (log, tuple(tables.items())), (log, {}),
+                 (log, {goal: Table(FOUR, ()) for goal in tables}), (tables, log), ((("goal", BOTH[0]),), tables),
+                 (log, {None: tables[BOTH[0]]}), (log, {**tables, "0": tables[BOTH[0]]}),
                  (log, {**tables, (1, 0): tables[BOTH[0]]})]
         check_judge(self, lambda value: is_rule_run(question, told, flow, value), right, wrong)
 
@@ -325,7 +336,8 @@ class RunTest(unittest.TestCase):
         for call, more in ((does_hold, {(0,): wide}), (share, {(0,): wide}), (are_even, ((0,),))):
             refused(self, TooMany, call, (question, more), 100000)
         just = Question((0, 1), (wide, Table((1,), tall.rows[:100])))
-        self.assertEqual((does_hold(just, {(0,): wide}), share(just, {(0,): wide}), are_even(just, ((0,),))), (True, (1, 1), True))
+        self.assertEqual((does_hold(just, {(0,): wide}), share(just, {(0,): wide}), are_even(just, ((0,),))),
+                         (True, (1, 1), True))
 
 
 class HoldTest(unittest.TestCase):
@@ -401,8 +413,8 @@ class HoldTest(unittest.TestCase):
 class WrongArgumentsTest(unittest.TestCase):
     LOT = (InvalidLot, WRONG_LOTS + ((), (0, 1, 2, 3, 4, 5)))
     GOALS = (InvalidOperation, ODD + OBJECTS + BOOLS + LONG_NUMBERS + (
-        0, (), (0,), (0, 1), ((),), ((), (0,)), ((1,), (0,)), ((0,), (0,)), ((2,),), ((0,), (5,)), [(0,)], ([0],), ((1, 0),),
-        ((True,),), ((0,), None), {(0,): 1}, ((0,),) * 13,
+        0, (), (0,), (0, 1), ((),), ((), (0,)), ((1,), (0,)), ((0,), (0,)), ((2,),), ((0,), (5,)), [(0,)], ([0],),
+        ((1, 0),), ((True,),), ((0,), None), {(0,): 1}, ((0,),) * 13,
     ))
     TOLD = (InvalidTold, wrong_told((0, 1)))
     QUESTION = (InvalidQuestion, WRONG_QUESTIONS)
@@ -432,13 +444,15 @@ class WrongArgumentsTest(unittest.TestCase):
         told = self.RIGHT + (((0,), (0, 1), 0),)
         for call, more in ((rule_run, ()), (is_rule_run, (None,))):
             refused(self, Refused, call, (SOME_QUESTION, told, right[2]) + more, ("degree", 1))
-            refused(self, Refused, call, (SOME_QUESTION, told, scaled_flow((0, 1), right[2], 101)) + more, ("degree", 1))
+            refused(self, Refused, call, (SOME_QUESTION, told, scaled_flow((0, 1), right[2], 101)) + more,
+                    ("degree", 1))
 
     def test_tables_and_goals(self):
         tables = (InvalidOperation, ODD + OBJECTS + BOOLS + LONG_NUMBERS + (
-            0, (), ((0, 1), SOME_TABLE), {(0,): SOME_TABLE}, {(0, 1): SOME_TABLE.rows}, {(2,): Table((2,), ())}, [SOME_TABLE],
-            {(0, 1): None}, {(0, 1): SOME_TABLE, None: SOME_TABLE}, {"0": SOME_TABLE}, {(1, 0): SOME_TABLE},
-            {(True,): Table((1,), ())}, {0: SOME_TABLE}, {(0, 1): SOME_TABLE, (0,): Table((1,), ())}, (((0, 1), SOME_TABLE),),
+            0, (), ((0, 1), SOME_TABLE), {(0,): SOME_TABLE}, {(0, 1): SOME_TABLE.rows}, {(2,): Table((2,), ())},
+            [SOME_TABLE], {(0, 1): None}, {(0, 1): SOME_TABLE, None: SOME_TABLE}, {"0": SOME_TABLE},
+            {(1, 0): SOME_TABLE}, {(True,): Table((1,), ())}, {0: SOME_TABLE},
+            {(0, 1): SOME_TABLE, (0,): Table((1,), ())}, (((0, 1), SOME_TABLE),),
         ))
         for call in (does_hold, share):
             check_wrongs(self, call, (SOME_QUESTION, {(0, 1): SOME_TABLE}), ((self.QUESTION,), (tables,)))
@@ -455,7 +469,8 @@ class NotTrueTest(unittest.TestCase):
             self.assertLess(len(table), len({part_of((0, 1), row, some) for row in SOME_TABLE.rows}))
 
     def test_two_goals_can_have_a_lesser_bound_than_each(self):
-        self.assertEqual([rule_bound(FOUR, goals, EDGES)[1] for goals in (BOTH, BOTH[:1], BOTH[1:])], [(3, 1), (4, 1), (4, 1)])
+        self.assertEqual([rule_bound(FOUR, goals, EDGES)[1] for goals in (BOTH, BOTH[:1], BOTH[1:])],
+                         [(3, 1), (4, 1), (4, 1)])
 
     def test_a_run_need_not_have_rows_at_each_goal(self):
         question = Question((0, 1), (SOME_TABLE, Table((0,), ((0,), (1,), (2,)))))

@@ -10,8 +10,8 @@ from crestjoin.table.tables import Table
 from crestjoin.tree import webs
 from crestjoin.tree.webs import fold_answer, is_fold, is_stuck, is_tree, reduced, sequence_of, tree_answer
 from tests.support import (
-    BOOLS, HUGE, LONG_NUMBERS, OBJECTS, ODD, SOME_TABLE, WRONG_LOTS, WRONG_QUESTIONS, all_lots, check_judge, check_wrongs,
-    part_of, plain_answer, random_table, refused, shown,
+    BOOLS, HUGE, LONG_NUMBERS, OBJECTS, ODD, SOME_TABLE, WRONG_LOTS, WRONG_QUESTIONS, all_lots, check_judge,
+    check_wrongs, part_of, plain_answer, random_table, refused, shown,
 )
 
 TWIG, SHUT, WHEEL = ((0, 1), (2, 3), (1, 2)), ((0, 1), (0, 2), (1, 2)), ((0, 1), (1, 2), (2, 3), (0, 3))
@@ -36,7 +36,8 @@ def is_tree_plainly(lots, tree):
     """Whether places and None are a tree, from the words of the document."""
     if lots == ():
         return tree == ()
-    if len(tree) != len(lots) or tree.count(None) != 1 or any(place is not None and not 0 <= place < len(lots) for place in tree):
+    if len(tree) != len(lots) or tree.count(None) != 1 or any(place is not None and not 0 <= place < len(lots)
+                                                              for place in tree):
         return False
     for place in range(len(lots)):
         passed = set()
@@ -84,8 +85,9 @@ class TreeTest(unittest.TestCase):
 
     def test_is_tree_as_a_judge(self):
         right = [(None, 2, 0), (2, None, 1), (2, 2, None)]
-        wrong = [(None, 0, 0), (2, 0, 1), (None, None, 0), (None, 2), (None, 2, 0, 0), (None, 2, 3), (None, 2, -1), (None, 2, HUGE),
-                 (None, 2, "0"), (None, 2, (0,)), (None, 2, None), ((None, 2, 0),), "020", (None, 1, 0), {0: None, 1: 2, 2: 0}]
+        wrong = [(None, 0, 0), (2, 0, 1), (None, None, 0), (None, 2), (None, 2, 0, 0), (None, 2, 3), (None, 2, -1),
+                 (None, 2, HUGE), (None, 2, "0"), (None, 2, (0,)), (None, 2, None), ((None, 2, 0),), "020",
+                 (None, 1, 0), {0: None, 1: 2, 2: 0}]
         check_judge(self, lambda value: is_tree(TWIG, value), right, wrong)
         check_judge(self, lambda value: is_tree((), value), [()], [(None,)])
         check_judge(self, lambda value: is_tree(((),), value), [(None,)], [(), (0,), (None, None)])
@@ -105,7 +107,8 @@ class TreeTest(unittest.TestCase):
                 told = sequence_of(lots, tree)
                 self.assertEqual(sorted(told), list(range(len(lots))))
                 for at, place in enumerate(told):
-                    ready = [p for p in range(len(lots)) if p not in told[:at] and (tree[p] is None or tree[p] in told[:at])]
+                    ready = [p for p in range(len(lots)) if p not in told[:at]
+                             and (tree[p] is None or tree[p] in told[:at])]
                     self.assertEqual(place, min(ready))
         self.assertEqual(sequence_of((), ()), ())
         self.assertEqual(sequence_of(((0,),) * 12, (None,) + (0,) * 11), tuple(range(12)))
@@ -155,18 +158,21 @@ class FoldTest(unittest.TestCase):
 
     def test_is_stuck_as_a_judge(self):
         check_judge(self, lambda value: is_stuck(WHEEL, value), [(0, 1, 2, 3)],
-                    [(0, 1, 2), (0, 1), (), (0, 1, 2, 3, 4), (3, 2, 1, 0), (0, 1, 2, 3, 3), "0123", {0: 1}, (0, 1, 2, HUGE)])
+                    [(0, 1, 2), (0, 1), (), (0, 1, 2, 3, 4), (3, 2, 1, 0), (0, 1, 2, 3, 3), "0123", {0: 1},
+                     (0, 1, 2, HUGE)])
         check_judge(self, lambda value: is_stuck((), value), [], [(), (0,), (0, 1, 2)])
         two = ((0, 1), (1, 2), (0, 2), (3, 4), (4, 5), (3, 5))
-        check_judge(self, lambda value: is_stuck(two, value), [(0, 1, 2), (3, 4, 5)], [(0, 1, 2, 3, 4, 5), (0, 1, 2, 3)])
+        check_judge(self, lambda value: is_stuck(two, value), [(0, 1, 2), (3, 4, 5)],
+                    [(0, 1, 2, 3, 4, 5), (0, 1, 2, 3)])
 
     def test_is_fold_as_a_judge(self):
         right = [("folds", (None, 2, 0)), ("folds", (2, None, 1)), ("folds", (2, 2, None))]
-        wrong = [("folds", (None, 0, 0)), ("stuck", (None, 2, 0)), ("folds",), ("folds", (None, 2, 0), 0), ("stuck", (0, 1, 2)), (None, ()),
-                 ("fold", (None, 2, 0)), ("folds", None), (None, 2, 0)]
+        wrong = [("folds", (None, 0, 0)), ("stuck", (None, 2, 0)), ("folds",), ("folds", (None, 2, 0), 0),
+                 ("stuck", (0, 1, 2)), (None, ()), ("fold", (None, 2, 0)), ("folds", None), (None, 2, 0)]
         check_judge(self, lambda value: is_fold(TWIG, value), right, wrong)
         check_judge(self, lambda value: is_fold(SHUT, value), [("stuck", (0, 1, 2))],
-                    [("stuck", (0, 1)), ("folds", (None, 0, 0)), ("stuck", (0, 1, 2), 0), ("stuck", None), ("stuck", (2, 1, 0)), ("folds", (0, 1, 2))])
+                    [("stuck", (0, 1)), ("folds", (None, 0, 0)), ("stuck", (0, 1, 2), 0), ("stuck", None),
+                     ("stuck", (2, 1, 0)), ("folds", (0, 1, 2))])
         check_judge(self, lambda value: is_fold((), value), [("folds", ())], [("stuck", ())])
 
     def test_twelve_places(self):
@@ -242,8 +248,8 @@ class AlongTest(unittest.TestCase):
 class WrongArgumentsTest(unittest.TestCase):
     LOTS = (InvalidLot, WRONG_LOTS[:-1] + (((0,),) * 13, ((1, 0),), ((0,), None), [(0,)], ([0],), ((True,),), ((6,),)))
     TREES = (InvalidOperation, ODD + OBJECTS + BOOLS + LONG_NUMBERS + (
-        0, (), (None,), (None, None), (0, 1), (1, 0), (0, None), (None, 2), (None, -1), (None, True), (False, None)[::-1], [None, 0],
-        (None, "0"), (None, (0,)), (None, 0, 0), (None, HUGE), {0: None, 1: 0},
+        0, (), (None,), (None, None), (0, 1), (1, 0), (0, None), (None, 2), (None, -1), (None, True),
+        (False, None)[::-1], [None, 0], (None, "0"), (None, (0,)), (None, 0, 0), (None, HUGE), {0: None, 1: 0},
     ))
 
     def test_webs(self):
