@@ -8,6 +8,7 @@ from unittest.mock import patch
 from crestjoin.errors import InvalidFlow, InvalidOperation, InvalidQuestion, InvalidTold, Refused, TooMany
 from crestjoin.flow import logs
 from crestjoin.flow.flows import is_flow, is_without, scaled_flow, weight_of
+from crestjoin.flow.least import lesser_flow
 from crestjoin.flow.plans import is_log, log_answer, log_counts, log_sizes, plan_bound, run
 from crestjoin.rank.degrees import exact_told, least_bound
 from crestjoin.table.joins import Question, answer
@@ -15,7 +16,7 @@ from crestjoin.table.tables import Table
 from tests.runs import Leader, drawn_flow_runs, drawn_runs, followed_plainly, skewed_table
 from tests.support import (
     BOOLS, GREATEST, HUGE, LONG_NUMBERS, OBJECTS, ODD, SOME_TABLE, WRONG_QUESTIONS, check_judge, check_wrongs,
-    plain_answer, refused, shown, wrong_flows, wrong_told,
+    flows_plainly, plain_answer, refused, shown, wrong_flows, wrong_told,
 )
 
 ABC = (0, 1, 2)
@@ -340,6 +341,67 @@ class MostTest(unittest.TestCase):
         self.assertEqual(log_answer(question, told, CROSSED, log), answer(question))
         p, D = plan_bound(question, told, CROSSED)
         self.assertTrue(all(rows ** D <= 2 ** p for rows in log_sizes(question, told, CROSSED, log)))
+
+
+    def test_flows_many_times(self):
+        """A flow so often that its counts come to 200 leads through few ends, too."""
+        chance = random.Random(129)
+        lot = (0, 1, 2, 3)
+        web = tuple(combinations(lot, 3))
+        for _ in range(6):
+            question = Question(lot, tuple(skewed_table(chance, some, 300, 20) for some in web))
+            told = exact_told(question, tuple(((), some) for some in web))
+            flow = least_bound(lot, told)[2]
+            flow = scaled_flow(lot, flow, 200 // sum(n for things in flow[1:] for _, _, n in things))
+            log = run(question, told, flow)
+            self.assertIsNotNone(followed_plainly(question, told, flow, log))
+            self.assertEqual(log_answer(question, told, flow, log), answer(question))
+            self.assertLess(log_counts(question, told, flow, log)[0], 200)
+
+
+class LesserFlowTest(unittest.TestCase):
+    """What runs are led from: its logs are logs of the whole flow, as its terms are there, with no greater bound."""
+
+    def check(self, lot, told, flow):
+        found = lesser_flow(lot, told, flow)
+        self.assertIs(flows_plainly(lot, found), True)
+        ks = {(low, high): k for low, high, k in sorted(told, reverse=True)}
+        costs, weights = [], []
+        for one in (flow, found):
+            costs.append(sum(n * ks[(low, high)] for low, high, n in one[1]))
+            weights.append(sum(n for _, n in one[0]))
+        self.assertGreater(weights[1], 0)
+        self.assertLessEqual(costs[1] * weights[0], costs[0] * weights[1])
+        whole = {(low, high): n for low, high, n in flow[1]}
+        self.assertTrue(all(n <= whole.get((low, high), 0) for low, high, n in found[1]))
+        self.assertLessEqual({some for some, _ in found[0]}, {some for some, _ in flow[0]})
+        return found
+
+    def test_drawn_flows(self):
+        seen = 0
+        for _, told, flow in RUNS:
+            seen += self.check(self.lot_of(flow), told, flow) != flow
+        self.assertGreater(seen, 10)
+
+    def lot_of(self, flow):
+        return flow[0][0][0]
+
+    def test_many_times(self):
+        for many in (1, 2, 66):
+            self.assertEqual(self.check(ABC, TOLD, scaled_flow(ABC, WEB, many)), WEB)
+
+    def test_where_the_cheapest_has_too_many_terms(self):
+        told = (((), (1, 2), 6), ((), (2,), 2), ((2,), (0, 2), 2), ((2,), (1, 2), 0))
+        flow = (((ABC, 1),), (((), (1, 2), 1), ((), (2,), 1), ((2,), (0, 2), 1), ((2,), (1, 2), 1)),
+                (((0,), (1,), 1), ((0, 1), (0, 2), 1)), (((1,), (1, 2), 1), ((2,), (1, 2), 1)))
+        self.assertEqual(self.check(ABC, told, flow), flow)
+        twice = self.check(ABC, told, scaled_flow(ABC, flow, 2))
+        self.assertIn(((), (2,), 2), twice[1])
+        question = Question(ABC, (skewed_table(random.Random(1), ABC, 20, 4),))
+        told = exact_told(question, tuple(one[:2] for one in told))
+        log = run(question, told, flow)
+        self.assertIsNotNone(followed_plainly(question, told, flow, log))
+        self.assertEqual(log_answer(question, told, flow, log), answer(question))
 
 
 class WrongArgumentsTest(unittest.TestCase):

@@ -476,7 +476,9 @@ class NotTrueTest(unittest.TestCase):
         question = Question((0, 1), (SOME_TABLE, Table((0,), ((0,), (1,), (2,)))))
         flow = ((((0,), 1), ((0, 1), 1)), (((), (0,), 1), ((), (0, 1), 1)), (), ())
         tables = rule_run(question, (((), (0,), 2), ((), (0, 1), 2)), flow)[1]
-        self.assertEqual(sorted(len(table) for table in tables.values()), [0, 2])
+        self.assertEqual(sorted(tables), [(0,), (0, 1)])
+        self.assertEqual(sorted(len(table) > 0 for table in tables.values()), [False, True])
+        self.assertIs(does_hold(question, tables), True)
 
 
 if __name__ == "__main__":

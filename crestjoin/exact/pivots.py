@@ -61,11 +61,14 @@ def exchanged(cells, row, column, under):
     sign = 1 if pivot > 0 else -1
     found = []
     for place, old in enumerate(cells):
+        lead = old[column]
         if place == row:
             new = [-sign * cell for cell in old]
             new[column] = sign * under
+        elif lead == 0 and sign * pivot == under:
+            # Most rows of programs of flows: they stay as they are.
+            new = old
         else:
-            lead = old[column]
             new = [sign * (cell * pivot - lead * other) // under for cell, other in zip(old, cells[row])]
             new[column] = sign * lead
         found.append(new)

@@ -9,7 +9,7 @@ from crestjoin.exact.duals import least_form
 from crestjoin.exact.pivots import point_of, prices_of
 from crestjoin.flow.columns import crossings_and_drops, effort_of, lots_with_letters, rows_of
 from crestjoin.flow.counted import GOAL, TERM, is_count
-from crestjoin.flow.flows import is_flow
+from crestjoin.flow.flows import are_among, is_flow
 from crestjoin.flow.stock import NOTHING, Stock
 from crestjoin.rank.ranks import is_rank
 
@@ -59,17 +59,30 @@ def least_answer(lot, goals, told):
     if not any([is_within(goal, reached) for goal in goals]):
         return ("endless", {some: 0 if is_within(some, reached) else 1 for some in lots_within(lot)})
     pairs = told_pairs(told)
-    lots = lots_with_letters(lot)
     things = [(GOAL, goal, ()) for goal in goals] + [(TERM, low, high) for low, high in pairs]
     things = things + crossings_and_drops(lot)
-    # The last row wants a goal.
-    rows = rows_of(lot, things) + [[1 if thing[0] == GOAL else 0 for thing in things]]
-    costs = [pairs[thing[1:]] if thing[0] == TERM else 0 for thing in things]
-    form = least_form(rows, [0] * len(lots) + [1], [[effort_of(thing) for thing in things], costs])
+    lots = lots_with_letters(lot)
+    form = _cheapest_form(lot, things, pairs)
     flow = _flow_of(things, point_of(form, len(things))[1])
-    s, numbers = prices_of(form, len(rows), len(things))
+    s, numbers = prices_of(form, len(lots) + 1, len(things))
     bound = lowest_terms(cost_of(told, flow[1]), weight_among(goals, flow))
     return ("least", bound, flow, s, dict(zip(((),) + lots, (0,) + numbers)))
+
+
+def _cheapest_form(lot, things, pairs):
+    # A program with a count for each thing: of flows with a goal one that costs least, and then has few counts.
+    rows = rows_of(lot, things) + [[1 if thing[0] == GOAL else 0 for thing in things]]
+    sides = [0] * (len(rows) - 1) + [1]
+    costs = [pairs[thing[1:]] if thing[0] == TERM else 0 for thing in things]
+    return least_form(rows, sides, [[effort_of(thing) for thing in things], costs])
+
+
+def lesser_flow(lot, told, flow):
+    """A flow of some of the flow's things, its terms among the flow's, with a bound that is at most the flow's."""
+    things = Stock(flow).things()
+    form = _cheapest_form(lot, things, told_pairs(told))
+    found = _flow_of(things, point_of(form, len(things))[1])
+    return found if are_among(found[1], Stock(flow), TERM) else flow
 
 
 def _flow_of(things, counts):

@@ -5,6 +5,7 @@ from crestjoin.errors import TooMany
 from crestjoin.flow.counted import TERM
 from crestjoin.flow.flows import is_step
 from crestjoin.flow.guards import cut_bags, does_cut_pieces, give_up, is_ready, step_sizes
+from crestjoin.flow.least import lesser_flow
 from crestjoin.flow.parts import pieces_of
 from crestjoin.flow.stock import CUT_STEP, GOAL_STEP, JOIN_STEP, SPARE_STEP, Stock, mend, step_of, take_step
 
@@ -75,9 +76,13 @@ def _take_last(plan, bag, entry, course, pending):
 
 def led_log(plan):
     """A log that is led from the flow of the plan."""
+    # With fewer terms there are fewer cuts to go through, and a log that takes fewer terms is a log all the same.
+    lead = lesser_flow(plan.question.lot, plan.told, plan.flow)
+    whole = plan.first_bag()
+    whole.keep(lead[1])
     records = []
     ends = 0
-    pending = [(plan.first_bag(), Stock(plan.flow), None)]
+    pending = [(whole, Stock(lead), None)]
     while pending:
         bag, stock, behind = pending.pop()
         entries, branches = _led_branch(plan, bag, stock)

@@ -45,6 +45,10 @@ class Stock:
         """Whether at some lot less flows in than there are goals."""
         return any([many < 0 for many in self.over.values()])
 
+    def things(self):
+        """The ascending list of all things that are there."""
+        return sorted(self.counts)
+
     def triples(self, kind):
         """The ascending tuple of the things of a kind, each with its count."""
         found = [(thing[1], thing[2], many) for thing, many in self.counts.items() if thing[0] == kind]
@@ -65,7 +69,7 @@ class Stock:
     def leads(self):
         """All triples (thing, some, to) of a thing that leads away from a lot, and of the lot to which it leads."""
         found = []
-        for kind, one, other in sorted(self.counts):
+        for kind, one, other in self.things():
             if kind == DROP:
                 found.append(((kind, one, other), other, one))
             elif kind == TERM and one != ():
