@@ -325,6 +325,14 @@ class BoundTest(unittest.TestCase):
 
 
 class JudgeTest(unittest.TestCase):
+    def test_flows_without_goals_show_no_bound(self):
+        free = ((), (((), (3,), 1),), (), ())
+        one = ((((3,), 1),),) + free[1:]
+        told, rank = (((), (3,), 0),), {(): 0, (3,): 0}
+        check_judge(self, lambda value: is_bound_answer((3,), told, 0, 1, value), [("paper", one)], [("paper", free)])
+        check_judge(self, lambda value: is_least_bound((3,), told, value), [("least", (0, 1), one, 1, rank)],
+                    [("least", (0, 1), free, 1, rank)])
+
     def test_is_bound_answer(self):
         huge = tuple(tuple(thing[:-1] + (thing[-1] * HUGE,) for thing in things) for things in FLOW)
         basic = (((ABC, 2),), FLOW[1], (((0,), (1,), 1), ((0, 1), (0, 2), 1), ((0, 1), (1, 2), 1)), ())
@@ -333,7 +341,7 @@ class JudgeTest(unittest.TestCase):
                  ("paper", (((ABC, 1),),) + FLOW[1:]), ("paper", (((ABC, 2),), (((), ABC, 2),), (), ())),
                  ("paper", FLOW, 0), ("paper",), ("rank", FLOW), ("paper", FLOW[:3]), ("paper", None), ("papers", FLOW),
                  (None, FLOW), ("paper", ((((0, 1), 1), (ABC, 1)),) + FLOW[1:]), ("rank", 1, parity_rank(ABC, ABC)),
-                 ("paper", (((ABC, 2 * HUGE + 1),),) + huge[1:])]
+                 ("paper", (((ABC, 2 * HUGE + 1),),) + huge[1:]), ("paper", ((), (), (), ()))]
         check_judge(self, lambda value: is_bound_answer(ABC, SIDES, 6, 1, value), right, wrong)
         check_judge(self, lambda value: is_bound_answer(ABC, SIDES, 600, 100, value), right, wrong)
         for value in right:
@@ -369,7 +377,8 @@ class JudgeTest(unittest.TestCase):
                  ("least", (6, 1), h, 1, FLOW), ("least", (6, 1), FLOW, 0, h),
                  ("least", (6, 1), FLOW, 1, {some: 0 for some in h}), ("most", (6, 1), FLOW, 1, h),
                  ("least", None, FLOW, 1, h), ("least", (6 * HUGE, HUGE), FLOW, 1, h),
-                 ("least", (6, 1), FLOW, s + 1, many), ("least", (6, 1), None, 1, h)]
+                 ("least", (6, 1), FLOW, s + 1, many), ("least", (6, 1), None, 1, h),
+                 ("least", (6, 1), ((), (), (), ()), 1, h), ("least", (0, 1), ((), (), (), ()), 1, h)]
         check_judge(self, lambda value: is_least_bound(ABC, SIDES, value), right, wrong)
         none = tuple((low, high, 0) for low, high, _ in SIDES)
         zero = dict.fromkeys(h, 0)

@@ -227,6 +227,14 @@ class StepsTest(unittest.TestCase):
         wrong = [(("spare", (0,)),) * 3, (("goal", (0,)),), (("spare", (1,)),), (("cut", (0,), (0, 1)),),
                  (("spare", ()),)]
         check_judge(self, lambda value: are_steps((0, 1), free, value), right, wrong)
+        # With no goal left to come to, each of these would be taken if it were a step at all.
+        wrong = [(step,) for step in (
+            ("spare", (0,), ()), ("goal", (0,), ()), ("take", (0,), ()), ("take", (0,)), ("spare", (0,), (0, 1)),
+            ("drop", (0,), (0,)), ("drop", (0,), (1,)), ("drop", (0,), (0, 1)), ("drop", (0,)), ("join", (0,)),
+            ("join", (0,), (0,)), ("join", (0,), ()), ("join", (0,), (1,)), ("cut", (0,)), ("cut", (0,), ()),
+            ("cut", (0,), (0,)), ("cut", (0,), (2,)), ("drop", (0,), (), ()), ("spare", (0,), (), ()), ("spare", (2,)),
+        )]
+        check_judge(self, lambda value: are_steps((0, 1), free, value), right, wrong)
         check_judge(self, lambda value: are_steps((), NONE, value), [()], [(("spare", ()),), (("goal", ()),)])
 
     def test_goals_of_several_lots(self):

@@ -413,6 +413,7 @@ class WrongArgumentsTest(unittest.TestCase):
             {0: 1, "1": 1}, {0: 1, 1: None}, {0: 1, None: 1}, (1, 1), {0: 1, 1: HUGE}, {0: 1, 1: "1"}))
         check_wrongs(self, full_question, ((0, 1), ((0,), (1,)), {1: 2, 0: 1}), ((self.LOT,), (lots,), (numbers,)))
         refused(self, InvalidOperation, full_question, ((0, 1), ((0, 1),), {0: 9, 1: 10}))
+        refused(self, InvalidLot, full_question, ((), (), {}))
         refused(self, TooMany, full_question, ((0, 1), ((0, 1),), {0: 9, 1: 9}), 1000)
 
 

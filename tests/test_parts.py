@@ -167,6 +167,15 @@ class JudgeTest(unittest.TestCase):
         self.assertEqual(len(lone), most_parts(3))
         check_judge(self, lambda value: is_parted(T, (0,), 3, value), right, wrong)
 
+    def test_seven_pieces_and_eight_of_eight_rows(self):
+        eight = Table((0, 1), tuple((n, m) for n in range(4) for m in range(2)))
+        lone = tuple((0, Table((0, 1), (row,))) for row in eight.rows)
+        self.assertEqual(most_parts(3), 7)
+        two = ((1, Table((0, 1), eight.rows[:2])),)
+        self.assertIs(is_parted(eight, (0,), 3, two + lone[2:]), True)
+        self.assertIs(is_parted(eight, (0,), 3, lone), False)
+        self.assertIs(is_parted(eight, (0,), 4, lone), True)
+
     def test_more_pieces_than_there_can_be(self):
         four = Table((0, 1), tuple((n, m) for n in (1, 2) for m in (1, 2)))
         pieces = tuple((0, Table((0, 1), (row,))) for row in four.rows)

@@ -147,6 +147,25 @@ class MainTest(unittest.TestCase):
             self.check(heavy, TOLD, WEB, other)
             self.assertEqual(log_counts(heavy, TOLD, WEB, other), (1, 0))
 
+    def test_runs_that_give_up(self):
+        """[12.4]: with pieces of three letters a join can be above the bound, and is given up."""
+        chance = random.Random(1210)
+        lot = (0, 1, 2, 3)
+        web = tuple(combinations(lot, 3))
+        seen = 0
+        for _ in range(12):
+            question = Question(lot, tuple(skewed_table(chance, some, 200, 20) for some in web))
+            told = exact_told(question, tuple(((), some) for some in web))
+            flow = least_bound(lot, told)[2]
+            log = run(question, told, flow)
+            self.assertIs(is_log(question, told, flow, log), True)
+            seen += self.check(question, told, flow, log).given_up > 0
+        self.assertGreater(seen, 5)
+
+    def test_drops_to_no_letters_make_no_table(self):
+        self.check(ASK, TOLD, WEB, (("drop", (1, 2), ()),) + LOG[1:])
+        self.assertEqual(log_sizes(ASK, TOLD, WEB, (("drop", (1, 2), ()),) + LOG[1:]), (1, 1, 2, 1, 1, 4))
+
     def test_the_guards_that_are_used(self):
         """[12.1]: the first part that keeps the degree, with the least k; the last guard first [12.2]."""
         few, many = Table((0, 1), ((0, 0), (1, 1))), Table((0, 1), tuple((n % 3, n) for n in range(6)))
@@ -182,6 +201,15 @@ class MainTest(unittest.TestCase):
                     ((((0, 1), 5),), (((), (0,), 4), ((), (0, 1), 1), ((0,), (0, 1), 4)), (), ()),
                     ((), left[1], (), ())):
             self.assertIs(is_log(question, told, flow, (join, ("give up", (0, 1), bad), ("goal", (0, 1)))), False)
+        # Of the first guard and two joined ones just the first joined one is left, if two are to go.
+        two = ((((0, 1), 2),), (((), (0,), 1), ((), (0, 1), 1), ((0,), (0, 1), 1)), (), ())
+        both = ((((0, 1), 3),), (((), (0,), 1), ((), (0, 1), 2), ((0,), (0, 1), 1)), (), ())
+        last = ((((0, 1), 1),), (((), (0, 1), 1),), (), ())
+        for some, right in ((two, False), (both, True)):
+            for end in (("give up", (0, 1), last), ("spare", (0, 1))):
+                log = (join, join, ("give up", (0, 1), some), end, ("goal", (0, 1)))
+                self.assertIs(is_log(question, told, flow, log), right)
+                self.assertEqual(followed_plainly(question, told, flow, log) is not None, right)
         # The goal's guard is the first one again, where the joined one was given up: none of the last ones is left.
         twice = (join, ("give up", (0, 1), more), join, ("give up", (0, 1), left), ("goal", (0, 1)))
         self.assertEqual(self.check(question, told, flow, twice).given_up, 2)
@@ -251,7 +279,11 @@ class JudgeTest(unittest.TestCase):
                  (("drop", (0, 1), (0,)), ("drop", (0,), ()), by_two), (("spare", (0, 1)), by_two), run(ASK, TOLD, WEB)]
         for value in right:
             self.assertIsNotNone(followed_plainly(ASK, TOLD, WEB, value))
-        wrong = [(("cut", (1, 2), (0,)), ("drop", (0, 1), (0,)), ("join", (0,), ABC), ("goal", ABC)), LOG[:1],
+        short = (("drop", (1, 2), ()),) + LOG[1:]
+        wrong = [(("cut", (1, 2), (0,), (LOG[1:],)),), (("drop", (1, 2), (), (LOG[1:],)),), (short,),
+                 (("spare", (1, 2), (), (LOG[1:],)),), (("drop", (1, 2), (1,), (short, short)),),
+                 (("join", (0, 1), ABC, (short,)),),
+                 (("cut", (1, 2), (0,)), ("drop", (0, 1), (0,)), ("join", (0,), ABC), ("goal", ABC)), LOG[:1],
                  LOG[::-1], LOG + (("goal", ABC),), (("goal", ABC),), (("goal", (0, 1)),), ((),), ((), ()),
                  (("cut", (1, 2), (0,), ()),) + LOG[1:], (("cut", (1, 2), (0, 1)),) + LOG[1:], (("goal", ABC, ()),),
                  LOG[:1] + (LOG[1][:3],), LOG[:1] + (LOG[1][:3] + ((END,),),),
@@ -270,6 +302,29 @@ class JudgeTest(unittest.TestCase):
         end = (("cut", (0, 2), (1, 2), ((("join", (1, 2), ABC), ("goal", ABC)),) * 2),)
         self.assertIs(is_log(ASK, TOLD, WEB, (("spare", (0, 1)),) + end), True)
         self.assertIs(is_log(ASK, TOLD, WEB, (("give up", (0, 1), less),) + end), False)
+
+    def test_great_terms_are_not_used(self):
+        """[12.2]: any entry but spare and give up needs that its ((), Z) is not great."""
+        lot = (0, 1, 2, 3)
+        star = Table((0, 1), tuple((0, n) for n in range(4)))
+        whole = Table(lot, tuple((0, n, m, n) for n in range(4) for m in range(4)))
+        question = Question(lot, (star, Table((0, 2), star.rows), Table((1, 2), star.rows), whole))
+        told = TOLD + ((ABC, lot, 0),)
+        flow = (((lot, 2),), WEB[1] + ((ABC, lot, 2),), WEB[2], ())
+        flow = (flow[0], tuple(sorted(flow[1])), flow[2], ())
+        self.assertEqual(plan_bound(question, told, flow), (6, 2))
+
+        def log(*inner):
+            return (("cut", (1, 2), (0,)), ("cut", (0, 2), (0, 1), ((("join", (0, 1), ABC),) + inner,)))
+
+        end = (("join", (0,), ABC), ("join", ABC, lot), ("goal", lot))
+        right = [log(("spare", ABC), *end)]
+        wrong = [log(("drop", ABC, ()), *end), log(("drop", ABC, (0, 1)), *end), log(("join", ABC, lot), *end),
+                 log(("cut", ABC, (3,)), *end), log(("cut", ABC, (0, 3), ())), log(("cut", ABC, (0, 3), (end,))),
+                 log(("goal", ABC)), log(("drop", ABC, (0, 1)), ("spare", (0, 1)), *end)]
+        for value in right:
+            self.assertIsNotNone(followed_plainly(question, told, flow, value))
+        check_judge(self, lambda value: is_log(question, told, flow, value), right, wrong)
 
     def test_flows_that_are_given_up_to(self):
         """[12.2]: their terms are held to those that are left; their goals, crossings and drops can be any."""

@@ -181,6 +181,7 @@ class JudgeTest(unittest.TestCase):
             self.assertTrue(is_paper_plainly(FOUR, BOTH, EDGES, flow))
             self.assertEqual((cost_plainly(EDGES, flow), weight(flow)), (6, 2))
         wrong = [("paper", ((),) + self.FLOW[1:]), ("paper", (((FOUR, 1),),) + self.FLOW[1:]), ("paper", None),
+                 ("paper", ((), (), (), ())),
                  ("paper",), ("paper", (((BOTH[0], 1),),) + self.FLOW[1:]), ("paper", self.FLOW, 0),
                  ("rank", self.FLOW), (None, self.FLOW), ("paper", ((((0, 1), 1),), (((), (0, 1), 1),), (), ())),
                  ("paper", (((BOTH[0], 2), (BOTH[1], 1)),) + self.FLOW[1:]),
@@ -210,7 +211,8 @@ class JudgeTest(unittest.TestCase):
                  ("least", (3, 1), ((),) + self.FLOW[1:], 1, h), ("least",),
                  ("least", (3, 1), self.FLOW, 1, {some: min(2, n) for some, n in h.items()}),
                  ("least", (2, 1), self.FLOW, 1, h), ("most", (3, 1), self.FLOW, 1, h),
-                 ("least", (3, 0), self.FLOW, 1, h), ("least", (3, 1), None, 1, h)]
+                 ("least", (3, 0), self.FLOW, 1, h), ("least", (3, 1), None, 1, h),
+                 ("least", (3, 1), ((), (), (), ()), 1, h), ("least", (0, 1), ((), (), (), ()), 1, h)]
         check_judge(self, lambda value: is_rule_bound(FOUR, BOTH, EDGES, value), right, wrong)
         step = step_rank(FOUR, (0, 3))
         right = [("endless", step), ("endless", {some: 7 * n for some, n in step.items()}),

@@ -172,7 +172,8 @@ class FoldTest(unittest.TestCase):
         check_judge(self, lambda value: is_fold(TWIG, value), right, wrong)
         check_judge(self, lambda value: is_fold(SHUT, value), [("stuck", (0, 1, 2))],
                     [("stuck", (0, 1)), ("folds", (None, 0, 0)), ("stuck", (0, 1, 2), 0), ("stuck", None),
-                     ("stuck", (2, 1, 0)), ("folds", (0, 1, 2))])
+                     ("stuck", (2, 1, 0)), ("folds", (0, 1, 2)), ("struck", (0, 1, 2)), (None, (0, 1, 2)),
+                     (SOME_TABLE, (0, 1, 2))])
         check_judge(self, lambda value: is_fold((), value), [("folds", ())], [("stuck", ())])
 
     def test_twelve_places(self):
