@@ -15,7 +15,8 @@ from crestjoin.reach import made
 from crestjoin.table import joins, tables
 from crestjoin.table.joins import Question
 from crestjoin.table.tables import Table
-from crestjoin.tree import webs
+from crestjoin.tree import bags, several, sums, webs
+from crestjoin.within import maps
 from tests.support import GREATEST, HUGE, LONG, ODD, SOME_QUESTION, SOME_TABLE, refused, shown
 
 INTERFACE = {
@@ -66,11 +67,22 @@ INTERFACE = {
                      "full_question(lot,lots,numbers)",
     "tree.webs": "is_tree(lots,value) is_stuck(lots,value) fold_answer(lots) is_fold(lots,value) sequence_of(lots,tree) "
                  "reduced(question,tree) tree_answer(question,tree)",
+    "tree.sums": "plain_sum(question,weights,kind,kept) tree_sum(question,tree,weights,kind,kept) "
+                 "notes(question,tree,weights,kind) shares(question,tree,weights,kind) best_row(question,tree,weights) "
+                 "is_best_row(question,tree,weights,value) count(question,tree)",
+    "tree.bags": "is_bags(lots,value) bags_of(lots,order) bag_tables(question,bags) bag_answer(question,bags) "
+                 "width(lots,told,bags) least_width(lots,told) is_least_width(lots,told,value)",
+    "tree.several": "choices(lots,many) several_tables(question,told,many,flows) are_several(question,many,value) "
+                    "several_truth(question,many,told_tables)",
+    "within.maps": "is_rule(value) is_store(value) own_store(rule) rule_answer(rule,store) within_answer(one,other) "
+                   "is_within_answer(one,other,value) least_rule(rule) is_least(rule,value) are_alike(one,other) "
+                   "are_same(one,other)",
 }
 CONSTANTS = {
     "table.tables": {"MOST_ROWS": 1000, "MAX_DIGITS": 9}, "table.joins": {"MOST_PARTS": 12, "MOST_JOINED": 100000},
     "exact.linear": {"MOST_COLUMNS": 12, "MOST_ROWS": 24, "MOST_CHOICES": 5000}, "flow.flows": {"MOST_COUNTS": 200},
     "reach.made": {"MOST_SOURCES": 12, "MOST_VECTORS": 12}, "tree.webs": {"MOST_PARTS": 12},
+    "within.maps": {"MOST_ATOMS": 8, "MOST_PLACES": 4, "MOST_STORED": 24},
 }
 METHODS = {
     Table: ("__init__", "lot", "rows", "__len__", "__contains__", "__eq__", "__str__"),
@@ -84,6 +96,10 @@ ABC, SIDES = (0, 1, 2), (((), (0, 1), 4), ((), (0, 2), 4), ((), (1, 2), 4))
 WEB = (((ABC, 2),), (((), (0, 1), 1), ((), (0, 2), 1), ((), (1, 2), 1)), (((0,), (1, 2), 1), ((0, 1), (0, 2), 1)), ())
 ASK = Question(ABC, tuple(Table(lot, ((0, 0), (0, 1), (1, 0))) for lot in THREE))
 PAIR = Question(ABC, ASK.parts[::2])
+ONES = tuple({row: 1 for row in part.rows[::-1]} for part in PAIR.parts)
+WHEEL = ((0, 1), (1, 2), (2, 3), (0, 3))
+SPLIT, OTHER = (((0, 1, 2), (0, 2, 3)), (None, 0)), (((0, 1, 3), (1, 2, 3)), (None, 0))
+RULE, EASY = ((0,), (("f", (1, 0)), ("e", (1, 0)), ("e", (0, 2)))), ((0,), (("e", (5, 0)), ("e", (0, 3))))
 CALLS = (
     (lots.lots_within, ((0, 1, 3),)), (lots.lots_on, (THREE,)), (numbers.most_within, ((7, 2),)),
     (Table, ((0,), ((2,), (1,)))), (tables.project, (SOME_TABLE, (1,))), (tables.above, (SOME_TABLE, (1,), (0, 1))),
@@ -119,7 +135,15 @@ CALLS = (
     (orders.letter_bound, (ABC, SIDES[:1], (2, 0, 1))), (orders.searched_by, (ASK, SIDES, (2, 0, 1))),
     (orders.full_question, ((0, 1), ((0,), (0, 1)), {1: 2, 0: 1})), (webs.fold_answer, (THREE,)),
     (webs.fold_answer, (((0, 1), (1, 2)),)), (webs.sequence_of, (((0, 1), (1, 2)), (1, None))),
-    (webs.reduced, (PAIR, (1, None))), (webs.tree_answer, (PAIR, (1, None))),
+    (webs.reduced, (PAIR, (1, None))), (webs.tree_answer, (PAIR, (1, None))), (sums.plain_sum, (PAIR, ONES, ("least",), (1,))),
+    (sums.tree_sum, (PAIR, (1, None), ONES, ("sum", 0), (0, 1))), (sums.notes, (PAIR, (1, None), ONES, ("truth",))),
+    (sums.shares, (PAIR, (1, None), ONES, ("sum", 3))), (sums.best_row, (PAIR, (1, None), ONES)),
+    (sums.count, (PAIR, (1, None))), (bags.bags_of, (WHEEL, (2, 0, 1, 3))), (bags.bag_tables, (PAIR, ((ABC,), (None,)))),
+    (bags.bag_answer, (PAIR, ((ABC,), (None,)))), (bags.width, (THREE, SIDES, ((ABC,), (None,)))),
+    (bags.least_width, (THREE, SIDES)), (several.choices, (WHEEL, (SPLIT, OTHER))),
+    (several.several_tables, (ASK, SIDES, (((ABC,), (None,)),), (WEB,))), (maps.own_store, (RULE,)),
+    (maps.rule_answer, (RULE, {"f": ((1, 0),), "e": ((1, 0), (0, 5))})), (maps.within_answer, (RULE, EASY)),
+    (maps.within_answer, (EASY, RULE)), (maps.least_rule, (RULE,)), (maps.are_same, (RULE, EASY)),
 )
 
 

@@ -5,9 +5,11 @@ from importlib import import_module
 
 MODULES = ("errors", "base.lots", "base.numbers", "table.tables", "table.joins", "letter.search", "exact.linear",
            "cover.covers", "rank.ranks", "rank.papers", "rank.degrees", "flow.flows", "flow.parts", "flow.plans",
-           "flow.rules", "reach.made", "letter.orders", "tree.webs")
+           "flow.rules", "reach.made", "letter.orders", "tree.webs", "tree.sums", "tree.bags", "tree.several")
+# A module that has a name of an earlier one: its names are those of its own stage.
+ANEW = {"Stage 19: rules within one another": "within.maps"}
 
-LINES = 59
+LINES = 68
 BLOCKS = (
     ("Examples", """
 >>> THREE, RING = (0, 1, 2), ((0, 1), (0, 2), (1, 2))
@@ -187,6 +189,35 @@ raises InvalidOperation
 >>> reduced(PAIR, (0, None))
 raises InvalidOperation
 """),
+    ("Stage 17: sums over answers", """
+>>> ONES = ({(1, 2): 1, (1, 3): 1, (4, 5): 1}, {(2, 7): 1, (3, 7): 1, (9, 9): 1})
+>>> PRICES = ({(1, 2): 5, (1, 3): 2, (4, 5): -9}, {(2, 7): 1, (3, 7): 3, (9, 9): 0})
+>>> [plain_sum(PAIR, PRICES, ("sum", 0), (0,)), tree_sum(PAIR, (1, None), PRICES, ("least",), (1,)), tree_sum(PAIR, (None, 0), ONES, ("sum", 2), ()), count(PAIR, (None, 0))]
+[{(1,): 11}, {(2,): 6, (3,): 5}, {(): 0}, 2]
+>>> [notes(PAIR, (1, None), PRICES, ("sum", 0)), shares(PAIR, (None, 0), PRICES, ("sum", 0))[1], best_row(PAIR, (None, 0), PRICES)]
+[({(2,): 5, (3,): 2, (5,): -9}, {(): 11}), {(2, 7): 5, (3, 7): 2, (9, 9): 0}, (1, 3, 7)]
+>>> plain_sum(PAIR, ONES, ("sum", 1), ())
+raises InvalidOperation
+"""),
+    ("Stage 18: trees of bags", """
+>>> SPLIT, OTHER = (((0, 1, 2), (0, 2, 3)), (None, 0)), bags_of(WHEEL, (0, 1, 2, 3))
+>>> [OTHER[0], is_bags(WHEEL, SPLIT), is_bags(WHEEL, (WHEEL, (None, 0, 1, 2))), width(WHEEL, EDGES, SPLIT), choices(WHEEL, (SPLIT, OTHER))[0]]
+[((0, 1, 3), (1, 2, 3)), True, False, (4, 1), ((0, 1, 2), (0, 1, 3))]
+"""),
+    ("Stage 19: rules within one another", """
+>>> ROAD = ((0,), (("e", (0, 1)), ("e", (1, 2))))
+>>> STEP, LOOP = ((0,), (("e", (0, 1)),)), ((0,), (("e", (0, 0)),))
+>>> [within_answer(ROAD, STEP), within_answer(LOOP, ROAD), within_answer(STEP, ROAD)[0]]
+[('map', {0: 0, 1: 1}), ('map', {0: 0, 1: 0, 2: 0}), 'tables']
+>>> [own_store(ROAD), rule_answer(ROAD, {"e": ((3, 4), (4, 4), (5, 3))})]
+[{'e': ((0, 1), (1, 2))}, ((3,), (4,), (5,))]
+>>> least_rule(((0,), (("e", (0, 1)), ("e", (0, 2)), ("e", (2, 3)))))
+((0,), (('e', (0, 2)), ('e', (2, 3))))
+>>> [is_least(ROAD, ROAD), are_alike(ROAD, STEP), are_same(ROAD, ((0,), (("e", (4, 5)), ("e", (0, 4)))))]
+[True, False, True]
+>>> within_answer(ROAD, ((), (("e", (0, 1)),)))
+raises InvalidOperation
+"""),
 )
 
 
@@ -217,6 +248,8 @@ class ExamplesTest(unittest.TestCase):
             names.update(vars(import_module("crestjoin." + module)))
         lines = 0
         for head, block in BLOCKS:
+            if head in ANEW:
+                names.update(vars(import_module("crestjoin." + ANEW[head])))
             for source, wanted in steps_of(block):
                 with self.subTest(head=head, source=source):
                     if wanted is None:

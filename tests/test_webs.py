@@ -1,6 +1,5 @@
 """Webs that fold [0.14], [16.1] to [16.5]: crestjoin.tree.webs."""
 
-import random
 import unittest
 from itertools import combinations, permutations, product
 
@@ -9,49 +8,15 @@ from crestjoin.table.joins import Question, answer
 from crestjoin.table.tables import Table
 from crestjoin.tree import webs
 from crestjoin.tree.webs import fold_answer, is_fold, is_stuck, is_tree, reduced, sequence_of, tree_answer
+from tests.folds import SIX, WRONG_TREES, all_trees, drawn_questions, is_tree_plainly, some_webs
 from tests.support import (
-    BOOLS, HUGE, LONG_NUMBERS, OBJECTS, ODD, SOME_TABLE, WRONG_LOTS, WRONG_QUESTIONS, all_lots, check_judge,
-    check_wrongs, part_of, plain_answer, random_table, refused, shown,
+    HUGE, SOME_TABLE, WRONG_LOTS, WRONG_QUESTIONS, all_lots, check_judge, check_wrongs, part_of, plain_answer, refused,
+    shown,
 )
 
 TWIG, SHUT, WHEEL = ((0, 1), (2, 3), (1, 2)), ((0, 1), (0, 2), (1, 2)), ((0, 1), (1, 2), (2, 3), (0, 3))
-SIX = (0, 1, 2, 3, 4, 5)
 LEFT, RIGHT = Table((0, 1), ((1, 2), (1, 3), (4, 5))), Table((1, 2), ((2, 7), (3, 7), (9, 9)))
 PAIR = Question((0, 1, 2), (LEFT, RIGHT))
-
-
-def some_webs(seed, times, letters=SIX, most=6):
-    """Webs with lots twice, with () and with lots within others."""
-    chance = random.Random(seed)
-    yield ()
-    yield ((),)
-    yield ((), ())
-    yield ((0, 1), (0, 1))
-    for _ in range(times):
-        sizes = chance.choice(((0, 1, 2), (2,), (2, 3), (1, 2, 3, 4)))
-        yield tuple(tuple(sorted(chance.sample(letters, chance.choice(sizes)))) for _ in range(chance.randint(0, most)))
-
-
-def is_tree_plainly(lots, tree):
-    """Whether places and None are a tree, from the words of the document."""
-    if lots == ():
-        return tree == ()
-    if len(tree) != len(lots) or tree.count(None) != 1 or any(place is not None and not 0 <= place < len(lots)
-                                                              for place in tree):
-        return False
-    for place in range(len(lots)):
-        passed = set()
-        while tree[place] is not None:
-            if place in passed:
-                return False
-            passed.add(place)
-            place = tree[place]
-    for letter in {letter for lot in lots for letter in lot}:
-        tops = [place for place, lot in enumerate(lots) if letter in lot
-                and (tree[place] is None or letter not in lots[tree[place]])]
-        if len(tops) != 1:
-            return False
-    return True
 
 
 def is_stuck_plainly(lots, some):
@@ -64,12 +29,6 @@ def is_stuck_plainly(lots, some):
         return False
     return any(left == sorted(tuple(sorted((ring[at], ring[at - 1]))) for at in range(len(ring)))
                for ring in permutations(some) if ring[0] == some[0])
-
-
-def all_trees(lots):
-    """All trees over a web of few places."""
-    places = tuple(range(len(lots)))
-    return [tree for tree in product((None,) + places, repeat=len(lots)) if is_tree_plainly(lots, tree)]
 
 
 class TreeTest(unittest.TestCase):
@@ -184,20 +143,6 @@ class FoldTest(unittest.TestCase):
         self.assertEqual(fold_answer(tuple(combinations(SIX, 5)) + (SIX,) + ((),) * 5)[0], "folds")
 
 
-def drawn_questions(seed, times):
-    """Questions over webs that fold, a part without rows and parts on one lot among them, with all or some trees."""
-    chance = random.Random(seed)
-    yield Question((), ()), [()]
-    yield Question((), (Table((), ()), Table((), ((),)))), [(None, 0), (1, None)]
-    for lots in some_webs(seed, times, (0, 1, 2, 3), 4):
-        trees = all_trees(lots)
-        if trees:
-            letters = tuple(sorted({letter for lot in lots for letter in lot}))
-            size = [3 ** len(lot) for lot in lots]
-            parts = tuple(random_table(chance, lot, (0, 1, 2), chance.randint(n // 3, n)) for lot, n in zip(lots, size))
-            yield Question(letters, parts), chance.sample(trees, min(3, len(trees)))
-
-
 class AlongTest(unittest.TestCase):
     def test_both_ways_are_projections(self):
         """[16.3]: each part is the answer's projection."""
@@ -248,10 +193,7 @@ class AlongTest(unittest.TestCase):
 
 class WrongArgumentsTest(unittest.TestCase):
     LOTS = (InvalidLot, WRONG_LOTS[:-1] + (((0,),) * 13, ((1, 0),), ((0,), None), [(0,)], ([0],), ((True,),), ((6,),)))
-    TREES = (InvalidOperation, ODD + OBJECTS + BOOLS + LONG_NUMBERS + (
-        0, (), (None,), (None, None), (0, 1), (1, 0), (0, None), (None, 2), (None, -1), (None, True),
-        (False, None)[::-1], [None, 0], (None, "0"), (None, (0,)), (None, 0, 0), (None, HUGE), {0: None, 1: 0},
-    ))
+    TREES = (InvalidOperation, WRONG_TREES)
 
     def test_webs(self):
         lots = (InvalidLot, tuple(value for value in self.LOTS[1] if value != ((0,), (1,))))

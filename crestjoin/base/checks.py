@@ -5,6 +5,8 @@ from math import gcd
 from crestjoin.errors import InvalidNumber
 
 GREATEST = 999999999
+LONGEST_NAME = 8
+NAME_LETTERS = "abcdefghijklmnopqrstuvwxyz"
 
 
 def is_integer(value):
@@ -30,6 +32,13 @@ def are_between(value, least, most):
 def are_from_nought(value):
     """Whether the value is a tuple of integers from 0 on, of any length."""
     return are_integers(value) and all([number >= 0 for number in value])
+
+
+def is_name(value):
+    """Whether the value is a name: one to eight of the letters a to z."""
+    if not isinstance(value, str) or not 1 <= len(value) <= LONGEST_NAME:
+        return False
+    return all([letter in NAME_LETTERS for letter in value])
 
 
 def is_pair(value):

@@ -20,14 +20,17 @@ def is_point(value):
 
 def check_program(rows, sides, many):
     """Refuses all but at most 24 rows of so many columns with a side for each of them."""
-    if not isinstance(rows, tuple) or len(rows) > MOST_ROWS or not all([_is_line(row, many) for row in rows]):
+    if not are_lines(rows, many) or not all([are_between(row, -GREATEST, GREATEST) for row in rows]):
         raise InvalidOperation("rows are a tuple of at most 24 tuples of an integer for each column")
-    if not _is_line(sides, len(rows)):
+    if not are_between(sides, -GREATEST, GREATEST) or len(sides) != len(rows):
         raise InvalidOperation("sides are a tuple of an integer for each row")
 
 
-def _is_line(value, many):
-    return are_between(value, -GREATEST, GREATEST) and len(value) == many
+def are_lines(value, many):
+    """Whether the value is rows of so many columns, of integers of any length."""
+    if not isinstance(value, tuple) or len(value) > MOST_ROWS:
+        return False
+    return all([are_integers(row) and len(row) == many for row in value])
 
 
 def check_costs(value):
@@ -40,10 +43,11 @@ def does_fit(rows, sides, many, value):
     """Whether the value is a point that fits rows of so many columns."""
     check_number(many, 0, MOST_COLUMNS)
     check_program(rows, sides, many)
-    return _fits(rows, sides, many, value)
+    return fits(rows, sides, many, value)
 
 
-def _fits(rows, sides, many, value):
+def fits(rows, sides, many, value):
+    """Whether the value is a point that fits rows of integers of any length."""
     if not is_point(value) or len(value[1]) != many or not are_from_nought(value[1]):
         return False
     under, numbers = value
@@ -62,6 +66,11 @@ def linear_answer(rows, sides, costs):
     """What can be told of the program: ("least", x, y), ("none", y) or ("endless", x, way)."""
     check_costs(costs)
     check_program(rows, sides, len(costs))
+    return program_answer(rows, sides, costs)
+
+
+def program_answer(rows, sides, costs):
+    """What can be told of a program with integers of any length."""
     form = ended_form(rows, sides, costs)
     if form.end[0] == "endless":
         way = way_of(form, len(costs))
@@ -81,8 +90,8 @@ def is_linear(rows, sides, costs, value):
     if not isinstance(value, tuple):
         return False
     if len(value) == 2 and value[0] == "none":
-        return _is_reason(rows, sides, len(costs), value[1])
-    if len(value) != 3 or not _fits(rows, sides, len(costs), value[1]):
+        return is_reason(rows, sides, len(costs), value[1])
+    if len(value) != 3 or not fits(rows, sides, len(costs), value[1]):
         return False
     if value[0] == "endless":
         return _is_way(rows, costs, value[2])
@@ -93,7 +102,8 @@ def _columns_of(rows, many):
     return [[row[column] for row in rows] for column in range(many)]
 
 
-def _is_reason(rows, sides, many, value):
+def is_reason(rows, sides, many, value):
+    """Whether the value shows, by its sums alone, that no point fits."""
     if not are_from_nought(value) or len(value) != len(rows) or sum_of_products(sides, value) <= 0:
         return False
     return all([sum_of_products(column, value) <= 0 for column in _columns_of(rows, many)])
@@ -105,14 +115,19 @@ def _is_way(rows, costs, value):
     return all([sum_of_products(row, value) >= 0 for row in rows])
 
 
-def _do_meet(rows, sides, costs, point, value):
+def are_prices(rows, costs, value):
+    """Whether the value is a point with a price for each row that makes no column more than its cost."""
     if not is_point(value) or len(value[1]) != len(rows) or not are_from_nought(value[1]):
         return False
     under, prices = value
-    for column, cost in zip(_columns_of(rows, len(costs)), costs):
-        if sum_of_products(column, prices) > under * cost:
-            return False
-    return sum_of_products(costs, point[1]) * under == sum_of_products(sides, prices) * point[0]
+    columns = _columns_of(rows, len(costs))
+    return all([sum_of_products(column, prices) <= under * cost for column, cost in zip(columns, costs)])
+
+
+def _do_meet(rows, sides, costs, point, value):
+    if not are_prices(rows, costs, value):
+        return False
+    return sum_of_products(costs, point[1]) * value[0] == sum_of_products(sides, value[1]) * point[0]
 
 
 def corners(rows, sides, many):
@@ -124,7 +139,7 @@ def corners(rows, sides, many):
     found = {}
     for chosen in combinations(range(many + len(rows)), many):
         point = _point_where(rows, sides, many, chosen)
-        if point is not None and _fits(rows, sides, many, point):
+        if point is not None and fits(rows, sides, many, point):
             found[point] = True
     return tuple(sorted(found))
 
@@ -148,7 +163,7 @@ def is_corner(rows, sides, many, value):
     """Whether the value is a corner, in any terms."""
     check_number(many, 0, MOST_COLUMNS)
     check_program(rows, sides, many)
-    if not _fits(rows, sides, many, value):
+    if not fits(rows, sides, many, value):
         return False
     under, numbers = value
     left = [column for column in range(many) if numbers[column] > 0]

@@ -29,9 +29,14 @@ def _are_goals(lot, value):
     return do_ascend([some for some, many in value])
 
 
+def is_passed_flow(lot, value):
+    """Whether the value is a flow on the lot whose counts have at most nine digits."""
+    return is_flow(lot, value) and all([many[-1] <= GREATEST for things in value for many in things])
+
+
 def check_flow(lot, value):
     """Refuses all but the flows on the lot whose counts have at most nine digits."""
-    if not is_flow(lot, value) or not all([many[-1] <= GREATEST for things in value for many in things]):
+    if not is_passed_flow(lot, value):
         raise InvalidFlow("a flow is four tuples of counted lots: at no lot more is used than flows in")
 
 

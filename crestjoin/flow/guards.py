@@ -17,8 +17,8 @@ class Guard:
     If its k is great it has no table, as none is made.
     """
 
-    def __init__(self, table, above, k):
-        self.table = table
+    def __init__(self, held, above, k):
+        self.held = held
         self.above = above
         self.k = k
 
@@ -81,7 +81,7 @@ class Plan:
     """What a run is led from: a question, told degrees that it keeps, and a flow of them."""
 
     def __init__(self, question, told, flow):
-        self.question = question
+        self.asking = question
         self.told = told
         self.flow = flow
         self.goals = {some: True for some, _ in flow[0]}
@@ -98,7 +98,7 @@ class Plan:
         bag = Bag({})
         for low, high, many in self.flow[1]:
             k = pairs[(low, high)]
-            part = keeping_part(self.question, (low, high, k))
+            part = keeping_part(self.asking, (low, high, k))
             bag.put((low, high), Guard(project(part, high), high, k), many)
         return bag
 
@@ -124,20 +124,20 @@ def step_sizes(plan, bag, step):
     if kind == SPARE_STEP or step[2] == ():
         return ()
     if kind == CUT_STEP:
-        bag.put((step[2], joined_lot(some, step[2])), Guard(guard.table, some, guard.k), 1)
+        bag.put((step[2], joined_lot(some, step[2])), Guard(guard.held, some, guard.k), 1)
         return ()
     if kind == DROP_STEP:
-        made = Guard(project(guard.table, step[2]), step[2], guard.k)
+        made = Guard(project(guard.held, step[2]), step[2], guard.k)
     else:
         made = _joined_guard(plan, guard, bag.take((some, step[2])), step[2])
     bag.put(((), step[2]), made, 1)
-    return (len(made.table),) if made.table is not None else ()
+    return (len(made.held),) if made.held is not None else ()
 
 
 def _joined_guard(plan, guard, other, high):
     made = Guard(None, high, guard.k + other.k)
     if not plan.is_great(made):
-        made.table = join(guard.table, project(other.table, other.above))
+        made.held = join(guard.held, project(other.held, other.above))
     return made
 
 
@@ -149,7 +149,7 @@ def cut_bags(plan, bag, step):
     guard = bag.take(((), some))
     shared = common_lot(some, other)
     bags, sizes = [], []
-    for level, piece in pieces_of(guard.table, shared, guard.k):
+    for level, piece in pieces_of(guard.held, shared, guard.k):
         lesser = project(piece, shared)
         branch = bag.twin()
         branch.put(((), shared), Guard(lesser, shared, guard.k - level), 1)
@@ -161,7 +161,7 @@ def cut_bags(plan, bag, step):
 
 def give_up(plan, bag, some, flow):
     """Gives up a great term, and goes on with the terms of the flow: whether this is possible."""
-    lot = plan.question.lot
+    lot = plan.asking.lot
     if not is_lot_within(lot, some) or not bag.has(((), some)) or is_ready(plan, bag, some):
         return False
     if not is_flow(lot, flow) or flow[0] == ():

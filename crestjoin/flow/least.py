@@ -146,5 +146,10 @@ def is_either_answer(lot, goals, told, bound, value):
         return is_paper(lot, goals, told, bound, value[1])
     if not isinstance(value, tuple) or len(value) != 3 or value[0] != "rank":
         return False
-    _, s, rank = value
+    return is_rank_above(lot, goals, told, bound, value[1:])
+
+
+def is_rank_above(lot, goals, told, bound, value):
+    """Whether a pair is a scale and a rank that keeps the told degrees with it, above the bound at each goal."""
+    s, rank = value
     return _is_kept_rank(lot, told, s, rank) and all([bound[1] * rank[goal] > bound[0] * s for goal in goals])

@@ -43,7 +43,7 @@ def _take_entry(plan, bag, entry, course):
     if isinstance(entry, tuple) and len(entry) == 3 and entry[0] == GIVE_UP:
         course.given_up = course.given_up + 1
         return give_up(plan, bag, entry[1], entry[2])
-    if not is_step(plan.question.lot, entry) or entry[0] == GOAL_STEP or does_cut_pieces(entry):
+    if not is_step(plan.asking.lot, entry) or entry[0] == GOAL_STEP or does_cut_pieces(entry):
         return False
     made = step_sizes(plan, bag, entry)
     if made is None:
@@ -56,13 +56,13 @@ def _take_last(plan, bag, entry, course, pending):
     # Takes a last entry: whether this is possible. The logs of all pieces are to be followed then, the first one first.
     if not isinstance(entry, tuple):
         return False
-    lot = plan.question.lot
+    lot = plan.asking.lot
     if len(entry) == 2:
         if not is_step(lot, entry) or entry[0] != GOAL_STEP or entry[1] not in plan.goals:
             return False
         if not is_ready(plan, bag, entry[1]):
             return False
-        course.ends.append((entry[1], bag.last(((), entry[1])).table))
+        course.ends.append((entry[1], bag.last(((), entry[1])).held))
         return True
     if len(entry) != 4 or not is_step(lot, entry[:3]) or not does_cut_pieces(entry) or not isinstance(entry[3], tuple):
         return False
@@ -77,7 +77,7 @@ def _take_last(plan, bag, entry, course, pending):
 def led_log(plan):
     """A log that is led from the flow of the plan."""
     # With fewer terms there are fewer cuts to go through, and a log that takes fewer terms is a log all the same.
-    lead = lesser_flow(plan.question.lot, plan.told, plan.flow)
+    lead = lesser_flow(plan.asking.lot, plan.told, plan.flow)
     whole = plan.first_bag()
     whole.keep(lead[1])
     records = []
@@ -142,8 +142,8 @@ def _chosen(plan, bag, stock):
         if some in plan.goals:
             return (GOAL_STEP, some)
     for some in ready:
-        if len(bag.last(((), some)).table) == 0 and 1 < len(some) < len(plan.question.lot):
-            return _cut_of_nothing(plan.question.lot, some)
+        if len(bag.last(((), some)).held) == 0 and 1 < len(some) < len(plan.asking.lot):
+            return _cut_of_nothing(plan.asking.lot, some)
     steps = [step_of(thing, some) for thing, some, _ in stock.leads() if some in ready]
     plain = [(_added_k(bag, step), step) for step in steps if not does_cut_pieces(step)]
     if plain:
@@ -171,4 +171,4 @@ def _added_k(bag, step):
 
 def _pieces(bag, step):
     guard = bag.last(((), step[1]))
-    return len(pieces_of(guard.table, common_lot(step[1], step[2]), guard.k))
+    return len(pieces_of(guard.held, common_lot(step[1], step[2]), guard.k))

@@ -15,12 +15,17 @@ def plan_of(question, told, flow):
     check_question(question)
     check_told(question.lot, told)
     check_flow(question.lot, flow)
-    if flow[0] == () or cost_of(told, flow[1]) is None:
-        raise InvalidOperation("the flow has a goal, and all of its terms are of told pairs")
+    check_terms(told, flow)
     kept = keeps(question, told)
     if False in kept:
         raise Refused(("degree", kept.index(False)))
     return Plan(question, told, flow)
+
+
+def check_terms(told, flow):
+    """Refuses flows without a goal, or with a term of a pair that is not told."""
+    if flow[0] == () or cost_of(told, flow[1]) is None:
+        raise InvalidOperation("the flow has a goal, and all of its terms are of told pairs")
 
 
 def _whole_plan(question, told, flow):

@@ -71,14 +71,14 @@ def _goal_tables(plan, course):
 def is_rule_run(question, told, flow, value):
     """Whether the value is a log of the run with the tables that it leads to."""
     plan = plan_of(question, told, flow)
-    if not is_pair(value) or not _are_tables(question.lot, value[1]):
+    if not is_pair(value) or not are_tables(question.lot, value[1]):
         return False
     course = followed(plan, value[0])
     return course is not None and value[1] == _goal_tables(plan, course)
 
 
-def _are_tables(lot, value):
-    # Whether the value is a dict from lots within the lot to tables on them.
+def are_tables(lot, value):
+    """Whether the value is a dict from lots within the lot to tables on them."""
     if not isinstance(value, dict) or not all([is_lot_within(lot, some) for some in value]):
         return False
     return all([isinstance(table, Table) and table.lot == some for some, table in value.items()])
@@ -86,14 +86,18 @@ def _are_tables(lot, value):
 
 def _check_tables(question, value):
     check_question(question)
-    if not _are_tables(question.lot, value) or value == {}:
+    if not are_tables(question.lot, value) or value == {}:
         raise InvalidOperation("tables are a dict from at least one lot within the question's to tables on them")
 
 
 def does_hold(question, tables):
     """Whether each row of the answer has, for at least one of the lots, its part in the table there."""
     _check_tables(question, tables)
-    found = answer(question)
+    return do_tables_hold(answer(question), tables)
+
+
+def do_tables_hold(found, tables):
+    """Whether each row of a table has, for at least one of the lots, its part in the table there."""
     held = [False] * len(found)
     for some, table in tables.items():
         for place, part in enumerate(parts_at(found.rows, found.lot, some)):

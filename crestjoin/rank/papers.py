@@ -1,6 +1,6 @@
 """Inequalities between ranks, told with papers: crossings and drops that make them, or a rank that fails [stage 8]."""
 
-from crestjoin.base.checks import GREATEST, are_between, check_number, is_pair
+from crestjoin.base.checks import GREATEST, are_between, are_integers, check_number, is_pair
 from crestjoin.base.lots import common_lot, joined_lot
 from crestjoin.errors import InvalidOperation
 from crestjoin.exact.duals import least_form
@@ -12,16 +12,19 @@ from crestjoin.rank.ranks import check_lesser_lot, check_rank, check_rank_lot, i
 MOST_COVERING = 32
 
 
+def is_total(lot, value):
+    """Whether the value is a sum on the lot, with integers of any length."""
+    if not isinstance(value, dict) or not all([is_lot_within(lot, some) and some != () for some in value]):
+        return False
+    return are_integers(tuple(list(value.values())))
+
+
 def _check_total(lot, value):
     check_rank_lot(lot)
-    if not isinstance(value, dict) or not all([_is_key(lot, some) for some in value]):
+    if not is_total(lot, value):
         raise InvalidOperation("a sum is a dict from lots within the lot other than () to integers")
     if not are_between(tuple(list(value.values())), -GREATEST, GREATEST):
         raise InvalidOperation("a sum has integers of at most nine digits")
-
-
-def _is_key(lot, value):
-    return is_lot_within(lot, value) and value != ()
 
 
 def _put_together(pairs):
@@ -59,6 +62,11 @@ def _value(total, rank):
 def inequality_answer(lot, total):
     """("holds", (E, crossings, drops)) with what makes the sum E times, or ("fails", rank) with a value below 0."""
     _check_total(lot, total)
+    return total_answer(lot, total)
+
+
+def total_answer(lot, total):
+    """What can be told of a sum with integers of any length."""
     lots = lots_with_letters(lot)
     things = crossings_and_drops(lot)
     sides = [-total.get(some, 0) for some in lots]
@@ -90,11 +98,17 @@ def is_inequality_answer(lot, total, value):
     if not is_pair(value):
         return False
     if value[0] == "fails":
-        return is_rank(lot, value[1]) and _value(total, value[1]) < 0
-    return value[0] == "holds" and _is_paper(lot, total, value[1])
+        return does_fail(lot, total, value[1])
+    return value[0] == "holds" and does_make(lot, total, value[1])
 
 
-def _is_paper(lot, total, value):
+def does_fail(lot, total, value):
+    """Whether the value is a rank at which a sum has a value below 0."""
+    return is_rank(lot, value) and _value(total, value) < 0
+
+
+def does_make(lot, total, value):
+    """Whether the value is a triple (E, crossings, drops) that make a sum E times."""
     if not isinstance(value, tuple) or len(value) != 3 or not is_count(value[0]):
         return False
     times, crossings, drops = value

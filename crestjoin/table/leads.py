@@ -2,10 +2,13 @@
 
 A *lead* of a letter is what one part tells of it: a triple of the part's index, of the places in the order at
 which the part's elder letters stand, and of a dict from the numbers there to the next numbers. These are a dict
-with ascending keys, as they are looked up as well as gone through.
+with ascending keys, as they are looked up as well as gone through. Of numbers that no row of the part agrees with it
+tells no next ones.
 """
 
 from crestjoin.table.tables import part_at, parts_at
+
+NONE = ()
 
 
 def leads_of(parts, order):
@@ -37,7 +40,7 @@ def asked_lead(leads, row):
     """The pair (part, next numbers) with the fewest next numbers at a begun row, of several the first."""
     best = None
     for index, places, numbers in leads:
-        told = numbers[part_at(row, places)]
+        told = numbers.get(part_at(row, places), NONE)
         if best is None or len(told) < len(best[1]):
             best = (index, told)
     return best
@@ -47,7 +50,7 @@ def kept_numbers(leads, row, numbers):
     """Those of the numbers that all leads tell at a begun row."""
     kept = list(numbers)
     for lead in leads:
-        told = lead[2][part_at(row, lead[1])]
+        told = lead[2].get(part_at(row, lead[1]), NONE)
         kept = [number for number in kept if number in told]
     return kept
 

@@ -29,11 +29,8 @@ class Table:
         if not isinstance(rows, tuple) or len(rows) > MOST_ROWS or not all([is_row(lot, row) for row in rows]):
             raise InvalidTable("rows are a tuple of at most 1000 rows on the lot")
         self._lot = lot
-        self._hold(rows)
-
-    def _hold(self, rows):
-        self._rows = tuple(sorted(set(rows)))
-        self._known = {row: True for row in self._rows}
+        self._known = {row: True for row in rows}
+        self._rows = tuple(sorted(self._known))
 
     @property
     def lot(self):
@@ -61,7 +58,10 @@ class Table:
 def table_of(lot, rows):
     """The table of rows that are known to be right: only callers are held to 1000 of them."""
     table = Table(lot, ())
-    table._hold(rows)
+    # A dict keeps the rows as they come: most come in ascending sequence, and are sorted far faster so.
+    known = {row: True for row in rows}
+    table._known = known
+    table._rows = tuple(sorted(known))
     return table
 
 

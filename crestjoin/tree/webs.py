@@ -109,14 +109,15 @@ def is_fold(lots, value):
     return value[0] == "stuck" and is_stuck(lots, value[1])
 
 
-def _check_tree(lots, tree):
+def check_tree(lots, tree):
+    """Refuses all but trees over the web."""
     if not is_tree(lots, tree):
         raise InvalidOperation("the tree is a tree over the web")
 
 
 def sequence_of(lots, tree):
     """The sequence of all places: again and again the least one whose place above is there."""
-    _check_tree(lots, tree)
+    check_tree(lots, tree)
     places = []
     while len(places) < len(tree):
         ready = [place for place, above in enumerate(tree) if above is None or above in places]
@@ -127,7 +128,7 @@ def sequence_of(lots, tree):
 def reduced(question, tree):
     """The tuple of the parts behind both ways along the tree: each is the answer's projection."""
     check_question(question)
-    _check_tree(question.lots, tree)
+    check_tree(question.lots, tree)
     parts = list(question.parts)
     places = sequence_of(question.lots, tree)[1:]
     for place in reversed(places):

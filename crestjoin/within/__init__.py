@@ -1,0 +1,1 @@
+"""Rules within one another."""
