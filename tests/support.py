@@ -3,9 +3,11 @@
 import random
 from itertools import combinations, product
 
-from crestjoin.errors import InvalidNumber, Refused, TooMany
+from crestjoin.change.kept import Kept
+from crestjoin.errors import InvalidNumber, ParseError, Refused, TooMany, UnknownName
 from crestjoin.table.joins import Question
 from crestjoin.table.tables import Table
+from crestjoin.use.bench import Bench
 
 GREATEST = 999999999
 LONG = 10 ** 9
@@ -14,6 +16,8 @@ HUGE = 7 ** 3000
 
 SOME_TABLE = Table((0, 1), ((0, 1), (1, 0), (1, 1)))
 SOME_QUESTION = Question((0, 1), (SOME_TABLE,))
+SOME_KEPT = Kept(SOME_QUESTION)
+SOME_BENCH = Bench()
 DEEP = (((((((0,),),),),),),)
 DEEP_LIST = [{"a": [{"b": [{0: (None, [])}]}]}]
 
@@ -22,12 +26,12 @@ ODD = (
     None, "", "0", "a b\n", "x" * 4000, [], [0], [0, 1], {}, {0: 0}, {0: 1, 1: 0}, {(): 0}, DEEP, DEEP_LIST, (None,),
     ("0",), ([],), ({},), (True,), (False, True), ((True,),), (0, None), ("",), InvalidNumber(3),
 )
-OBJECTS = (SOME_TABLE, SOME_QUESTION)
+OBJECTS = (SOME_TABLE, SOME_QUESTION, SOME_KEPT, SOME_BENCH)
 BOOLS = (True, False)
 LONG_NUMBERS = (LONG, -LONG, LONGEST, -LONGEST)
 
-WRONG_TABLES = ODD + BOOLS + LONG_NUMBERS + (0, 1, (), (0, 1), ((0, 1),), SOME_QUESTION, (SOME_TABLE,))
-WRONG_QUESTIONS = ODD + BOOLS + LONG_NUMBERS + (0, 1, (), (0, 1), SOME_TABLE, (SOME_QUESTION,))
+WRONG_TABLES = ODD + BOOLS + LONG_NUMBERS + (0, 1, (), (0, 1), ((0, 1),), SOME_QUESTION, (SOME_TABLE,), SOME_KEPT)
+WRONG_QUESTIONS = ODD + BOOLS + LONG_NUMBERS + (0, 1, (), (0, 1), SOME_TABLE, (SOME_QUESTION,), SOME_KEPT)
 WRONG_LOTS = ODD + OBJECTS + BOOLS + LONG_NUMBERS + (
     0, 1, (1, 0), (0, 0), (0, 1, 1), (6,), (0, 6), (-1,), (-1, 0), (LONG,), (0, True), (False,), ((0,), (1,)), ((),),
 )
@@ -52,6 +56,10 @@ def shown(value):
         return f"Table{(value.lot, value.rows)!r}"
     if isinstance(value, Question):
         return f"Question{(value.lot, shown(value.parts))!r}"
+    if isinstance(value, Kept):
+        return f"Kept{(shown(value.question), value.answer.rows, value.looks, value.changes)!r}"
+    if isinstance(value, Bench):
+        return f"Bench{(value.lines, [(name, shown(value.table(name))) for name in value.names], shown(value.question))!r}"
     if isinstance(value, (tuple, list)):
         return f"{type(value).__name__}{[shown(inner) for inner in value]!r}"
     if isinstance(value, dict):
@@ -59,7 +67,7 @@ def shown(value):
     return repr(value)
 
 
-KEEPING = {InvalidNumber: "given", TooMany: "most", Refused: "reason"}
+KEEPING = {InvalidNumber: "given", UnknownName: "wanted", TooMany: "most", Refused: "reason", ParseError: "at"}
 
 
 def refused(test, error, call, args, kept=None):

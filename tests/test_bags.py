@@ -266,8 +266,23 @@ class WidthTest(unittest.TestCase):
                 if drawn is not None:
                     other = width_plainly(letters, told, drawn[0])
                     self.assertTrue(other is None or (least is not None and least <= other))
-                    self.assertIs(is_least_width(lots, told, (as_width(other), drawn)), other == least)
+                    for claimed in (as_width(other), found[0]):
+                        self.assertIs(is_least_width(lots, told, (claimed, drawn)), other == least)
         self.assertGreater(min(seen.values()), 3)
+
+    def test_bounds_that_are_no_whole_numbers(self):
+        """The greatest of 5 / 2 and 3, of 7 / 2 and 3, in each sequence of the bags."""
+        sides = (((), (0, 1), 1), ((), (0, 2), 2), ((), (1, 2), 2))
+        ring = ((0, 1), (0, 2), (1, 2), (2, 3))
+        for k, plain in ((2, (5, 2)), (3, (3, 1)), (4, (4, 1))):
+            for bags in ((((0, 1, 2), (2, 3)), (None, 0)), (((2, 3), (0, 1, 2)), (None, 0))):
+                told = sides + (((), (2, 3), k),)
+                self.assertEqual(width(ring, told, bags), plain)
+                self.assertEqual(least_width(ring, told)[0], plain)
+                self.assertIs(is_least_width(ring, told, (plain, bags)), True)
+        for k, plain in ((3, (7, 2)), (4, (4, 1))):
+            told = tuple((low, high, n + (high != (0, 1))) for low, high, n in sides) + (((), (2, 3), k),)
+            self.assertEqual(width(ring, told, (((2, 3), (0, 1, 2)), (1, None))), plain)
 
     def test_least_widths_over_all_webs_of_bags(self):
         """All webs of few bags on three letters that have a tree."""

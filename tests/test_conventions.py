@@ -5,10 +5,13 @@ import unittest
 from importlib import import_module
 
 from crestjoin.base import checks, lots, numbers
+from crestjoin.change import kept
+from crestjoin.change.kept import Kept
 from crestjoin.cover import covers
 from crestjoin.errors import InvalidNumber
 from crestjoin.exact import linear
 from crestjoin.flow import flows, parts, plans, rules
+from crestjoin.judge import answers, judge
 from crestjoin.letter import orders, search
 from crestjoin.rank import degrees, papers, ranks
 from crestjoin.reach import made
@@ -16,8 +19,12 @@ from crestjoin.table import joins, tables
 from crestjoin.table.joins import Question
 from crestjoin.table.tables import Table
 from crestjoin.tree import bags, several, sums, webs
+from crestjoin.use import texts
+from crestjoin.use.bench import Bench
 from crestjoin.within import maps
-from tests.support import GREATEST, HUGE, LONG, ODD, SOME_QUESTION, SOME_TABLE, refused, shown
+from tests.support import (
+    GREATEST, HUGE, LONG, ODD, SOME_BENCH, SOME_KEPT, SOME_QUESTION, SOME_TABLE, refused, shown,
+)
 
 INTERFACE = {
     "base.lots": "is_lot(value) joined_lot(one,other) common_lot(one,other) rest_lot(one,other) is_within(one,other) "
@@ -77,17 +84,28 @@ INTERFACE = {
     "within.maps": "is_rule(value) is_store(value) own_store(rule) rule_answer(rule,store) within_answer(one,other) "
                    "is_within_answer(one,other,value) least_rule(rule) is_least(rule,value) are_alike(one,other) "
                    "are_same(one,other)",
+    "change.kept": "brought(question,index,row) look_bounds(question,index) Kept(question)",
+    "judge.judge": "is_claim(value) opposite(claim) takes(claim,value)",
+    "judge.answers": "answered(claim)",
+    "use.texts": "lot_text(lot) table_text(table) question_text(question) told_text(lot,told) flow_text(lot,flow) "
+                 "read_lot(text) read_table(text) read_question(text) read_told(lot,text) read_flow(lot,text)",
+    "use.bench": "Bench()",
 }
 CONSTANTS = {
     "table.tables": {"MOST_ROWS": 1000, "MAX_DIGITS": 9}, "table.joins": {"MOST_PARTS": 12, "MOST_JOINED": 100000},
     "exact.linear": {"MOST_COLUMNS": 12, "MOST_ROWS": 24, "MOST_CHOICES": 5000}, "flow.flows": {"MOST_COUNTS": 200},
     "reach.made": {"MOST_SOURCES": 12, "MOST_VECTORS": 12}, "tree.webs": {"MOST_PARTS": 12},
-    "within.maps": {"MOST_ATOMS": 8, "MOST_PLACES": 4, "MOST_STORED": 24},
+    "within.maps": {"MOST_ATOMS": 8, "MOST_PLACES": 4, "MOST_STORED": 24}, "change.kept": {"MOST_CHANGES": 500},
 }
 METHODS = {
     Table: ("__init__", "lot", "rows", "__len__", "__contains__", "__eq__", "__str__"),
     Question: ("__init__", "lot", "parts", "lots", "sizes", "with_part", "__len__", "__eq__", "__str__"),
+    Kept: ("__init__", "question", "answer", "looks", "changes", "put", "take", "undo", "twin", "__len__", "__contains__",
+           "__eq__", "__str__"),
+    Bench: ("__init__", "tell", "lines", "table", "names", "question", "__len__", "__str__"),
 }
+ARGUMENTS = ((SOME_QUESTION.with_part, "index table"), (SOME_KEPT.put, "index row"), (SOME_KEPT.take, "index row"),
+             (SOME_KEPT.undo, ""), (SOME_KEPT.twin, ""), (SOME_BENCH.tell, "line"), (SOME_BENCH.table, "name"))
 
 THREE = ((0, 1), (0, 2), (1, 2))
 RING = ((1, 1, 0), (0, 1, 1), (1, 0, 1))
@@ -144,6 +162,12 @@ CALLS = (
     (several.several_tables, (ASK, SIDES, (((ABC,), (None,)),), (WEB,))), (maps.own_store, (RULE,)),
     (maps.rule_answer, (RULE, {"f": ((1, 0),), "e": ((1, 0), (0, 5))})), (maps.within_answer, (RULE, EASY)),
     (maps.within_answer, (EASY, RULE)), (maps.least_rule, (RULE,)), (maps.are_same, (RULE, EASY)),
+    (kept.brought, (PAIR, 0, (0, 1))), (kept.look_bounds, (PAIR, 0)), (judge.opposite, (("holds", ABC, {(1,): 2, (0,): 1}),)),
+    (answers.answered, (("fails", ABC, {(1,): 2, (0,): 1}),)), (answers.answered, (("holds", ABC, {(1,): 2, (0,): -1}),)),
+    (answers.answered, (("cover", THREE, (2, 2, 2), 2, 1),)), (answers.answered, (("within", RULE, EASY),)),
+    (answers.answered, (("beyond", EASY, RULE),)), (answers.answered, (("below", ABC, SIDES, 11, 2),)),
+    (texts.flow_text, (ABC, WEB)), (texts.read_flow, (ABC, "goal a 1\nterm - a 1\n")), (texts.told_text, (ABC, SIDES)),
+    (texts.read_question, ("question ab\ntable b\n1\ntable a\n",)), (texts.read_told, (ABC, "- ab 1\n")),
 )
 
 
@@ -161,7 +185,7 @@ class InterfaceTest(unittest.TestCase):
                 called, arguments = word[:-1].split("(")
                 made = getattr(module, called)
                 self.assertEqual(made.__module__, "crestjoin." + name)
-                self.assertEqual(list(inspect.signature(made).parameters), arguments.split(","))
+                self.assertEqual(",".join(inspect.signature(made).parameters), arguments)
 
     def test_constants(self):
         for name, constants in CONSTANTS.items():
@@ -172,7 +196,8 @@ class InterfaceTest(unittest.TestCase):
         for kind, methods in METHODS.items():
             for method in methods:
                 self.assertIn(method, vars(kind))
-        self.assertEqual(list(inspect.signature(SOME_QUESTION.with_part).parameters), ["index", "table"])
+        for method, arguments in ARGUMENTS:
+            self.assertEqual(list(inspect.signature(method).parameters), arguments.split())
 
     def test_nine_digits_are_let_everywhere_alike(self):
         self.assertEqual(checks.GREATEST, 10 ** tables.MAX_DIGITS - 1)
@@ -236,19 +261,20 @@ class ConventionsTest(unittest.TestCase):
 
     def test_objects_cannot_be_iterated_over(self):
         """[0.2]"""
-        for thing in (SOME_TABLE, SOME_QUESTION, Table((), ()), Question((), ())):
+        for thing in (SOME_TABLE, SOME_QUESTION, Table((), ()), Question((), ()), SOME_KEPT, SOME_BENCH, Bench()):
             for use in (iter, list, tuple, sorted, lambda it: [*it], dict, lambda it: max(it)):
                 with self.assertRaises(TypeError):
                     use(thing)
 
     def test_equality_takes_every_value(self):
         """[0.2]"""
-        for thing in (SOME_TABLE, SOME_QUESTION):
-            for value in ODD + (HUGE, LONG, (), [[]], {None: []}, object(), 1.5, b"", thing.lot):
+        for thing in (SOME_TABLE, SOME_QUESTION, SOME_KEPT):
+            for value in ODD + (HUGE, LONG, (), [[]], {None: []}, object(), 1.5, b"", (thing,)):
                 self.assertEqual((thing == value, thing != value, value == thing, value != thing),
                                  (False, True, False, True))
         for value in ODD + (HUGE, (HUGE, 1), SOME_TABLE, SOME_QUESTION, object(), (object(), 1), 1.5, ([], {}), b"ab"):
             self.assertEqual((value in SOME_TABLE, value not in SOME_TABLE), (False, True))
+            self.assertEqual((value in SOME_KEPT, value not in SOME_KEPT), (False, True))
 
 
 if __name__ == "__main__":

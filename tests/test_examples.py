@@ -5,11 +5,12 @@ from importlib import import_module
 
 MODULES = ("errors", "base.lots", "base.numbers", "table.tables", "table.joins", "letter.search", "exact.linear",
            "cover.covers", "rank.ranks", "rank.papers", "rank.degrees", "flow.flows", "flow.parts", "flow.plans",
-           "flow.rules", "reach.made", "letter.orders", "tree.webs", "tree.sums", "tree.bags", "tree.several")
+           "flow.rules", "reach.made", "letter.orders", "tree.webs", "tree.sums", "tree.bags", "tree.several",
+           "change.kept", "judge.judge", "judge.answers", "use.texts", "use.bench")
 # A module that has a name of an earlier one: its names are those of its own stage.
 ANEW = {"Stage 19: rules within one another": "within.maps"}
 
-LINES = 68
+LINES = 81
 BLOCKS = (
     ("Examples", """
 >>> THREE, RING = (0, 1, 2), ((0, 1), (0, 2), (1, 2))
@@ -217,6 +218,46 @@ raises InvalidOperation
 [True, False, True]
 >>> within_answer(ROAD, ((), (("e", (0, 1)),)))
 raises InvalidOperation
+"""),
+    ("Stage 20: answers that are kept", """
+>>> R, S = Table((0, 1), ((1, 1), (1, 2), (2, 2))), Table((1, 2), ((1, 5), (2, 5)))
+>>> Q = Question((0, 1, 2), (R, S, Table((0, 2), ((1, 5), (2, 6)))))
+>>> [brought(Q, 0, (1, 2))[0].rows, look_bounds(Q, 0), brought(Q, 1, (2, 6))[1]]
+[((1, 2, 5),), (1,), (1,)]
+>>> K = Kept(Q)
+>>> [len(K), K.put(1, (2, 6)).rows, K.put(1, (2, 6)).rows, len(K), K.looks, K.take(0, (1, 1)).rows, K.answer.rows, K.changes]
+[2, ((2, 2, 6),), (), 3, 1, ((1, 1, 5),), ((1, 2, 5), (2, 2, 6)), 2]
+>>> [K.undo().rows, K.undo().rows, K.answer == answer(Q), (1, 1, 5) in K, str(K)]
+[((1, 1, 5),), ((2, 2, 6),), True, True, 'kept question on 0 1 2, parts 0 1; 1 2; 0 2, 2 rows']
+>>> K.undo()
+raises Refused(('undo',))
+"""),
+    ("Stage 21: claims and papers", """
+>>> ABC, SIDES = (0, 1, 2), (((), (0, 1), 4), ((), (0, 2), 4), ((), (1, 2), 4))
+>>> FLOW = (((ABC, 2),), tuple([(low, high, 1) for low, high, k in SIDES]), (((0,), (1, 2), 1), ((0, 1), (0, 2), 1)), ())
+>>> [takes(("below", ABC, SIDES, 6, 1), FLOW), takes(("below", ABC, SIDES, 11, 2), FLOW), answered(("below", ABC, SIDES, 11, 2))[0][0], opposite(("cover", (ABC,), (3,), 2, 1))]
+[True, False, 'above', ('packing', ((0, 1, 2),), (3,), 2, 1)]
+>>> [takes(("stuck", ((0, 1), (0, 2), (1, 2))), ABC), takes(("at most", ((2,),), (3,), (1,), 3, 2), (2, (3,))), takes(("more", ((2,),), (3,), (1,), 1, 1), ("prices", (2, (1,))))]
+[True, True, True]
+>>> CLAIM = ("few", (0, 1), (((0, 1), ((1, 1), (1, 2), (2, 2))),), 2, 1)
+>>> [answered(CLAIM)[0][0], takes(opposite(CLAIM), ((1, 1), (1, 2), (2, 2))), answered(("few",) + CLAIM[1:3] + (1, 1))[0][0]]
+['few', False, 'many']
+>>> opposite(("folds",))
+raises InvalidClaim
+"""),
+    ("Stage 22: texts and a bench", """
+>>> T = read_table("table ac\\n-3,7\\n1,5\\n")
+>>> [T.lot, T.rows, lot_text(()), question_text(Question((), (Table((), ((),)),))), told_text((0, 1), (((), (0, 1), 4),))]
+[(0, 2), ((-3, 7), (1, 5)), '-', 'question -\\ntable -\\n.\\n', '- ab 4\\n']
+>>> read_table("table ac\\n1,5\\n1,05\\n")
+raises ParseError(2)
+>>> B = Bench()
+>>> [B.tell(line) for line in ("new r ab", "put r 0,1", "put r 1,1", "new s b", "put s 1", "ask r s", "answer", "bound")]
+['r: 0 rows', 'r: 1 rows', 'r: 2 rows', 's: 0 rows', 's: 1 rows', 'question on 0 1, parts 0 1; 1', '2 rows: 0,1 1,1', 'at most 2 ** (1 / 1)']
+>>> [B.tell("looks ba"), B.tell("fold"), B.tell("take r 0,1"), B.tell("answer"), B.tell("undo"), str(B), B.table("r").rows]
+['3 looks', 'folds', 'r: 1 rows', '2 rows: 0,1 1,1', 'undone', 'bench of 2 tables, 13 lines', ((0, 1), (1, 1))]
+>>> B.tell("put r 0,01")
+raises ParseError(2)
 """),
 )
 

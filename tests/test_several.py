@@ -264,6 +264,7 @@ class WrongArgumentsTest(unittest.TestCase):
         self.assertEqual(several_tables(*right[:3], (one, scaled_flow((0, 1, 2), other, 200)))[0], {(0, 1): SOME_TABLE})
         with patch.object(logs, "MOST_ENDS", 0):
             refused(self, TooMany, several_tables, right, 0)
+            refused(self, TooMany, several_tables, right[:3] + ((one, great),), 200)
 
     def test_too_many_choices_come_ahead_of_flows(self):
         question = Question(SIX, tuple(Table(lot, ((0,), (1,))) for lot in SINGLES))

@@ -117,7 +117,8 @@ def least_width(lots, told):
     """Any pair of the least width of all trees of bags, and of such a tree."""
     _check_narrow(lots, told)
     known, widths = {}, {}
-    for order in permutations(lots_on(lots)):
+    letters = list(lots_on(lots))
+    for order in permutations(letters):
         bags = _bags_along(lots, order)
         if bags not in widths:
             widths[bags] = _width(lots, told, bags, known)

@@ -1,7 +1,7 @@
 """Factors: worths of the rows of tables that hang in a tree, put together place by place.
 
-A *factor* is a pair of a tuple of letters, in any sequence, and of a dict from rows on them to their worths. Letters
-that are not wanted any more are summed out as soon as no other factor has them.
+A *factor* is a pair of letters, in any sequence, and of a dict from rows on them to their worths. Letters that are not
+wanted any more are summed out as soon as no other factor has them.
 """
 
 from crestjoin.errors import TooMany
@@ -19,17 +19,23 @@ def folded_totals(kind, factors, edges, kept):
     left = dict(factors)
     for place in factors:
         left[place] = _summed(kind, left[place], _wanted(left, (place,), kept))
-    open_edges = list(edges)
-    while open_edges:
+    edges_left = list(edges)
+    while edges_left:
         # The pair that makes least comes first: by any fixed sequence far more rows could be made than are told.
-        one, other = min([(_size(left[one], left[other]), one, other) for one, other in open_edges])[1:]
+        one, other = min([(_size(left[one], left[other]), one, other) for one, other in edges_left])[1:]
         left[one] = _merged(kind, left[one], left[other], _wanted(left, (one, other), kept), kept)
         del left[other]
-        open_edges = [_led(edge, other, one) for edge in open_edges if edge != (one, other)]
-    letters, totals = left[min(left)]
-    if len(totals) > MOST_JOINED:
+        edges_left = [_led(edge, other, one) for edge in edges_left if edge != (one, other)]
+    whole = left[min(left)]
+    if len(whole[1]) > MOST_JOINED:
         raise TooMany(MOST_JOINED)
-    return totals_at(kind, list(zip(parts_at(list(totals), letters, kept), totals.values())))
+    return totals_at(kind, _pairs_at(whole, kept))
+
+
+def _pairs_at(factor, wanted):
+    # For each row of the factor the pair of its part on the wanted letters, as these stand, and of its worth.
+    letters, worths = factor
+    return list(zip(parts_at(list(worths), letters, wanted), list(worths.values())))
 
 
 def _led(edge, gone, place):
@@ -44,9 +50,8 @@ def _wanted(factors, places, kept):
 
 
 def _summed(kind, factor, wanted):
-    letters, worths = factor
-    left = [letter for letter in letters if letter in wanted]
-    return (left, totals_at(kind, list(zip(parts_at(list(worths), letters, left), worths.values()))))
+    left = [letter for letter in factor[0] if letter in wanted]
+    return (left, totals_at(kind, _pairs_at(factor, left)))
 
 
 def _shared(one, other):
@@ -66,7 +71,7 @@ def _merged(kind, one, other, wanted, kept):
     shared = _shared(one, other)
     rest = [letter for letter in other[0] if letter not in shared]
     ends = {}
-    for row, worth in zip(parts_at(list(other[1]), other[0], shared + rest), other[1].values()):
+    for row, worth in _pairs_at(other, shared + rest):
         ends.setdefault(row[:len(shared)], []).append((row[len(shared):], worth))
     letters = [*one[0], *rest]
     left = [letter for letter in letters if letter in wanted]

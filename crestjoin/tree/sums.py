@@ -173,7 +173,7 @@ def is_best_row(question, tree, weights, value):
     _check_along(question, tree)
     _check_weights(question, weights)
     least = _whole_total(question, tree, weights, (LEAST,))
-    if least is None or not is_answer_row(question, value):
+    if not is_answer_row(question, value):
         return least is None and value is None
     places = list(zip(question.lots, weights))
     return sum([some[parts_at([value], question.lot, lot)[0]] for lot, some in places]) == least

@@ -187,9 +187,10 @@ def are_same(one, other):
     _check_one_head(one, other)
     head = one[0]
     letters, wanted = _letters_of(other[1]), sorted(set(one[1]))
-    if len(letters) != len(_letters_of(one[1])):
+    own = list(_letters_of(one[1]))
+    if len(letters) != len(own):
         return False
-    for order in permutations(_letters_of(one[1])):
+    for order in permutations(own):
         names = dict(zip(letters, order))
         if _led(head, names) == head and sorted(set([(name, _led(row, names)) for name, row in other[1]])) == wanted:
             return True

@@ -1,0 +1,1 @@
+"""Answers that are kept while tables change."""

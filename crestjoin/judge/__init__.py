@@ -1,0 +1,1 @@
+"""Claims and papers, and a checker that takes them."""

@@ -1,0 +1,1 @@
+"""Texts of values, and a bench that is told lines."""
