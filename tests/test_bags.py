@@ -261,7 +261,7 @@ class WidthTest(unittest.TestCase):
             self.assertIs(is_least_width(lots, told, found), True)
             self.assertTrue(are_bags_plainly(lots, *found[1]))
             seen[least is None] += 1
-            for _ in range(2):
+            for _ in range(1):
                 drawn = drawn_bags(chance, lots)
                 if drawn is not None:
                     other = width_plainly(letters, told, drawn[0])

@@ -116,7 +116,11 @@ def _is_less(one, other):
 def least_width(lots, told):
     """Any pair of the least width of all trees of bags, and of such a tree."""
     _check_narrow(lots, told)
-    known, widths = {}, {}
+    return _least_width(lots, told, {})
+
+
+def _least_width(lots, told, known):
+    widths = {}
     letters = list(lots_on(lots))
     for order in permutations(letters):
         bags = _bags_along(lots, order)
@@ -136,4 +140,5 @@ def is_least_width(lots, told, value):
         return False
     if value[0] is not None and not are_from_nought(value[0]):
         return False
-    return value[0] == _width(lots, told, value[1][0], {}) and value[0] == least_width(lots, told)[0]
+    known = {}
+    return value[0] == _width(lots, told, value[1][0], known) and value[0] == _least_width(lots, told, known)[0]
